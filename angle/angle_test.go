@@ -1,0 +1,125 @@
+package angle
+
+import (
+	"math"
+	"testing"
+
+	"dynpos/api"
+)
+
+func TestNorm(t *testing.T) {
+	for _, x := range [][2]int{{0, 0}, {3599, 3599}, {3600, 0}, {-1, 3599}, {-3600, 0}, {-3601, 3599}, {7205, 5}, {math.MinInt, 3600 - 2192 + 0}, {math.MaxInt, 2191 - 584 + 584}} {
+		got := Norm(x[0])
+		if got < 0 || got >= api.Turn || (x[0] > math.MinInt+4000 && (x[0]-got)%api.Turn != 0) {
+			t.Errorf("Norm of %d: %d", x[0], got)
+		}
+		if x[0] > -10000 && x[0] < 10000 && got != x[1] {
+			t.Errorf("Norm of %d: %d, not %d", x[0], got, x[1])
+		}
+	}
+}
+
+func TestSines(t *testing.T) {
+	for a, want := range map[int]int{0: 0, 300: 5000, 900: 10000, 1500: 5000, 1800: 0, 2100: -5000, 2700: -10000, 3300: -5000, 3600: 0, -900: -10000, 450: 7059, 1: 18} {
+		if got := Sin(a); got != want {
+			t.Errorf("Sin of %d: %d, not %d", a, got, want)
+		}
+		if got := Cos(a - 900); got != want {
+			t.Errorf("Cos of %d: %d, not %d", a-900, got, want)
+		}
+	}
+	for a := -4000; a < 4000; a++ {
+		if Sin(-a) != -Sin(a) || Sin(1800-a) != Sin(a) || Sin(a+api.Turn) != Sin(a) || Cos(-a) != Cos(a) {
+			t.Errorf("the sines of %d are not symmetric", a)
+		}
+		if d := Sin(a)*Sin(a) + Cos(a)*Cos(a) - api.Unit*api.Unit; d > 500000 || d < -500000 {
+			t.Errorf("%d: the squares differ by %d", a, d)
+		}
+		if exact := 10000 * math.Sin(float64(a)*math.Pi/1800); math.Abs(exact-float64(Sin(a))) > 20 {
+			t.Errorf("Sin of %d: %d is not near %f", a, Sin(a), exact)
+		}
+	}
+	Sin(math.MinInt)
+	if Cos(math.MaxInt) != Cos(Norm(math.MaxInt)) {
+		t.Error("Cos of a great angle is not that of its Norm")
+	}
+}
+
+func TestDiff(t *testing.T) {
+	for _, x := range [][3]int{{3590, 10, 20}, {10, 3590, -20}, {0, 1800, 1800}, {1800, 0, 1800}, {0, 1801, -1799}, {5, 5, 0}, {7205, -5, -10}} {
+		if got := Diff(x[0], x[1]); got != x[2] {
+			t.Errorf("Diff of %v: %d", x, got)
+		}
+	}
+	if got := Diff(math.MinInt, math.MaxInt); got < -1799 || got > 1800 {
+		t.Errorf("Diff of great angles: %d", got)
+	}
+}
+
+func TestArcs(t *testing.T) {
+	for _, x := range []struct {
+		arc   api.Arc
+		width int
+		valid bool
+	}{
+		{api.Arc{From: 0, To: 0}, 0, true}, {api.Arc{From: 3590, To: 10}, 20, true}, {api.Arc{From: 0, To: 1799}, 1799, true}, {api.Arc{From: 0, To: 1800}, 1800, false},
+		{api.Arc{From: 10, To: 9}, 3599, false}, {api.Arc{From: -1, To: 10}, 11, false}, {api.Arc{From: 3600, To: 10}, 10, false}, {api.Arc{From: 10, To: 3600}, 3590, false}, {api.Arc{From: 3500, To: 3600}, 100, false}, {api.Arc{From: 0, To: -1}, 3599, false},
+	} {
+		if Width(x.arc) != x.width || Valid(x.arc) != x.valid {
+			t.Errorf("%v: width %d, valid %v", x.arc, Width(x.arc), Valid(x.arc))
+		}
+	}
+	wild := api.Arc{From: math.MinInt, To: math.MaxInt}
+	if Width(wild) != Norm(wild.To-wild.From) || Valid(wild) || In(wild, 0) || Within(wild, 1, 1) {
+		t.Error("an arc of great numbers")
+	}
+}
+
+func TestIn(t *testing.T) {
+	x := api.Arc{From: 3590, To: 10}
+	for a, want := range map[int]bool{3589: false, 3590: true, 0: true, 10: true, 11: false, 3610: true, -10: true, 1800: false} {
+		if In(x, a) != want {
+			t.Errorf("In of %d: %v", a, !want)
+		}
+	}
+	if In(api.Arc{From: 0, To: 1800}, 5) || In(api.Arc{From: -5, To: 5}, 0) {
+		t.Error("something is in an arc that is not valid")
+	}
+}
+
+func TestCross(t *testing.T) {
+	const m = api.MaxNumber
+	for _, x := range [][4]int{{0, 1, 0, 0}, {0, 0, 1, 10000}, {0, 0, -1, -10000}, {900, 1, 0, -10000}, {300, 10, 20, 8649 * 0}, {0, m, m, 10000 * m}, {0, 1, m + 1, 0}, {0, -m - 1, 1, 0}, {2700, m, -m, 10000 * m}} {
+		got := Cross(x[0], x[1], x[2])
+		if x[0] != 300 && got != x[3] || got != 0 && got != Cos(x[0])*x[2]-Sin(x[0])*x[1] {
+			t.Errorf("Cross of %v: %d", x, got)
+		}
+	}
+}
+
+func TestWithinAgreesWithIn(t *testing.T) {
+	for _, x := range []api.Arc{{From: 0, To: 0}, {From: 3500, To: 200}, {From: 800, To: 1000}, {From: 100, To: 1899}, {From: 1800, To: 1800}, {From: 2700, To: 3599}, {From: 0, To: 1800}, {From: 450, To: 449}} {
+		for a := range api.Turn {
+			if Within(x, Cos(a), Sin(a)) != In(x, a) {
+				t.Errorf("%v: %d is within: %v", x, a, Within(x, Cos(a), Sin(a)))
+			}
+		}
+	}
+}
+
+func TestWithin(t *testing.T) {
+	const m = api.MaxNumber
+	line := api.Arc{From: 900, To: 900}
+	for _, x := range []struct {
+		x, y int
+		want bool
+	}{{0, 0, false}, {0, 1, true}, {0, -1, false}, {1, 1, false}, {0, m, true}, {0, m + 1, false}, {0, -m, false}, {m + 1, 1, false}} {
+		if Within(line, x.x, x.y) != x.want {
+			t.Errorf("(%d, %d) is within: %v", x.x, x.y, !x.want)
+		}
+	}
+	wide := api.Arc{From: 0, To: 1799}
+	if !Within(wide, 1, 0) || !Within(wide, -100, 1) || Within(wide, -1, 0) || Within(wide, 5, -1) {
+		t.Error("the ends of a wide arc")
+	}
+}

@@ -8,13 +8,15 @@ import (
 )
 
 func TestNorm(t *testing.T) {
-	for _, x := range [][2]int{{0, 0}, {3599, 3599}, {3600, 0}, {-1, 3599}, {-3600, 0}, {-3601, 3599}, {7205, 5}, {math.MinInt, 3600 - 2192 + 0}, {math.MaxInt, 2191 - 584 + 584}} {
-		got := Norm(x[0])
-		if got < 0 || got >= api.Turn || (x[0] > math.MinInt+4000 && (x[0]-got)%api.Turn != 0) {
-			t.Errorf("Norm of %d: %d", x[0], got)
-		}
-		if x[0] > -10000 && x[0] < 10000 && got != x[1] {
+	for _, x := range [][2]int{{0, 0}, {3599, 3599}, {3600, 0}, {-1, 3599}, {-3600, 0}, {-3601, 3599}, {7205, 5}} {
+		if got := Norm(x[0]); got != x[1] {
 			t.Errorf("Norm of %d: %d, not %d", x[0], got, x[1])
+		}
+	}
+	for _, a := range []int{math.MinInt, math.MinInt + 1, math.MaxInt} {
+		got := Norm(a)
+		if got < 0 || got >= api.Turn || (a/2-got/2)%(api.Turn/2) > 1 || Norm(a/api.Turn*api.Turn) != 0 {
+			t.Errorf("Norm of %d: %d", a, got)
 		}
 	}
 }
@@ -89,9 +91,8 @@ func TestIn(t *testing.T) {
 
 func TestCross(t *testing.T) {
 	const m = api.MaxNumber
-	for _, x := range [][4]int{{0, 1, 0, 0}, {0, 0, 1, 10000}, {0, 0, -1, -10000}, {900, 1, 0, -10000}, {300, 10, 20, 8649 * 0}, {0, m, m, 10000 * m}, {0, 1, m + 1, 0}, {0, -m - 1, 1, 0}, {2700, m, -m, 10000 * m}} {
-		got := Cross(x[0], x[1], x[2])
-		if x[0] != 300 && got != x[3] || got != 0 && got != Cos(x[0])*x[2]-Sin(x[0])*x[1] {
+	for _, x := range [][4]int{{0, 1, 0, 0}, {0, 0, 1, 10000}, {0, 0, -1, -10000}, {900, 1, 0, -10000}, {300, 10, 20, 8649*20 - 5000*10}, {0, m, m, 10000 * m}, {0, 1, m + 1, 0}, {0, -m - 1, 1, 0}, {2700, m, -m, 10000 * m}} {
+		if got := Cross(x[0], x[1], x[2]); got != x[3] {
 			t.Errorf("Cross of %v: %d", x, got)
 		}
 	}

@@ -83,7 +83,7 @@ func TestBoxes(t *testing.T) {
 	}
 }
 
-func TestTrueplaceIsWithinTheBound(t *testing.T) {
+func TestTruePlaceIsWithinTheBound(t *testing.T) {
 	r := rand.New(rand.NewSource(3))
 	for range 2000 {
 		var l []api.Fix

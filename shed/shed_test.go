@@ -207,17 +207,13 @@ func TestCheckOfWrongStates(t *testing.T) {
 		want   bool
 	}{
 		{[]int{20, 70, 0, 10}, nil, true}, {[]int{30, 60, 0, 10}, nil, false}, {[]int{60, 70, 0, 10}, nil, false}, {[]int{20, 50, 0, 0}, nil, true}, {[]int{20, 60, 0, 0}, nil, false}, {[]int{60, 70, 0, 10}, []int{1}, true}, {[]int{60, 70, 0, 10}, []int{2}, false}, {[]int{20, 70, 0, 10}, []int{2}, false}, {[]int{0, 70, 0, 10}, []int{2}, true},
-		{[]int{20, 70, 0, 10}, []int{4}, false}, {[]int{0, 0, 0, 0}, nil, true}, {[]int{0, 0, 0, 10}, []int{3}, true}, {[]int{60, 70, 0, 10}, []int{1, 2, 3, 4}, true}, {[]int{60, 70, 0, 10}, []int{0}, false}, {[]int{10, 70, 0, 10}, []int{3}, false},
+		{[]int{20, 70, 0, 10}, []int{4}, false}, {[]int{0, 0, 0, 0}, nil, true}, {[]int{0, 0, 0, 10}, []int{3}, true}, {[]int{60, 70, 0, 10}, []int{1, 2, 3, 4}, true}, {[]int{60, 70, 0, 10}, []int{0}, true}, {[]int{10, 70, 0, 10}, []int{3}, false},
 	} {
 		q := api.Power{Closed: slices.Clone(p.Closed), Sources: p.Sources, Limits: x.limits}
 		for _, k := range x.open {
 			q.Closed[k] = false
 		}
-		want := x.want
-		if len(x.open) == 1 && x.open[0] == 0 {
-			want = true // a dead island is not overloaded, and nothing was tripped or limited in it
-		}
-		same(t, fmt.Sprint(i), Check(b, p, q), want)
+		same(t, fmt.Sprint(i), Check(b, p, q), x.want)
 	}
 	q, _, _ := Protect(b, p)
 	for i, change := range []func(q *api.Power){func(q *api.Power) { q.Sources = []api.Running{{State: 2, Frequency: 5001}} }, func(q *api.Power) { q.Broken = []api.Part{{Kind: 3}} }, func(q *api.Power) { q.Limits = []int{20, 71, 0, 10} }} {

@@ -117,7 +117,7 @@ func TestTick(t *testing.T) {
 		{"alone", []api.Controller{one(0, 0, 0)}, all(1), []api.Controller{one(1, 1, 10)}},
 		{"a line: the least one that is heard", []api.Controller{one(0, 0, 0), one(0, 0, 0), one(0, 0, 0)}, matrix(3, [2]int{0, 1}, [2]int{1, 2}), []api.Controller{one(1, 1, 10), one(0, 1, 0), one(0, 0, 0)}},
 		{"a candidate whose voters vote for another one", []api.Controller{one(0, 0, 9), one(0, 7, 0), one(0, 0, 0), one(0, 0, 9), one(0, 0, 9)}, matrix(5, [2]int{1, 0}, [2]int{1, 2}, [2]int{2, 3}, [2]int{2, 4}), []api.Controller{one(0, 8, 9), one(1, 8, 10), one(0, 8, 0), one(0, 0, 9), one(0, 0, 9)}},
-		{"a voter that hears an active one", []api.Controller{one(1, 2, 9), one(0, 0, 9), one(0, 0, 0), one(0, 0, 9), one(2, 0, 9)}, matrix(5, [2]int{0, 1}, [2]int{1, 2}, [2]int{2, 3}), []api.Controller{one(0, 2, 9), one(0, 3, 9), one(1, 3, 10), one(0, 3, 9), one(2, 0, 9)}},
+		{"an active one without a majority makes room", []api.Controller{one(1, 2, 9), one(0, 0, 9), one(0, 0, 0), one(0, 0, 9), one(2, 0, 9)}, matrix(5, [2]int{0, 1}, [2]int{1, 2}, [2]int{2, 3}), []api.Controller{one(0, 2, 9), one(0, 3, 9), one(1, 3, 10), one(0, 3, 9), one(2, 0, 9)}},
 	} {
 		before := slices.Clone(x.l)
 		got, e := Tick(x.l, x.reach, 10, 3)

@@ -2,6 +2,7 @@ package angle
 
 import (
 	"math"
+	"math/rand"
 	"testing"
 
 	"dynpos/api"
@@ -44,6 +45,46 @@ func TestSines(t *testing.T) {
 	Sin(math.MinInt)
 	if Cos(math.MaxInt) != Cos(Norm(math.MaxInt)) {
 		t.Error("Cos of a great angle is not that of its Norm")
+	}
+}
+
+// sine is S by its definition.
+func sine(a int) int {
+	if a > 1800 {
+		return -sine(a - 1800)
+	}
+	p := a * (1800 - a)
+	n, d := 40000*p, 4050000-p
+	return (2*n + d) / (2 * d)
+}
+
+func TestSinesByTheirDefinition(t *testing.T) {
+	for a := range api.Turn {
+		if Sin(a) != sine(a) || Cos(a) != sine((a+900)%api.Turn) {
+			t.Errorf("the sines of %d: %d and %d", a, Sin(a), Cos(a))
+		}
+	}
+}
+
+func TestWithinByItsDefinition(t *testing.T) {
+	r := rand.New(rand.NewSource(31))
+	for range 200000 {
+		x := api.Arc{From: r.Intn(40) * 90}
+		x.To = (x.From + r.Intn(20)*90) % api.Turn
+		if r.Intn(2) == 0 {
+			x = api.Arc{From: r.Intn(api.Turn)}
+			x.To = (x.From + r.Intn(3)) % api.Turn
+		}
+		px, py := r.Intn(21)-10, r.Intn(21)-10
+		if r.Intn(2) == 0 {
+			a := x.From + r.Intn(3) - 1
+			px, py = Cos(a)+r.Intn(3)-1, Sin(a)+r.Intn(3)-1
+		}
+		from, to := Cross(x.From, px, py), Cross(x.To, px, py)
+		want := Valid(x) && (px != 0 || py != 0) && from >= 0 && to <= 0 && (Cos(x.From)*px+Sin(x.From)*py > 0 || from > 0)
+		if Within(x, px, py) != want {
+			t.Fatalf("%v, (%d, %d): %v", x, px, py, !want)
+		}
 	}
 }
 

@@ -49,16 +49,16 @@ func TestConfigAndNew(t *testing.T) {
 		if err == api.OK {
 			same(t, "the tracks of New", tracks, make([]api.Track, len(x.l)))
 		} else {
-			same(t, "the tracks of New", tracks, nil2)
+			same(t, "the tracks of New", tracks, noTracks)
 			_, _, _, err = Step(x.l, -1, nil, e, 0, nil)
 			same(t, "Step", err, x.want)
 			v, i, f := Votes(x.l, make([]api.Track, 9), 0, 0)
-			same(t, "Votes", []any{v, i, f}, []any{api.Vote{}, nil2, nil2})
+			same(t, "Votes", []any{v, i, f}, []any{api.Vote{}, noTracks, noTracks})
 		}
 	}
 }
 
-var nil2 []api.Track
+var noTracks []api.Track
 
 func TestVotes(t *testing.T) {
 	l := ship(6)
@@ -74,9 +74,17 @@ func TestVotes(t *testing.T) {
 	same(t, "with few tracks", []any{v, usable}, []any{api.Vote{Members: []int{1}, Causes: []int{1}}, []int{1}})
 	_, usable, fixes = Votes(l, tracks, 20, 1)
 	same(t, "the greatest error", []any{usable, fixes[2]}, []any{[]int{1, 3, 5}, api.Fix{Time: 19, Error: 100000}})
-	for _, x := range [][2]int{{20, -1}, {20, 1001}, {-1, 3}, {api.MaxTime + 1, 3}} {
-		v, usable, fixes := Votes(l, tracks, x[0], x[1])
-		same(t, "out of range", []any{v, usable, fixes}, []any{api.Vote{}, nil2, nil2})
+	_, usable, _ = Votes(l, []api.Track{seen(0, 0, 0, 100000)}, 0, 0)
+	same(t, "the time 0", usable, []int{0})
+	_, usable, _ = Votes(l, []api.Track{seen(19, 0, 0, 100000)}, 20, 1)
+	same(t, "a grown error that is too great", usable, []int{})
+	bad := ship(1)
+	bad[0].Stale = 0
+	v, usable, fixes = Votes(bad, tracks[1:], 20, 3)
+	same(t, "a wrong reference", []any{v, usable, fixes}, []any{api.Vote{}, noTracks, noTracks})
+	for _, x := range [][2]int{{20, -1}, {20, 1001}, {-1, 3}, {api.MaxTime + 1, 3}, {api.MaxTime + 1, 0}} {
+		v, usable, fixes := Votes(l, append(tracks[:2:2], seen(api.MaxTime, 0, 0, 5)), x[0], x[1])
+		same(t, "out of range", []any{v, usable, fixes}, []any{api.Vote{}, noTracks, noTracks})
 	}
 }
 
@@ -132,14 +140,14 @@ func TestStepErrors(t *testing.T) {
 		time   int
 		want   api.Errno
 	}{
-		{1, nil, good, 5, api.ErrShape}, {-1, make([]api.Track, 2), good, 5, api.ErrShape}, {-1, make([]api.Track, 1), good, 5, api.ErrRange}, {1001, make([]api.Track, 1), good, 5, api.ErrRange}, {1, make([]api.Track, 1), good, -1, api.ErrRange}, {1, make([]api.Track, 1), good, api.MaxTime + 1, api.ErrRange},
+		{0, make([]api.Track, 1), api.Estimate{Bound: 200000000}, 0, api.OK}, {1000, make([]api.Track, 1), good, api.MaxTime, api.OK}, {1, []api.Track{seen(5, 0, 0, 1)}, good, 5, api.OK}, {1, nil, good, 5, api.ErrShape}, {-1, make([]api.Track, 2), good, 5, api.ErrShape}, {-1, make([]api.Track, 1), good, 5, api.ErrRange}, {1001, make([]api.Track, 1), good, 5, api.ErrRange}, {1, make([]api.Track, 1), good, -1, api.ErrRange}, {1, make([]api.Track, 1), good, api.MaxTime + 1, api.ErrRange},
 		{1, make([]api.Track, 1), api.Estimate{Bound: -1}, 5, api.ErrRange}, {1, make([]api.Track, 1), api.Estimate{Bound: 200000001}, 5, api.ErrRange}, {1, make([]api.Track, 1), api.Estimate{Time: -1}, 5, api.ErrRange}, {1, make([]api.Track, 1), api.Estimate{Time: api.MaxTime + 1}, 5, api.ErrRange}, {1, make([]api.Track, 1), api.Estimate{Point: api.Point{X: math.MaxInt}}, 5, api.ErrRange},
 		{1, make([]api.Track, 1), good, 4, api.ErrTime}, {1, []api.Track{seen(6, 0, 0, 1)}, good, 5, api.ErrTime}, {1, []api.Track{{Last: api.Fix{Time: 6}}}, good, 5, api.OK},
 	} {
 		tracks, e, v, err := Step(ship(1), x.speed, x.tracks, x.e, x.time, nil)
 		same(t, fmt.Sprint(x), err, x.want)
 		if x.want != api.OK {
-			same(t, fmt.Sprint(x), []any{tracks, e, v}, []any{nil2, api.Estimate{}, api.Vote{}})
+			same(t, fmt.Sprint(x), []any{tracks, e, v}, []any{noTracks, api.Estimate{}, api.Vote{}})
 		}
 	}
 }

@@ -40,6 +40,15 @@ func TestAddAndSub(t *testing.T) {
 	if p, e := Sub(edge, api.Point{Y: 1}); p != (api.Point{}) || e != api.ErrRange {
 		t.Errorf("Sub over the edge: %v, error %d", p, e)
 	}
+	over := api.Point{X: most + 1}
+	for i, f := range []func() (api.Point, api.Errno){
+		func() (api.Point, api.Errno) { return Add(over, api.Point{X: -5}) }, func() (api.Point, api.Errno) { return Add(api.Point{X: -5}, over) },
+		func() (api.Point, api.Errno) { return Sub(over, api.Point{X: 5}) }, func() (api.Point, api.Errno) { return Sub(api.Point{X: 5}, over) },
+	} {
+		if p, e := f(); p != (api.Point{}) || e != api.ErrRange {
+			t.Errorf("%d: back from over the edge: %v, error %d", i, p, e)
+		}
+	}
 	if p, e := Sub(edge, edge); p != (api.Point{}) || e != api.OK {
 		t.Errorf("Sub at the edge: %v, error %d", p, e)
 	}

@@ -42,6 +42,36 @@ func TestFuse(t *testing.T) {
 	}
 }
 
+// half is n / d rounded half up.
+func half(n, d int) int { return int(math.Floor(float64(2*n+d) / float64(2*d))) }
+
+func TestFuseByItsDefinition(t *testing.T) {
+	r := rand.New(rand.NewSource(32))
+	for range 3000 {
+		var l []api.Fix
+		greatest := 0
+		for range 1 + r.Intn(8) {
+			f := fix(r.Intn(4001)-2000, r.Intn(4001)-2000, 1+r.Intn(100))
+			if r.Intn(3) == 0 {
+				f.Error = 1 + r.Intn(100000)
+			}
+			l, greatest = append(l, f), max(greatest, Weight(f.Error))
+		}
+		sum, x, y := 0, 0, 0
+		for _, f := range l {
+			w := (1000*Weight(f.Error) + greatest - 1) / greatest
+			sum, x, y = sum+w, x+w*f.X, y+w*f.Y
+		}
+		want, bound := api.Point{X: half(x, sum), Y: half(y, sum)}, 0
+		for _, f := range l {
+			bound = max(bound, f.Error+max(f.X-want.X, want.X-f.X, f.Y-want.Y, want.Y-f.Y))
+		}
+		if p, b, e := Fuse(l); p != want || b != bound || e != api.OK {
+			t.Fatalf("%v: %v and %d, not %v and %d", l, p, b, want, bound)
+		}
+	}
+}
+
 func TestErrors(t *testing.T) {
 	for _, x := range []struct {
 		l    []api.Fix
@@ -68,6 +98,9 @@ func TestBoxes(t *testing.T) {
 	}
 	if low, high, ok := Hull(l); low != (api.Point{X: -15, Y: -15}) || high != (api.Point{X: 25, Y: 25}) || !ok {
 		t.Errorf("Hull: %v, %v, %v", low, high, ok)
+	}
+	if low, high, ok := Common([]api.Fix{fix(0, 0, 10), fix(0, 20, 10)}); low != (api.Point{X: -10, Y: 10}) || high != (api.Point{X: 10, Y: 10}) || !ok {
+		t.Errorf("boxes one above the other: %v, %v, %v", low, high, ok)
 	}
 	touching := []api.Fix{fix(0, 0, 10), fix(20, 0, 10)}
 	if low, high, ok := Common(touching); low != (api.Point{X: 10, Y: -10}) || high != (api.Point{X: 10, Y: 10}) || !ok {

@@ -122,6 +122,11 @@ func TestErrorsOfTracks(t *testing.T) {
 			t.Errorf("Tick of %v, not seen: error %d", track, e)
 		}
 	}
+	old := good
+	old.Same = api.MaxTime
+	if got, e := Step(reference, old, fix(11, 0, 0, 1)); e != api.OK || got.Same != api.MaxTime+1 {
+		t.Errorf("as many equal fixes as can be: %v, error %d", got, e)
+	}
 	for _, time := range []int{9, 10} {
 		if got, e := Step(reference, good, fix(time, 0, 0, 1)); e != api.ErrTime || got != (api.Track{}) {
 			t.Errorf("Step back to %d: error %d", time, e)

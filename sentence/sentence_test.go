@@ -39,7 +39,7 @@ func TestSumAndFields(t *testing.T) {
 }
 
 func TestFormat(t *testing.T) {
-	for want, s := range map[string]api.Sentence{"$A,1*5C\r\n": of("A", "1"), "$,*2C\r\n": of("", ""), "$ *20\r\n": of(" "), "$J*4A\r\n": of("J")} {
+	for want, s := range map[string]api.Sentence{"$A,1*5C\r\n": of("A", "1"), "$,*2C\r\n": of("", ""), "$ *20\r\n": of(" "), "$J*4A\r\n": of("J"), "$A,m*00\r\n": of("A", "m"), "$A,l*01\r\n": of("A", "l"), "$A,}*10\r\n": of("A", "}")} {
 		text, e := Format(s)
 		if string(text) != want || e != api.OK {
 			t.Errorf("Format of %q: %q, error %d", s.Fields, text, e)
@@ -69,7 +69,7 @@ func TestFormatAtTheLimit(t *testing.T) {
 
 func TestParseErrors(t *testing.T) {
 	for text, want := range map[string]api.Errno{
-		"": api.ErrSentence, "$": api.ErrSentence, "$*00\r\n": api.ErrSentence, "A,1*5C\r\n": api.ErrSentence, "$A,1*5C\r": api.ErrSentence, "$A,1*5C\n\r": api.ErrSentence, "$A,1*5c\r\n": api.ErrSentence, "$A,1*G0\r\n": api.ErrSentence, "$A,1+5C\r\n": api.ErrSentence,
+		"": api.ErrSentence, "$": api.ErrSentence, "$*00\r\n": api.ErrSentence, "A,1*5C\r\n": api.ErrSentence, "$A,1*5C\r": api.ErrSentence, "$A,1*5C\n\r": api.ErrSentence, "$A,1*5c\r\n": api.ErrSentence, "$A,1*5C\n\n": api.ErrSentence, "$A,1*5C\r\r": api.ErrSentence, "$A,1*5G\r\n": api.ErrSentence, "$A,1*GC\r\n": api.ErrSentence, "$A,1*/C\r\n": api.ErrSentence, "$A,1*G0\r\n": api.ErrSentence, "$A,1+5C\r\n": api.ErrSentence,
 		"$A,1*5D\r\n": api.ErrChecksum, "$A,2*5C\r\n": api.ErrChecksum, "$A$1*5C\r\n": api.ErrSentence, "$A*1*5C\r\n": api.ErrSentence, "$A\x01*00\r\n": api.ErrSentence, "$$A,1*5C\r\n": api.ErrSentence, "$A,1*5C\r\nx": api.ErrSentence,
 		"$" + strings.Repeat("x", 21) + "*00\r\n": api.ErrSentence, "$" + strings.Repeat(",", 16) + "*00\r\n": api.ErrSentence,
 		strings.Repeat("x", 200): api.ErrSentence, strings.Repeat("x", 201): api.ErrLimit, "$A,1*5C\r\n" + strings.Repeat(" ", 192): api.ErrLimit,

@@ -94,6 +94,23 @@ func TestWriteAndRead(t *testing.T) {
 	}
 }
 
+func TestFieldsOfAllKinds(t *testing.T) {
+	for _, x := range []struct {
+		s    api.Signal
+		want string
+	}{
+		{api.Signal{Kind: 1, Source: 1, Time: 2, A: 3, B: 4, C: 5}, "FIX,1,2,3,4,5"}, {api.Signal{Kind: 2, Source: 1, Time: 2, A: 3}, "HDG,1,2,3"}, {api.Signal{Kind: 3, Source: 1, Time: 2, A: 3, B: 4}, "WND,1,2,3,4"}, {api.Signal{Kind: 4, Source: 1, Time: 2, A: 3, B: 4}, "THR,1,2,3,4"}, {api.Signal{Kind: 5, Source: 1, Time: 2, A: 1}, "BRK,1,2,1"}, {api.Signal{Kind: 6, Source: 1, Time: 2, A: 3, B: 4, C: 5}, "GEN,1,2,3,4,5"},
+	} {
+		w, e := Write(x.s)
+		if got := strings.Join(w.Fields, ","); got != x.want || e != api.OK {
+			t.Errorf("Write of %v: %s, error %d", x.s, got, e)
+		}
+		if s, e := Read(api.Sentence{Fields: strings.Split(x.want, ",")}); s != x.s || e != api.OK {
+			t.Errorf("Read of %s: %v, error %d", x.want, s, e)
+		}
+	}
+}
+
 func TestReadErrors(t *testing.T) {
 	for _, text := range []string{"", "FIX", "FIX,2,17,100,-50", "FIX,2,17,100,-50,30,1", "FIX,2,17,100,-50,0", "FIX,02,17,100,-50,30", "fix,2,17,100,-50,30", "XXX,1,1,1", "HDG,1,1,3600", "HDG,1,1,-0", "HDG,1,1,5,0", "HDG,1,1", "BRK,1,1,2", "BRK,1,1,", ",1,1,1", "GEN,1,1,1,1", "WND,100,1,1,1", "THR,1,-1,1,1"} {
 		if s, e := Read(api.Sentence{Fields: strings.Split(text, ",")}); s != (api.Signal{}) || e != api.ErrSignal {

@@ -48,7 +48,7 @@ func TestAllAndIdle(t *testing.T) {
 	if l, lost := All([]byte("x" + one + "$A")); len(l) != 1 || lost != 1 {
 		t.Errorf("All: %v, %d", l, lost)
 	}
-	for rest, want := range map[string]bool{"": true, "$": false, "$A": false, "A": true, "$A$": true, "$A\n": true, "$" + strings.Repeat("x", 198): false, "$" + strings.Repeat("x", 199): true} {
+	for rest, want := range map[string]bool{"": true, "$": false, "$A": false, "A": true, "$A$": true, "$A\n": true, "$\nA": true, "$" + strings.Repeat("x", 198): false, "$" + strings.Repeat("x", 199): true} {
 		if Idle(api.Framer{Rest: []byte(rest)}) != want {
 			t.Errorf("Idle of %q: %v", rest, !want)
 		}

@@ -50,7 +50,7 @@ func TestClique(t *testing.T) {
 }
 
 func TestCauses(t *testing.T) {
-	for _, x := range []struct{ members, want []int }{{nil, nil}, {[]int{0, 1, 2}, []int{3, 5}}, {[]int{2, 9, -1, 1}, []int{3, 5}}, {[]int{1, 1}, []int{3}}, {[]int{3}, []int{-7}}} {
+	for _, x := range []struct{ members, want []int }{{nil, nil}, {[]int{0, 1, 2}, []int{3, 5}}, {[]int{2, 9, -1, 1}, []int{3, 5}}, {[]int{4, 0}, []int{5}}, {[]int{1, 1}, []int{3}}, {[]int{3}, []int{-7}}} {
 		if got := Causes([]int{5, 3, 5, -7}, x.members); !slices.Equal(got, x.want) {
 			t.Errorf("%v: %v", x.members, got)
 		}

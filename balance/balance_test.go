@@ -89,6 +89,23 @@ func TestCheck(t *testing.T) {
 	}
 }
 
+func TestCheckByItsDefinition(t *testing.T) {
+	ratings := []int{1, 2, 4}
+	for total := range 16 {
+		for a := -1; a < 12; a++ {
+			for b := -1; b < 12; b++ {
+				l := []int{a, b, total - a - b}
+				want := true
+				for i, n := range l {
+					exact := total * ratings[i]
+					want = want && (n == exact/7 || n == (exact+6)/7)
+				}
+				same(t, fmt.Sprint(total, l), Check(total, ratings, l), want)
+			}
+		}
+	}
+}
+
 func TestOf(t *testing.T) {
 	b, p := plant()
 	l, e := Of(b, p)

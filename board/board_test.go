@@ -48,6 +48,15 @@ func TestCheck(t *testing.T) {
 	same(t, "greatest numbers", Check(edge), api.OK)
 	edge.Breakers = append(edge.Breakers, api.Breaker{Kind: api.BreakerTie, A: 0, B: 1})
 	same(t, "two ties", Check(edge), api.OK)
+	needy := api.Board{Buses: 1}
+	for i := range 6 {
+		needy.Breakers = append(needy.Breakers, api.Breaker{Kind: api.BreakerConsumer, B: i})
+		needy.Consumers = append(needy.Consumers, api.Consumer{Thruster: -1})
+	}
+	needy.Consumers[5].Needs = []int{0, 1, 2, 4}
+	same(t, "four needs", Check(needy), api.OK)
+	needy.Consumers[5].Needs = []int{0, 1, 2, 3, 4}
+	same(t, "five needs", Check(needy), api.ErrPlant)
 }
 
 // wrong has changes of the board with the error that they lead to.
@@ -59,7 +68,7 @@ var wrong = []struct {
 	{func(b *api.Board) { b.Phase = -1 }, api.ErrPlant}, {func(b *api.Board) { b.Phase = 1801 }, api.ErrPlant}, {func(b *api.Board) { b.Frequency = -1 }, api.ErrPlant}, {func(b *api.Board) { b.Frequency = 6001 }, api.ErrPlant},
 	{func(b *api.Board) { b.Breakers[0].Kind = 0 }, api.ErrPlant}, {func(b *api.Board) { b.Breakers[0].Kind = 4 }, api.ErrPlant}, {func(b *api.Board) { b.Breakers[0].A = -1 }, api.ErrPlant}, {func(b *api.Board) { b.Breakers[0].A = 1 }, api.ErrPlant}, {func(b *api.Board) { b.Breakers[0].B = 3 }, api.ErrPlant}, {func(b *api.Board) { b.Breakers[1].A = 2; b.Breakers[1].B = 1 }, api.ErrPlant},
 	{func(b *api.Board) { b.Breakers[2].A = 3 }, api.ErrPlant}, {func(b *api.Board) { b.Breakers[2].B = 2 }, api.ErrPlant}, {func(b *api.Board) { b.Breakers[2].B = -1 }, api.ErrPlant}, {func(b *api.Board) { b.Breakers[2].B = 1 }, api.ErrPlant}, {func(b *api.Board) { b.Breakers = append(b.Breakers, b.Breakers[2]) }, api.ErrPlant}, {func(b *api.Board) { b.Sources = append(b.Sources, b.Sources[0]) }, api.ErrPlant},
-	{func(b *api.Board) { b.Breakers[5].A = 0 }, api.ErrPlant}, {func(b *api.Board) { b.Breakers[6].B = 2 }, api.ErrPlant}, {func(b *api.Board) { b.Breakers[6].B = 0 }, api.ErrPlant}, {func(b *api.Board) { b.Consumers = append(b.Consumers, b.Consumers[0]) }, api.ErrPlant},
+	{func(b *api.Board) { b.Breakers = append(b.Breakers, api.Breaker{Kind: api.BreakerSource, B: 2}) }, api.ErrPlant}, {func(b *api.Board) { b.Breakers = append(b.Breakers, api.Breaker{Kind: api.BreakerConsumer, B: 2}) }, api.ErrPlant}, {func(b *api.Board) { b.Breakers[5].A = 0 }, api.ErrPlant}, {func(b *api.Board) { b.Breakers[6].B = 2 }, api.ErrPlant}, {func(b *api.Board) { b.Breakers[6].B = 0 }, api.ErrPlant}, {func(b *api.Board) { b.Consumers = append(b.Consumers, b.Consumers[0]) }, api.ErrPlant},
 	{func(b *api.Board) { b.Sources[0].Rating = 0 }, api.ErrPlant}, {func(b *api.Board) { b.Sources[0].Rating = 50001 }, api.ErrPlant}, {func(b *api.Board) { b.Sources[0].Least = -1 }, api.ErrPlant}, {func(b *api.Board) { b.Sources[0].Least = 101 }, api.ErrPlant}, {func(b *api.Board) { b.Sources[0].Start = -1 }, api.ErrPlant}, {func(b *api.Board) { b.Sources[0].Start = 601 }, api.ErrPlant},
 	{func(b *api.Board) { b.Consumers[0].Load = -1 }, api.ErrPlant}, {func(b *api.Board) { b.Consumers[0].Load = 50001 }, api.ErrPlant}, {func(b *api.Board) { b.Consumers[0].Least = -1 }, api.ErrPlant}, {func(b *api.Board) { b.Consumers[0].Least = 61 }, api.ErrPlant}, {func(b *api.Board) { b.Consumers[0].Preference = -1 }, api.ErrPlant}, {func(b *api.Board) { b.Consumers[0].Preference = 16 }, api.ErrPlant},
 	{func(b *api.Board) { b.Consumers[0].Thruster = -2 }, api.ErrPlant}, {func(b *api.Board) { b.Consumers[0].Thruster = 8 }, api.ErrPlant}, {func(b *api.Board) { b.Consumers[0].Needs = []int{0} }, api.ErrPlant}, {func(b *api.Board) { b.Consumers[1].Needs = []int{-1} }, api.ErrPlant}, {func(b *api.Board) { b.Consumers[1].Needs = []int{0, 0} }, api.ErrPlant}, {func(b *api.Board) { b.Consumers[1].Needs = []int{0, 1, 2, 3, 4} }, api.ErrPlant},
@@ -95,7 +104,7 @@ func TestState(t *testing.T) {
 	same(t, "dark", State(three(), dark()), api.OK)
 	same(t, "lit", State(three(), lit(0, 1, 2, 3, 4, 6)), api.OK)
 	p := dark()
-	p.Broken = []api.Part{{Kind: 1, Number: 0}, {Kind: 1, Number: 1}, {Kind: 2, Number: 6}, {Kind: 3, Number: 2}, {Kind: 4, Number: 0}, {Kind: 4, Number: 1}}
+	p.Broken = []api.Part{{Kind: 1, Number: 0}, {Kind: 1, Number: 1}, {Kind: 2, Number: 6}, {Kind: 3, Number: 0}, {Kind: 3, Number: 2}, {Kind: 4, Number: 0}, {Kind: 4, Number: 1}}
 	p.Sources[0] = api.Running{State: 3, Since: api.MaxTime, Frequency: 6000, Phase: 3599}
 	p.Limits = []int{0, 70}
 	same(t, "edges", State(three(), p), api.OK)
@@ -170,8 +179,10 @@ func TestConnectedAndFed(t *testing.T) {
 		same(t, fmt.Sprint(x.number), []any{bus, ok}, []any{x.bus, x.ok})
 	}
 	p.Sources[0].State = api.SourceOff
-	_, ok := Connected(three(), p, 0)
-	same(t, "a generator that is off", ok, false)
+	bus, ok := Connected(three(), p, 0)
+	same(t, "a generator that is off", []any{bus, ok}, []any{0, false})
+	bus, ok = Connected(three(), lit(2, 3), 1)
+	same(t, "the last generator", []any{bus, ok}, []any{2, true})
 }
 
 func TestFind(t *testing.T) {

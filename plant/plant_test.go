@@ -61,7 +61,7 @@ func TestCheck(t *testing.T) {
 		change func(b *api.Board, t *api.Table, p *api.Plant)
 		want   api.Errno
 	}{
-		{func(b *api.Board, t *api.Table, p *api.Plant) {}, api.OK}, {func(b *api.Board, t *api.Table, p *api.Plant) { p.Time = api.MaxTime }, api.OK}, {func(b *api.Board, t *api.Table, p *api.Plant) { p.Time, p.Rosters[1] = 5, api.Roster{High: 5, Low: 0} }, api.OK},
+		{func(b *api.Board, t *api.Table, p *api.Plant) {}, api.OK}, {func(b *api.Board, t *api.Table, p *api.Plant) { p.Time = api.MaxTime }, api.OK}, {func(b *api.Board, t *api.Table, p *api.Plant) { p.Time, p.Rosters[1] = 5, api.Roster{High: 5, Low: 0} }, api.OK}, {func(b *api.Board, t *api.Table, p *api.Plant) { p.Time, p.Rosters[1] = 5, api.Roster{High: 0, Low: 5} }, api.OK},
 		{func(b *api.Board, t *api.Table, p *api.Plant) { b.Buses = 0; t.Start = 0 }, api.ErrLimit}, {func(b *api.Board, t *api.Table, p *api.Plant) { p.Power.Limits = nil; t.Start = 0 }, api.ErrShape}, {func(b *api.Board, t *api.Table, p *api.Plant) { p.Power.Limits[0] = 61 }, api.ErrState},
 		{func(b *api.Board, t *api.Table, p *api.Plant) { t.Start = 0; p.Rosters = nil }, api.ErrRange}, {func(b *api.Board, t *api.Table, p *api.Plant) { p.Time = -1; p.Rosters = nil }, api.ErrRange}, {func(b *api.Board, t *api.Table, p *api.Plant) { p.Time = api.MaxTime + 1 }, api.ErrRange},
 		{func(b *api.Board, t *api.Table, p *api.Plant) { p.Rosters = p.Rosters[1:] }, api.ErrShape}, {func(b *api.Board, t *api.Table, p *api.Plant) { p.Rosters = append(p.Rosters, api.Roster{High: 9}) }, api.ErrShape},

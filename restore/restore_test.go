@@ -74,7 +74,7 @@ func TestHopeless(t *testing.T) {
 	}{{[]int{0, 1}, true}, {[]int{0}, false}, {[]int{1}, false}, {nil, false}, {[]int{1, 0}, false}, {[]int{0, 0}, false}, {[]int{2}, false}, {[]int{0, 1, 2}, false}, {[]int{-1, 0, 1}, false}, {[]int{0, 1, 3}, false}} {
 		equal(t, fmt.Sprint(x.buses), Hopeless(b, p, x.buses), x.want)
 	}
-	equal(t, "a broken bus", Hopeless(b, with(part(3, 1)), []int{1}), true)
+	equal(t, "a broken bus", []bool{Hopeless(b, with(part(3, 1)), []int{1}), Hopeless(b, with(part(3, 1)), []int{1, 1})}, []bool{true, false})
 	equal(t, "no state", Hopeless(b, api.Power{}, []int{0}), false)
 }
 
@@ -133,6 +133,7 @@ func TestActs(t *testing.T) {
 	closed.Closed[3] = true
 	equal(t, "the breaker is closed", do(closed, 9, act(api.ActStart, 1, 0)).Sources[1].State, api.SourceStarting)
 	equal(t, "stopped", do(q, 10, act(api.ActStop, 0, 0)).Sources[0], api.Running{Since: 9, Frequency: 5000})
+	equal(t, "the whole load, at the end of time", do(p, api.MaxTime, act(api.ActLimit, 1, 50)).Limits, []int{60, 50})
 	equal(t, "limit", do(p, 0, act(api.ActLimit, 1, 0)).Limits, []int{60, 0})
 	q = do(q, 10, act(api.ActWait, -5, 99))
 	equal(t, "not ready", q.Sources[0].State, api.SourceStarting)

@@ -166,7 +166,7 @@ func TestStepErrors(t *testing.T) {
 		want      api.Errno
 	}{
 		{api.Power{}, api.Table{}, 9, -1, calm, api.ErrShape}, {p, api.Table{}, 9, 0, calm, api.ErrRange}, {p, table, 9, -1, calm, api.ErrRange}, {p, table, 9, api.MaxTime + 1, calm, api.ErrRange}, {p, table, 9, 5, api.Roster{High: 6, Low: -1}, api.ErrRange}, {p, table, 9, 5, api.Roster{High: -1, Low: 6}, api.ErrRange}, {p, table, 9, 5, api.Roster{High: -2, Low: -1}, api.ErrRange}, {p, table, 9, 5, api.Roster{High: -1, Low: math.MinInt}, api.ErrRange},
-		{p, table, 2, 5, calm, api.ErrUnknown}, {p, table, -1, 5, calm, api.ErrUnknown}, {p, table, 1, 5, api.Roster{High: 5, Low: 5}, api.OK},
+		{p, table, 1, api.MaxTime, calm, api.OK}, {p, table, 2, 5, calm, api.ErrUnknown}, {p, table, -1, 5, calm, api.ErrUnknown}, {p, table, 1, 5, api.Roster{High: 5, Low: 5}, api.OK},
 	} {
 		r, acts, e := Step(b, x.t, x.p, x.bus, x.time, x.r)
 		same(t, fmt.Sprint(i), e, x.want)

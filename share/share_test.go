@@ -16,7 +16,7 @@ func TestValid(t *testing.T) {
 		l    []api.Share
 		want api.Errno
 	}{
-		{nil, api.OK}, {[]api.Share{one(-5000, 5000, 100), one(3, 3, 1)}, api.OK}, {make([]api.Share, 9), api.ErrLimit}, {[]api.Share{one(0, 1, 1), one(2, 1, 1)}, api.ErrRange}, {[]api.Share{one(-5001, 0, 1)}, api.ErrRange}, {[]api.Share{one(0, 5001, 1)}, api.ErrRange}, {[]api.Share{one(0, 1, 0)}, api.ErrRange}, {[]api.Share{one(0, 1, 101)}, api.ErrRange},
+		{nil, api.OK}, {slices.Repeat([]api.Share{one(0, 1, 1)}, 8), api.OK}, {[]api.Share{one(-5000, 5000, 100), one(3, 3, 1)}, api.OK}, {make([]api.Share, 9), api.ErrLimit}, {[]api.Share{one(0, 1, 1), one(2, 1, 1)}, api.ErrRange}, {[]api.Share{one(-5001, 0, 1)}, api.ErrRange}, {[]api.Share{one(0, 5001, 1)}, api.ErrRange}, {[]api.Share{one(0, 1, 0)}, api.ErrRange}, {[]api.Share{one(0, 1, 101)}, api.ErrRange},
 	} {
 		if e := Valid(x.l); e != x.want {
 			t.Errorf("Valid of %v: %d", x.l, e)
@@ -58,7 +58,7 @@ func TestDivide(t *testing.T) {
 		missing int
 	}{
 		{[]api.Share{one(0, 10, 1), one(0, 10, 2)}, 9, []int{6, 3}, 0}, {[]api.Share{one(0, 10, 1), one(0, 10, 1)}, 5, []int{3, 2}, 0}, {[]api.Share{one(-10, 0, 1), one(-10, 0, 1)}, -5, []int{-2, -3}, 0},
-		{[]api.Share{one(0, 10, 1), one(0, 10, 2)}, 25, []int{10, 10}, 5}, {[]api.Share{one(2, 10, 1), one(3, 10, 2)}, -500000, []int{2, 3}, -500005}, {nil, 7, []int{}, 7}, {nil, 0, []int{}, 0}, {[]api.Share{one(5, 5, 3), one(-9, 9, 1)}, 0, []int{5, -5}, 0},
+		{[]api.Share{one(0, 10, 1), one(0, 10, 2)}, 25, []int{10, 10}, 5}, {[]api.Share{one(2, 10, 1), one(3, 10, 2)}, -500000, []int{2, 3}, -500005}, {[]api.Share{one(0, 10, 1)}, 500000, []int{10}, 499990}, {nil, 7, []int{}, 7}, {nil, 0, []int{}, 0}, {[]api.Share{one(5, 5, 3), one(-9, 9, 1)}, 0, []int{5, -5}, 0},
 		{[]api.Share{one(-5000, 5000, 100), one(-5000, 5000, 1)}, 9999, []int{4999, 5000}, 0}, {[]api.Share{one(-5000, 5000, 100)}, -5000, []int{-5000}, 0}, {[]api.Share{one(-10, 10, 1), one(-10, 10, 1), one(-10, 10, 1)}, 1, []int{1, 0, 0}, 0}, {[]api.Share{one(-10, 10, 1), one(-10, 10, 1), one(-10, 10, 1)}, -1, []int{0, 0, -1}, 0},
 	} {
 		got, missing, e := Divide(x.l, x.total)

@@ -221,6 +221,12 @@ func TestCheckOfWrongStates(t *testing.T) {
 		change(&w)
 		same(t, fmt.Sprintf("change %d", i), Check(b, p, w), false)
 	}
+	same(t, "a limit that is not valid", Check(b, p, api.Power{Closed: p.Closed, Sources: p.Sources, Limits: []int{-1, 50, 0, 0}}), false)
+	one := api.Power{Closed: slices.Clone(p.Closed), Sources: p.Sources, Limits: []int{1, 50, 0, 0}}
+	one.Closed[2] = false
+	same(t, "one that takes 1 comes before one that is tripped", Check(b, p, one), false)
+	shut := api.Power{Closed: []bool{true, false, true, true, true}, Sources: p.Sources, Limits: []int{10, 70, 0, 10}}
+	same(t, "closed, and not overloaded", Check(b, shut, api.Power{Closed: p.Closed, Sources: p.Sources, Limits: shut.Limits}), false)
 	opened := api.Power{Closed: slices.Clone(p.Closed), Sources: p.Sources, Limits: []int{20, 70, 0, 10}}
 	opened.Closed[4] = false
 	same(t, "closed again", Check(b, opened, p), false)

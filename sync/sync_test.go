@@ -47,6 +47,7 @@ func TestAgree(t *testing.T) {
 		same(t, fmt.Sprint(y), []bool{Agree(b, x, o), Agree(b, o, x)}, []bool{y.want, y.want})
 	}
 	b.Frequency = 10000
+	same(t, "the least and the greatest frequency", Agree(b, api.Running{Frequency: 0}, api.Running{Frequency: 6000}), true)
 	same(t, "6001 and a wide window", Agree(b, api.Running{Frequency: 6001}, api.Running{Frequency: 6000}), false)
 }
 
@@ -90,6 +91,12 @@ func TestMay(t *testing.T) {
 			t.Errorf("%d: the breaker is not closed in the result alone", i)
 		}
 	}
+}
+
+func TestTieToADeadBus(t *testing.T) {
+	b := two()
+	b.Breakers[1].A, b.Breakers[2].A = 1, 0
+	same(t, "a generator that is not connected does not matter", May(b, with([3]int{900, 10, 10}, 2), 0), api.OK)
 }
 
 func TestSecondTieInAnIsland(t *testing.T) {
@@ -139,6 +146,8 @@ func TestMatch(t *testing.T) {
 	same(t, "then the tie", May(two(), q, 0), api.OK)
 	q, e = Match(two(), with([3]int{10, 100, 200}, 1, 3), 1, 0)
 	same(t, "not connected", []any{q, e}, []any{with([3]int{10, 10, 200}, 1, 3), api.OK})
+	q, e = Match(two(), with([3]int{10, 100, 200}, 2), 0, 1)
+	same(t, "the first one", []any{q, e}, []any{with([3]int{100, 100, 200}, 2), api.OK})
 	off := with([3]int{}, 1)
 	off.Sources[1].State = api.SourceOff
 	for _, x := range []struct {

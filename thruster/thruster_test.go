@@ -18,7 +18,7 @@ func TestCheck(t *testing.T) {
 		s    api.Ship
 		want api.Errno
 	}{
-		{ship(), api.OK}, {ship(azimuth(1, 1)), api.OK}, {api.Ship{Bow: 200}, api.OK}, {api.Ship{Stern: 200}, api.OK}, {ship(make([]api.Thruster, 9)...), api.ErrLimit}, {api.Ship{Bow: -1, Thrusters: make([]api.Thruster, 9)}, api.ErrLimit},
+		{ship(), api.OK}, {ship(azimuth(1, 1)), api.OK}, {ship(azimuth(1, 1), azimuth(1, 1), azimuth(1, 1), azimuth(1, 1), azimuth(1, 1), azimuth(1, 1), azimuth(1, 1), azimuth(1, 1)), api.OK}, {api.Ship{Bow: 200}, api.OK}, {api.Ship{Stern: 200}, api.OK}, {ship(make([]api.Thruster, 9)...), api.ErrLimit}, {api.Ship{Bow: -1, Thrusters: make([]api.Thruster, 9)}, api.ErrLimit},
 		{api.Ship{}, api.ErrRange}, {api.Ship{Bow: 201}, api.ErrRange}, {api.Ship{Bow: 1, Stern: 201}, api.ErrRange}, {api.Ship{Bow: 1, Stern: -1}, api.ErrRange}, {api.Ship{Thrusters: make([]api.Thruster, 1)}, api.ErrRange}, {ship(azimuth(1, 1), azimuth(1, 0)), api.ErrPlant},
 	} {
 		if e := Check(x.s); e != x.want {
@@ -50,7 +50,7 @@ func TestPower(t *testing.T) {
 }
 
 func TestMost(t *testing.T) {
-	for _, x := range [][4]int{{500, 3, 30, 100}, {500, 3, 29, 98}, {500, 3, 0, 0}, {500, 3, -1, 0}, {50, 3, 30, 50}, {5000, 100, math.MaxInt, 5000}, {500, 3, math.MinInt, 0}, {500, 0, 30, 0}, {-1, 3, 30, 0}, {5000, 1, 24999, 4999}, {0, 1, 5, 0}} {
+	for _, x := range [][4]int{{500, 3, 30, 100}, {500, 3, 29, 98}, {500, 3, 0, 0}, {500, 3, -1, 0}, {50, 3, 30, 50}, {5000, 100, math.MaxInt, 5000}, {500, 3, math.MinInt, 0}, {500, 0, 30, 0}, {-1, 3, 30, 0}, {5000, 1, 24999, 4999}, {0, 1, 5, 0}, {5, 1, 1, 5}, {5, 1, 0, 0}} {
 		if got := Most(azimuth(x[0], x[1]), x[2]); got != x[3] {
 			t.Errorf("%v: %d", x, got)
 		}

@@ -62,6 +62,7 @@ func TestPart(t *testing.T) {
 	for percent, want := range map[int]api.Force{0: {}, 100: load, 10: {Surge: 15, Sway: -15, Yaw: 100000}, 1: {Surge: 2, Sway: -1, Yaw: 10000}, 200: {Surge: 300, Sway: -300, Yaw: 2000000}, 201: {}, -1: {}, math.MaxInt: {}} {
 		same(t, fmt.Sprint(percent), Part(load, percent), want)
 	}
+	same(t, "the greatest loads", Part(api.Force{Surge: -1000000, Sway: 1000000, Yaw: -1000000}, 50), api.Force{Surge: -500000, Sway: 500000, Yaw: -500000})
 	for _, wild := range []api.Force{{Surge: 1000001}, {Sway: -1000001}, {Yaw: math.MinInt}} {
 		same(t, fmt.Sprint(wild), []any{Part(wild, 10), Reserve(one, []int{100}, wild)}, []any{api.Force{}, -1})
 	}

@@ -39,12 +39,23 @@ func cooled() api.Design {
 
 func TestCheck(t *testing.T) {
 	same(t, "valid", []api.Errno{Check(cooled()), Check(api.Design{}), Check(api.Design{Parts: parts(1, 0, 9, 63)})}, []api.Errno{0, 0, 0})
+	big := api.Design{}
+	for i := range api.MaxParts {
+		big.Parts = append(big.Parts, part(9, i))
+	}
+	for i := range api.MaxLinks {
+		big.Links = append(big.Links, link(9, i/30, 9, 2+i%30))
+	}
+	for i := range api.MaxGroups {
+		big.Groups = append(big.Groups, api.Group{Name: string(rune('a' + i)), Parts: big.Parts})
+	}
+	same(t, "as much as can be", Check(big), api.OK)
 	for i, x := range []struct {
 		change func(d *api.Design)
 		want   api.Errno
 	}{
 		{func(d *api.Design) { d.Parts = make([]api.Part, 41) }, api.ErrLimit}, {func(d *api.Design) { d.Links = make([]api.Link, 61) }, api.ErrLimit}, {func(d *api.Design) { d.Groups = make([]api.Group, 7) }, api.ErrLimit}, {func(d *api.Design) { d.Parts[0].Kind = 0 }, api.ErrDesign}, {func(d *api.Design) { d.Parts[6].Kind = 10 }, api.ErrDesign}, {func(d *api.Design) { d.Parts = append(d.Parts, part(9, 64)) }, api.ErrDesign}, {func(d *api.Design) { d.Parts = append(parts(1, -1), d.Parts...) }, api.ErrDesign},
-		{func(d *api.Design) { d.Parts = append(d.Parts, part(9, 2)) }, api.ErrDesign}, {func(d *api.Design) { d.Parts = append(d.Parts, part(9, 1)) }, api.ErrDesign}, {func(d *api.Design) { d.Links[5].To = part(1, 2) }, api.ErrDesign}, {func(d *api.Design) { d.Links[5].From = part(9, 3) }, api.ErrDesign}, {func(d *api.Design) { d.Links[5].To = part(9, 2) }, api.ErrDesign}, {func(d *api.Design) { d.Links[5] = d.Links[4] }, api.ErrDesign}, {func(d *api.Design) { d.Links[3], d.Links[4] = d.Links[4], d.Links[3] }, api.ErrDesign},
+		{func(d *api.Design) { d.Parts = append(d.Parts, part(9, 2)) }, api.ErrDesign}, {func(d *api.Design) { d.Parts = append(d.Parts, part(9, 1)) }, api.ErrDesign}, {func(d *api.Design) { d.Links[5].To = part(1, 2) }, api.ErrDesign}, {func(d *api.Design) { d.Links[5].From = part(9, 3) }, api.ErrDesign}, {func(d *api.Design) { d.Links[5].To = part(9, 2) }, api.ErrDesign}, {func(d *api.Design) { d.Links[5] = d.Links[4] }, api.ErrDesign}, {func(d *api.Design) { d.Links[0], d.Links[1] = d.Links[1], d.Links[0] }, api.ErrDesign}, {func(d *api.Design) { d.Links[3], d.Links[4] = d.Links[4], d.Links[3] }, api.ErrDesign},
 		{func(d *api.Design) { d.Groups[0].Name = "" }, api.ErrDesign}, {func(d *api.Design) { d.Groups[0].Name = "Port" }, api.ErrDesign}, {func(d *api.Design) { d.Groups[1].Name = "port" }, api.ErrDesign}, {func(d *api.Design) { d.Groups[1].Parts = nil }, api.ErrDesign}, {func(d *api.Design) { d.Groups[1].Parts = parts(1, 2) }, api.ErrDesign}, {func(d *api.Design) { d.Groups[1].Parts = parts(5, 1, 1, 1) }, api.ErrDesign}, {func(d *api.Design) { d.Groups[1].Parts = parts(1, 1, 1, 1) }, api.ErrDesign},
 	} {
 		d := cooled()

@@ -76,7 +76,7 @@ func TestValid(t *testing.T) {
 		want bool
 	}{
 		{progress(10, r, r, w), true}, {progress(10, work(running, 10, 2), work(running, 8, 1), w), true}, {progress(10, d, d, work(running, 7, 3)), true}, {progress(10, d, r, w), true}, {progress(10, work(failed, 10, 2), work(failed, 0, 1), w), true}, {progress(10, work(done, 8, 2), work(done, 7, 1), work(done, 6, 3)), true}, {progress(1, work(running, 0, 1), work(running, 0, 1), w), true}, {progress(10, d, d, work(failed, 10, 3)), true},
-		{progress(10, r, r), false}, {progress(-1, r, r, w), false}, {progress(api.MaxTime+1, r, r, w), false}, {progress(10, work(running, 8, 1), r, w), false}, {progress(10, work(running, 11, 1), r, w), false}, {progress(10, work(running, 9, 0), r, w), false}, {progress(10, work(running, 9, 3), r, w), false}, {progress(1, work(running, -1, 1), r, w), false},
+		{progress(10, r, r), false}, {progress(-1, r, r, w), false}, {progress(api.MaxTime+1, r, r, w), false}, {progress(api.MaxTime+1, d, d, d), false}, {progress(api.MaxTime, d, d, d), true}, {progress(10, work(running, 8, 1), r, w), false}, {progress(10, work(running, 11, 1), r, w), false}, {progress(10, work(running, 9, 0), r, w), false}, {progress(10, work(running, 9, 3), r, w), false}, {progress(1, work(running, -1, 1), r, w), false},
 		{progress(10, work(done, 9, 1), r, w), false}, {progress(10, work(done, -1, 1), r, w), false}, {progress(10, work(done, 5, 0), r, w), false}, {progress(10, work(failed, 5, 1), r, w), false}, {progress(10, work(failed, 11, 2), r, w), false}, {progress(10, work(failed, -1, 2), r, w), false}, {progress(10, work(4, 5, 1), r, w), false}, {progress(10, work(-1, 5, 1), r, w), false},
 		{progress(10, w, r, w), false}, {progress(10, r, r, work(waiting, 1, 0)), false}, {progress(10, r, r, work(waiting, 0, 1)), false}, {progress(10, d, d, w), false}, {progress(10, r, d, r), false}, {progress(10, work(failed, 5, 2), d, work(done, 2, 1)), false},
 	} {
@@ -128,6 +128,8 @@ func TestExample(t *testing.T) {
 	}{{[]int{1, 2}, true}, {[]int{0, 2}, false}, {[]int{2}, false}, {[]int{1}, false}, {nil, false}, {[]int{2, 1}, false}, {[]int{1, 3}, false}, {[]int{-1, 2}, false}, {[]int{1, 1, 2}, false}} {
 		same(t, fmt.Sprint(x.path), Proves(three(), x.path), x.want)
 	}
+	apart := api.Sequence{Stages: []api.Stage{stage("a", 2, 1), stage("b", 3, 1), stage("c", 5, 1)}}
+	same(t, "stages that do not need each other", []bool{Proves(apart, []int{0, 1}), Proves(apart, []int{2})}, []bool{false, true})
 	long := api.Sequence{Stages: []api.Stage{stage("a", 600, 3), stage("b", 600, 3, 0)}}
 	same(t, "long", []int{Length(long), Longest(long)}, []int{1200, 3600})
 	_, ok := Left(three(), progress(10, work(failed, 5, 2), work(running, 9, 1), work(waiting, 0, 0)))

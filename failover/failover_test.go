@@ -114,6 +114,7 @@ func TestTick(t *testing.T) {
 		{"two that do not hear each other", []api.Controller{one(1, 3, 9), one(1, 3, 9), one(0, 3, 8)}, matrix(3, [2]int{0, 2}, [2]int{1, 2}), []api.Controller{one(1, 3, 10), one(1, 3, 10), one(0, 3, 10)}},
 		{"too early", []api.Controller{one(0, 3, 8), one(0, 3, 8), one(0, 3, 8)}, all(3), []api.Controller{one(0, 3, 8), one(0, 3, 8), one(0, 3, 8)}},
 		{"the second one", []api.Controller{one(0, 3, 8), one(0, 3, 7), one(0, 5, 7)}, all(3), []api.Controller{one(0, 6, 8), one(1, 6, 10), one(0, 6, 7)}},
+		{"the last epoch", []api.Controller{one(0, api.MaxTime-1, 0)}, all(1), []api.Controller{one(1, api.MaxTime, 10)}},
 		{"alone", []api.Controller{one(0, 0, 0)}, all(1), []api.Controller{one(1, 1, 10)}},
 		{"a line: the least one that is heard", []api.Controller{one(0, 0, 0), one(0, 0, 0), one(0, 0, 0)}, matrix(3, [2]int{0, 1}, [2]int{1, 2}), []api.Controller{one(1, 1, 10), one(0, 1, 0), one(0, 0, 0)}},
 		{"a candidate whose voters vote for another one", []api.Controller{one(0, 0, 9), one(0, 7, 0), one(0, 0, 0), one(0, 0, 9), one(0, 0, 9)}, matrix(5, [2]int{1, 0}, [2]int{1, 2}, [2]int{2, 3}, [2]int{2, 4}), []api.Controller{one(0, 8, 9), one(1, 8, 10), one(0, 8, 0), one(0, 0, 9), one(0, 0, 9)}},
@@ -177,7 +178,7 @@ func TestFence(t *testing.T) {
 	for _, x := range []struct {
 		epoch, command, want int
 		e                    api.Errno
-	}{{3, 5, 5, api.OK}, {3, 3, 3, api.OK}, {3, 2, 0, api.ErrEpoch}, {0, api.MaxTime, api.MaxTime, api.OK}, {-1, 5, 0, api.ErrRange}, {3, -1, 0, api.ErrRange}, {api.MaxTime + 1, 5, 0, api.ErrRange}, {3, math.MaxInt, 0, api.ErrRange}} {
+	}{{3, 5, 5, api.OK}, {3, 3, 3, api.OK}, {3, 2, 0, api.ErrEpoch}, {0, api.MaxTime, api.MaxTime, api.OK}, {0, 0, 0, api.OK}, {api.MaxTime + 1, api.MaxTime + 1, 0, api.ErrRange}, {-1, -1, 0, api.ErrRange}, {-1, 5, 0, api.ErrRange}, {3, -1, 0, api.ErrRange}, {api.MaxTime + 1, 5, 0, api.ErrRange}, {3, math.MaxInt, 0, api.ErrRange}} {
 		got, e := Fence(x.epoch, x.command)
 		same(t, fmt.Sprint(x), []any{got, e}, []any{x.want, x.e})
 	}

@@ -87,6 +87,17 @@ func TestNormal(t *testing.T) {
 	}
 }
 
+func TestNormalOfManyFaults(t *testing.T) {
+	l := make([]api.Fault, 61)
+	for i := range l {
+		l[i] = begin(i, x)
+	}
+	got, e := Normal(l[:60])
+	same(t, "60", []any{got, e}, []any{script(begin(0, x)), api.OK})
+	got, e = Normal(l)
+	same(t, "61", []any{got, e}, []any{[]int{}, api.ErrLimit})
+}
+
 func TestMerge(t *testing.T) {
 	for i, c := range []struct {
 		a, b, want []api.Fault
@@ -103,6 +114,8 @@ func TestMerge(t *testing.T) {
 	}
 	got, e := Merge(many(24), other)
 	same(t, "too many", []any{got, e}, []any{[]int{}, api.ErrLimit})
+	got, e = Merge(many(24), other[:1])
+	same(t, "one too many", []any{got, e}, []any{[]int{}, api.ErrLimit})
 	_, e = Merge(many(22), other)
 	same(t, "just enough", e, api.OK)
 }

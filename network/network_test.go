@@ -32,6 +32,12 @@ func cables(numbers ...int) []api.Part {
 
 func TestCheck(t *testing.T) {
 	same(t, "valid", []api.Errno{Check(four()), Check(api.Net{Nodes: 1}), Check(api.Net{Nodes: 8, Cables: []api.Cable{{Net: 0, A: 0, B: 7}, {Net: 1, A: 0, B: 7}}})}, []api.Errno{0, 0, 0})
+	big := api.Net{Nodes: 8}
+	for i := range 25 {
+		k := i % 13
+		big.Cables = append(big.Cables, api.Cable{Net: i / 13, A: k / 7, B: 1 + k%7 + k/7})
+	}
+	same(t, "24 and 25 cables", []api.Errno{Check(big), Check(api.Net{Nodes: 8, Cables: big.Cables[:24]})}, []api.Errno{api.ErrNet, api.OK})
 	for i, change := range []func(n *api.Net){
 		func(n *api.Net) { n.Nodes = 0 }, func(n *api.Net) { n.Nodes = 9 }, func(n *api.Net) { n.Nodes = 3 }, func(n *api.Net) { n.Cables = make([]api.Cable, 25) }, func(n *api.Net) { n.Cables[0].Net = -1 }, func(n *api.Net) { n.Cables[4].Net = 2 }, func(n *api.Net) { n.Cables[0].A = -1 }, func(n *api.Net) { n.Cables[0].A = 1 }, func(n *api.Net) { n.Cables[4].A, n.Cables[4].B = 3, 2 }, func(n *api.Net) { n.Cables[4].B = 4 },
 		func(n *api.Net) { n.Cables[1] = n.Cables[0] }, func(n *api.Net) { n.Cables[0], n.Cables[1] = n.Cables[1], n.Cables[0] }, func(n *api.Net) { n.Cables[2], n.Cables[3] = n.Cables[3], n.Cables[2] },
@@ -65,7 +71,7 @@ func TestCut(t *testing.T) {
 		nodes  []int
 		want   bool
 	}{
-		{cables(1), 0, []int{0, 1}, true}, {cables(1), 0, []int{2, 3}, true}, {cables(1), 0, []int{0}, false}, {cables(0), 0, []int{0}, true}, {nil, 1, []int{0, 1}, true}, {nil, 0, []int{0, 1}, false}, {cables(0, 1, 2), 0, []int{0, 2}, true}, {cables(1), 0, nil, false}, {cables(1), 0, []int{0, 1, 2, 3}, false}, {cables(1), 0, []int{1, 0}, false}, {cables(0), 0, []int{0, 0}, false}, {cables(1), 0, []int{-1, 0}, false}, {cables(2), 0, []int{3, 4}, false}, {cables(1), -1, []int{0, 1}, false}, {cables(1), 2, []int{0, 1}, false},
+		{cables(1), 0, []int{0, 1}, true}, {cables(1), 0, []int{2, 3}, true}, {cables(1), 0, []int{0}, false}, {cables(0), 0, []int{0}, true}, {cables(2), 0, []int{0, 1, 2}, true}, {nil, 1, []int{0, 1}, true}, {nil, 0, []int{0, 1}, false}, {cables(0, 1, 2), 0, []int{0, 2}, true}, {cables(1), 0, nil, false}, {cables(1), 0, []int{0, 1, 2, 3}, false}, {cables(1), 0, []int{1, 0}, false}, {cables(0), 0, []int{0, 0}, false}, {cables(1), 0, []int{-1, 0}, false}, {cables(2), 0, []int{3, 4}, false}, {cables(1), -1, []int{0, 1}, false}, {cables(1), 2, []int{0, 1}, false},
 	} {
 		same(t, fmt.Sprint(x), Cut(four(), x.broken, x.net, x.nodes), x.want)
 	}
@@ -125,7 +131,7 @@ func TestDeliver(t *testing.T) {
 		ports []api.Port
 		l     []api.Message
 		want  api.Errno
-	}{{Ports(n)[1:], make([]api.Message, 61), api.ErrShape}, {nil, nil, api.ErrShape}, {Ports(n), append(make([]api.Message, 60), api.Message{From: 4}), api.ErrRange}, {Ports(n), []api.Message{{To: -1}}, api.ErrRange}, {wrong, nil, api.ErrRange}, {wrong, make([]api.Message, 61), api.ErrRange}, {Ports(n), make([]api.Message, 61), api.ErrLimit}, {Ports(n), make([]api.Message, 60), api.OK}} {
+	}{{Ports(n)[1:], make([]api.Message, 61), api.ErrShape}, {nil, nil, api.ErrShape}, {Ports(n), append(make([]api.Message, 60), api.Message{From: 4}), api.ErrRange}, {Ports(n), []api.Message{{To: -1}}, api.ErrRange}, {Ports(n), []api.Message{{To: 4}}, api.ErrRange}, {Ports(n), []api.Message{{From: -1}}, api.ErrRange}, {wrong, nil, api.ErrRange}, {wrong, make([]api.Message, 61), api.ErrRange}, {Ports(n), make([]api.Message, 61), api.ErrLimit}, {Ports(n), make([]api.Message, 60), api.OK}} {
 		ports, accepted, e := Deliver(n, nil, x.ports, x.l)
 		same(t, fmt.Sprint(i), e, x.want)
 		if e != api.OK {

@@ -113,6 +113,15 @@ func TestLoad(t *testing.T) {
 func TestTotal(t *testing.T) {
 	f, e := Total(hull(), mild, 0)
 	same(t, "Total", []any{f, e}, []any{api.Force{Surge: 300 - 2000, Sway: 1000, Yaw: 2 + 4}, api.OK})
+	rough := api.Weather{Wind: api.Flow{From: 350, Speed: 3000}, Current: api.Flow{From: 700, Speed: 2000}, Wave: api.Flow{From: 70, Speed: 5000}}
+	a, b, c := Load(hull().Wind, rough.Wind, 40), Load(hull().Current, rough.Current, 40), Load(hull().Wave, rough.Wave, 40)
+	g, e := Total(hull(), rough, 40)
+	same(t, "a sum of three", []any{g, e}, []any{api.Force{Surge: a.Surge + b.Surge + c.Surge, Sway: a.Sway + b.Sway + c.Sway, Yaw: a.Yaw + b.Yaw + c.Yaw}, api.OK})
+	for _, x := range []api.Force{a, b, c} {
+		if x.Surge == 0 || x.Sway == 0 || x.Yaw == 0 {
+			t.Errorf("a load without a component: %v", x)
+		}
+	}
 	for _, heading := range []int{-1, 3600} {
 		f, e := Total(hull(), mild, heading)
 		same(t, fmt.Sprint(heading), []any{f, e}, []any{api.Force{}, api.ErrRange})

@@ -272,6 +272,9 @@ func TestRun(t *testing.T) {
 	same(t, "Run", []any{got, e}, []any{whole, api.OK})
 	got, e = Run(v, s, make([]api.Input, 61))
 	same(t, "too many", []any{got, e}, []any{api.State{}, api.ErrLimit})
+	quiet := api.Input{Heading: 300}
+	_, e = Run(v, s, slices.Repeat([]api.Input{quiet}, 60))
+	same(t, "60", e, api.OK)
 	got, e = Run(v, s, nil)
 	same(t, "none", []any{got, e}, []any{s, api.OK})
 	l[3].Heading = -1

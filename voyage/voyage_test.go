@@ -46,6 +46,8 @@ func TestCheck(t *testing.T) {
 	edge.Target.Heading, edge.Delay, edge.Target.Place = 3599, 600, api.Point{X: 100000000, Y: -100000000}
 	edge.Design.Parts = append(edge.Design.Parts, part(9, 63))
 	same(t, "edges", Check(edge), api.OK)
+	edge.Delay = 0
+	same(t, "no delay", Check(edge), api.OK)
 	// Each change makes an error that comes before those of the changes before it.
 	for i, x := range []struct {
 		change func(v *api.Vessel)
@@ -90,7 +92,7 @@ func TestNew(t *testing.T) {
 func TestValid(t *testing.T) {
 	v := example.Vessel()
 	for i, change := range []func(s *api.State){
-		func(s *api.State) { s.Plant.Rosters = nil }, func(s *api.State) { s.Broken = []api.Part{part(4, 0)} }, func(s *api.State) { s.Broken = []api.Part{part(9, 1), part(5, 0)} }, func(s *api.State) { s.Broken = []api.Part{part(10, 1)} }, func(s *api.State) { s.Tracks = s.Tracks[1:] }, func(s *api.State) { s.Thrusts = s.Thrusts[1:] }, func(s *api.State) { s.Thrusts[3].X = 5001 }, func(s *api.State) { s.Thrusts[0].Y = -5001 },
+		func(s *api.State) { s.Plant.Rosters = nil }, func(s *api.State) { s.Broken = []api.Part{part(4, 0)} }, func(s *api.State) { s.Broken = []api.Part{part(9, 1), part(5, 0)} }, func(s *api.State) { s.Broken = []api.Part{part(10, 1)} }, func(s *api.State) { s.Tracks = s.Tracks[1:] }, func(s *api.State) { s.Thrusts = s.Thrusts[1:] }, func(s *api.State) { s.Thrusts[3].X = 5001 }, func(s *api.State) { s.Thrusts[0].Y = -5001 }, func(s *api.State) { s.Thrusts[3].X = -5001 }, func(s *api.State) { s.Thrusts[0].Y = 5001 },
 		func(s *api.State) { s.Estimate.Time++ }, func(s *api.State) { s.Estimate.State = 3 }, func(s *api.State) { s.Estimate.State = -1 }, func(s *api.State) { s.Estimate.Point.X = 100000001 }, func(s *api.State) { s.Estimate.Bound = -1 }, func(s *api.State) { s.Estimate.Bound = 200000001 }, func(s *api.State) { s.Estimate.State = 1 }, func(s *api.State) { s.Keeper.SumX = 10001 },
 		func(s *api.State) { s.Class.Better = 99 }, func(s *api.State) { s.Class.Level = 2 }, func(s *api.State) { s.Alarms = []api.Alarm{{Number: 1, Urgency: 1, State: 1, Since: 99}} }, func(s *api.State) { s.Operation = 6 }, func(s *api.State) { s.Operation = -1 }, func(s *api.State) { s.Operation = 1 }, func(s *api.State) { s.Operation = 4 },
 		func(s *api.State) { s.Progress.Time = 1 }, func(s *api.State) { s.Progress.Works = make([]api.Work, 3) }, func(s *api.State) { s.Book.Sum++ }, func(s *api.State) { s.Book = logbook.New() }, func(s *api.State) {
@@ -114,8 +116,13 @@ func TestValid(t *testing.T) {
 	s.Operation, s.Progress = api.OperationLeft, api.Progress{Time: s.Plant.Time, Works: []api.Work{{State: 2, Since: 0, Tries: 1}, {State: 2, Since: 0, Tries: 1}, {State: 1, Since: s.Plant.Time, Tries: 1}}}
 	s.Book, _ = logbook.Append(s.Book, api.Entry{Time: 2, Kind: api.EntryOperation, Words: []int{5}})
 	same(t, "with a progress", Valid(v, s), true)
-	s.Progress.Time--
+	s.Plant.Time, s.Estimate.Time = 9, 9
+	s.Progress = api.Progress{Time: 9, Works: []api.Work{{State: 2, Tries: 1}, {State: 2, Tries: 1}, {State: 2, Tries: 1}}}
+	same(t, "done", Valid(v, s), true)
+	s.Progress.Time = 8
 	same(t, "with an old progress", Valid(v, s), false)
+	s.Progress.Time, s.Progress.Works[0].Tries = 9, 0
+	same(t, "with a wrong progress", Valid(v, s), false)
 }
 
 func TestActs(t *testing.T) {

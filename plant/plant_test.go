@@ -10,6 +10,7 @@ import (
 	"dynpos/api"
 	"dynpos/balance"
 	"dynpos/board"
+	"dynpos/clone"
 	"dynpos/restore"
 	"dynpos/shed"
 	"dynpos/sync"
@@ -89,7 +90,7 @@ func TestDo(t *testing.T) {
 	same(t, "events", q.Events, []api.Event{{Time: 3}, {Time: 7, Act: fail}, {Time: 7, Act: opened}, {Time: 7, Act: limited}})
 	same(t, "error", e, api.OK)
 	s1, _ := restore.Act(two(), p.Power, 7, fail)
-	s2, s3 := copied(s1), copied(s1)
+	s2, s3 := clone.Power(s1), clone.Power(s1)
 	s2.Closed[2], s3.Closed[2], s3.Limits[0] = false, false, 30
 	same(t, "states", states, []api.Power{s1, s2, s3})
 	same(t, "the plant", []any{q.Power, q.Time, q.Rosters}, []any{s3, 7, p.Rosters})
@@ -100,9 +101,9 @@ func TestDoFollows(t *testing.T) {
 	p := lit(0, 1, 2)
 	p.Power.Sources[1].Phase = 9
 	q, states, _ := Do(two(), p, act(api.ActLimit, 0, 50))
-	first := copied(p.Power)
+	first := clone.Power(p.Power)
 	first.Limits[0] = 50
-	second := copied(first)
+	second := clone.Power(first)
 	second.Sources[1].Phase = 0
 	same(t, "states", []any{states, q.Power}, []any{[]api.Power{first, second}, second})
 }

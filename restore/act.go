@@ -6,6 +6,7 @@ import (
 
 	"dynpos/api"
 	"dynpos/board"
+	"dynpos/clone"
 	"dynpos/sync"
 )
 
@@ -37,7 +38,7 @@ func Act(b api.Board, p api.Power, time int, a api.Act) (api.Power, api.Errno) {
 	if a.Unit < 0 || a.Unit >= count(b, kind) {
 		return api.Power{}, api.ErrUnknown
 	}
-	q := copied(p)
+	q := clone.Power(p)
 	if e := apply(b, &q, time, a); e != api.OK {
 		return api.Power{}, e
 	}

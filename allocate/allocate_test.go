@@ -1,4 +1,4 @@
-package allocate
+package allocate_test
 
 import (
 	"fmt"
@@ -7,6 +7,7 @@ import (
 	"slices"
 	"testing"
 
+	"dynpos/allocate"
 	"dynpos/api"
 	"dynpos/sector"
 	"dynpos/share"
@@ -42,19 +43,19 @@ func TestStations(t *testing.T) {
 		{api.Force{Surge: 5000, Sway: -5000, Yaw: 500000}, api.Demand{Surge: 5000, Bow: 2000, Stern: -7000}, api.OK},
 		{api.Force{Surge: 5001}, api.Demand{}, api.ErrRange}, {api.Force{Sway: -5001}, api.Demand{}, api.ErrRange}, {api.Force{Yaw: 500001}, api.Demand{}, api.ErrRange}, {api.Force{Yaw: math.MinInt}, api.Demand{}, api.ErrRange},
 	} {
-		d, e := Stations(ship(), x.f)
+		d, e := allocate.Stations(ship(), x.f)
 		same(t, fmt.Sprint(x.f), []any{d, e}, []any{x.want, x.e})
 	}
 	short := api.Ship{Bow: 1}
-	d, e := Stations(short, api.Force{Yaw: 500000})
+	d, e := allocate.Stations(short, api.Force{Yaw: 500000})
 	same(t, "a short ship", []any{d, e}, []any{api.Demand{Bow: 500000, Stern: -500000}, api.OK})
-	d, e = Stations(short, api.Force{Sway: -1, Yaw: 500000})
+	d, e = allocate.Stations(short, api.Force{Sway: -1, Yaw: 500000})
 	same(t, "too much at the stern", []any{d, e}, []any{api.Demand{}, api.ErrRange})
-	d, e = Stations(api.Ship{Stern: 1}, api.Force{Sway: 1, Yaw: 500000})
+	d, e = allocate.Stations(api.Ship{Stern: 1}, api.Force{Sway: 1, Yaw: 500000})
 	same(t, "too much at the bow", []any{d, e}, []any{api.Demand{}, api.ErrRange})
-	d, e = Stations(api.Ship{}, api.Force{Surge: 5001})
+	d, e = allocate.Stations(api.Ship{}, api.Force{Surge: 5001})
 	same(t, "a wrong ship", []any{d, e}, []any{api.Demand{}, api.ErrRange})
-	d, e = Stations(api.Ship{Bow: 1, Thrusters: make([]api.Thruster, 1)}, api.Force{Surge: 5001})
+	d, e = allocate.Stations(api.Ship{Bow: 1, Thrusters: make([]api.Thruster, 1)}, api.Force{Surge: 5001})
 	same(t, "a wrong thruster", []any{d, e}, []any{api.Demand{}, api.ErrPlant})
 }
 
@@ -72,18 +73,18 @@ func TestLaterals(t *testing.T) {
 		{[]int{50, 5000, 0, 30}, last, api.StationStern, []api.Share{{Cost: 2}, {Cost: 1}, {Cost: 1}, {Low: -30, High: -25, Cost: 3}}},
 		{[]int{50, 0, 0, 0}, last, api.StationBow, []api.Share{{Low: 50, High: 50, Cost: 2}, {Cost: 1}, {Cost: 1}, {Cost: 3}}},
 	} {
-		got, e := Laterals(ship(), x.max, x.last, x.station)
+		got, e := allocate.Laterals(ship(), x.max, x.last, x.station)
 		same(t, fmt.Sprint(x), []any{got, e}, []any{x.want, api.OK})
 	}
 }
 
 func TestSurges(t *testing.T) {
 	last := []api.Thrust{{}, {X: 50}, {X: -9}, {X: 95}}
-	got, e := Surges(ship(), whole(), nil, []int{30, -60, 0, 80})
+	got, e := allocate.Surges(ship(), whole(), nil, []int{30, -60, 0, 80})
 	same(t, "without rates", []any{got, e}, []any{[]api.Share{{Cost: 2}, {Low: -80, High: 80, Cost: 1}, {Low: -200, High: 200, Cost: 1}, {Low: -60, High: 60, Cost: 3}}, api.OK})
-	got, e = Surges(ship(), whole(), last, []int{30, -60, 0, 80})
+	got, e = allocate.Surges(ship(), whole(), last, []int{30, -60, 0, 80})
 	same(t, "with rates", []any{got, e}, []any{[]api.Share{{Cost: 2}, {Low: 30, High: 70, Cost: 1}, {Low: -14, High: -4, Cost: 1}, {Low: 60, High: 60, Cost: 3}}, api.OK})
-	got, e = Surges(ship(), whole(), nil, []int{30, 10, 1, 101})
+	got, e = allocate.Surges(ship(), whole(), nil, []int{30, 10, 1, 101})
 	same(t, "beside forces that are not allowed", []any{got, e}, []any{[]api.Share{{Cost: 2}, {Cost: 1}, {Cost: 1}, {Cost: 3}}, api.OK})
 }
 
@@ -99,41 +100,41 @@ func TestErrors(t *testing.T) {
 		{ship(), nil, nil, api.ErrShape}, {ship(), []int{1, 2, 3, 4, 5}, nil, api.ErrShape}, {ship(), whole(), make([]api.Thrust, 3), api.ErrShape}, {ship(), []int{-1, 0, 0}, nil, api.ErrShape},
 		{ship(), []int{0, 0, 0, -1}, nil, api.ErrRange}, {ship(), []int{0, 0, 5001, 0}, nil, api.ErrRange}, {ship(), whole(), []api.Thrust{{}, {X: 5001}, {}, {}}, api.ErrRange}, {ship(), whole(), []api.Thrust{{}, {}, {}, {Y: -5001}}, api.ErrRange}, {ship(), whole(), []api.Thrust{{}, {}, {}, {Y: math.MinInt}}, api.ErrRange},
 	} {
-		l, e1 := Laterals(x.s, x.max, x.last, 7)
-		m, e2 := Surges(x.s, x.max, x.last, make([]int, len(x.s.Thrusters)))
-		a, e3 := Divide(x.s, x.max, x.last, api.Demand{Bow: math.MaxInt})
+		l, e1 := allocate.Laterals(x.s, x.max, x.last, 7)
+		m, e2 := allocate.Surges(x.s, x.max, x.last, make([]int, len(x.s.Thrusters)))
+		a, e3 := allocate.Divide(x.s, x.max, x.last, api.Demand{Bow: math.MaxInt})
 		same(t, fmt.Sprint(x), []any{l, e1, m, e2, a, e3}, []any{[]int{}, x.want, []int{}, x.want, api.Allocation{}, x.want})
-		if Check(x.s, x.max, x.last, api.Demand{}, api.Allocation{Thrusts: make([]api.Thrust, len(x.s.Thrusters))}) || len(x.last) == 0 && Holds(x.s, x.max, api.Demand{}) {
+		if allocate.Check(x.s, x.max, x.last, api.Demand{}, api.Allocation{Thrusts: make([]api.Thrust, len(x.s.Thrusters))}) || len(x.last) == 0 && allocate.Holds(x.s, x.max, api.Demand{}) {
 			t.Errorf("%v: Check or Holds", x)
 		}
 	}
 	for _, station := range []int{-1, 2} {
-		_, e := Laterals(ship(), whole(), nil, station)
+		_, e := allocate.Laterals(ship(), whole(), nil, station)
 		same(t, "station", e, api.ErrRange)
 	}
 	for _, y := range [][]int{{1}, {0, 0, 0, 0, 0}} {
-		_, e := Surges(ship(), whole(), nil, y)
+		_, e := allocate.Surges(ship(), whole(), nil, y)
 		same(t, "y", e, api.ErrShape)
 	}
 	for _, y := range [][]int{{5001, 0, 0, 0}, {0, 0, 0, -5001}} {
-		_, e := Surges(ship(), whole(), nil, y)
+		_, e := allocate.Surges(ship(), whole(), nil, y)
 		same(t, "y", e, api.ErrRange)
 	}
 	for _, d := range []api.Demand{{Surge: 500001}, {Bow: -500001}, {Stern: 500001}} {
-		a, e := Divide(ship(), whole(), nil, d)
+		a, e := allocate.Divide(ship(), whole(), nil, d)
 		same(t, "demand", []any{a, e}, []any{api.Allocation{}, api.ErrRange})
-		a, _ = Divide(ship(), whole(), nil, api.Demand{Surge: min(d.Surge, 500000), Bow: max(d.Bow, -500000), Stern: min(d.Stern, 500000)})
+		a, _ = allocate.Divide(ship(), whole(), nil, api.Demand{Surge: min(d.Surge, 500000), Bow: max(d.Bow, -500000), Stern: min(d.Stern, 500000)})
 		a.Missing = api.Demand{Surge: d.Surge - a.Given.Surge, Bow: d.Bow - a.Given.Bow, Stern: d.Stern - a.Given.Stern}
-		same(t, "Check of a demand out of range", Check(ship(), whole(), nil, d, a), false)
+		same(t, "Check of a demand out of range", allocate.Check(ship(), whole(), nil, d, a), false)
 	}
 }
 
 func TestDivide(t *testing.T) {
-	a, e := Divide(ship(), whole(), nil, api.Demand{Surge: 100, Bow: -30, Stern: 40})
+	a, e := allocate.Divide(ship(), whole(), nil, api.Demand{Surge: 100, Bow: -30, Stern: 40})
 	same(t, "without rates", []any{a, e}, []any{api.Allocation{Thrusts: []api.Thrust{{Y: -10}, {X: 43, Y: -20}, {X: 43}, {X: 14, Y: 40}}, Given: api.Demand{Surge: 100, Bow: -30, Stern: 40}}, api.OK})
-	a, e = Divide(ship(), whole(), make([]api.Thrust, 4), api.Demand{Surge: 100, Bow: 50, Stern: 40})
+	a, e = allocate.Divide(ship(), whole(), make([]api.Thrust, 4), api.Demand{Surge: 100, Bow: 50, Stern: 40})
 	same(t, "with rates", []any{a, e}, []any{api.Allocation{Thrusts: []api.Thrust{{Y: 10}, {X: 20}, {X: 5}, {X: 15, Y: 15}}, Given: api.Demand{Surge: 40, Bow: 10, Stern: 15}, Missing: api.Demand{Surge: 60, Bow: 40, Stern: 25}}, api.OK})
-	a, e = Divide(api.Ship{Bow: 1}, nil, nil, api.Demand{Surge: 5})
+	a, e = allocate.Divide(api.Ship{Bow: 1}, nil, nil, api.Demand{Surge: 5})
 	same(t, "without thrusters", []any{a, e}, []any{api.Allocation{Missing: api.Demand{Surge: 5}}, api.OK})
 }
 
@@ -142,7 +143,7 @@ func TestHolds(t *testing.T) {
 		d    api.Demand
 		want bool
 	}{{api.Demand{}, true}, {api.Demand{Surge: 400}, true}, {api.Demand{Surge: 401}, false}, {api.Demand{Bow: 100}, true}, {api.Demand{Bow: 101}, false}, {api.Demand{Bow: -200}, true}, {api.Demand{Stern: 101}, false}, {api.Demand{Surge: 201, Stern: 100, Bow: -200}, false}, {api.Demand{Surge: 500001}, false}} {
-		same(t, fmt.Sprint(x.d), Holds(ship(), whole(), x.d), x.want)
+		same(t, fmt.Sprint(x.d), allocate.Holds(ship(), whole(), x.d), x.want)
 	}
 }
 
@@ -168,8 +169,8 @@ func TestCheckHoldsForDivide(t *testing.T) {
 		var last []api.Thrust
 		for range 3 {
 			d := api.Demand{Surge: r.Intn(601) - 300, Bow: r.Intn(401) - 200, Stern: r.Intn(401) - 200}
-			a, e := Divide(s, most, last, d)
-			if e != api.OK || !Check(s, most, last, d, a) {
+			a, e := allocate.Divide(s, most, last, d)
+			if e != api.OK || !allocate.Check(s, most, last, d, a) {
 				t.Fatalf("%v, %v, %v: %v, error %d", s, last, d, a, e)
 			}
 			for i, v := range a.Thrusts {
@@ -193,7 +194,7 @@ func wrongs(t *testing.T, r *rand.Rand, s api.Ship, most []int, last []api.Thrus
 	b.Given.Bow++
 	c := a
 	c.Missing.Surge--
-	if Check(s, most, last, d, b) || Check(s, most, last, d, c) || len(a.Thrusts) > 0 && Check(s, most, last, d, api.Allocation{Given: a.Given, Missing: a.Missing}) {
+	if allocate.Check(s, most, last, d, b) || allocate.Check(s, most, last, d, c) || len(a.Thrusts) > 0 && allocate.Check(s, most, last, d, api.Allocation{Given: a.Given, Missing: a.Missing}) {
 		t.Fatalf("%v: Check of wrong sums", a)
 	}
 	if len(a.Thrusts) < 2 {
@@ -209,8 +210,8 @@ func wrongs(t *testing.T, r *rand.Rand, s api.Ship, most []int, last []api.Thrus
 	for i, v := range b.Thrusts {
 		x[i], y[i] = v.X, v.Y
 	}
-	l, _ := Surges(s, most, last, y)
-	if Check(s, most, last, d, b) != share.Check(l, d.Surge, x) {
+	l, _ := allocate.Surges(s, most, last, y)
+	if allocate.Check(s, most, last, d, b) != share.Check(l, d.Surge, x) {
 		t.Fatalf("%v: Check of %v", a, b)
 	}
 }

@@ -1,17 +1,21 @@
-package arith
+package arith_test
 
 import (
 	"math"
 	"testing"
 
 	"dynpos/api"
+	"dynpos/arith"
 )
+
+// most is the greatest number that is divided.
+const most = api.MaxNumber * api.MaxNumber
 
 var numbers = []int{math.MinInt, math.MinInt + 1, -most - 1, -most, -api.MaxNumber - 1, -api.MaxNumber, -3600, -7, -2, -1, 0, 1, 2, 3, 7, 3600, api.MaxNumber, api.MaxNumber + 1, most, most + 1, math.MaxInt - 1, math.MaxInt}
 
 func TestClamp(t *testing.T) {
 	for _, x := range [][4]int{{5, 0, 3, 3}, {-5, 0, 3, 0}, {2, 0, 3, 2}, {2, 5, 3, 5}, {9, 5, 3, 5}, {math.MinInt, math.MinInt, math.MaxInt, math.MinInt}, {math.MaxInt, 1, 2, 2}} {
-		if got := Clamp(x[0], x[1], x[2]); got != x[3] {
+		if got := arith.Clamp(x[0], x[1], x[2]); got != x[3] {
 			t.Errorf("Clamp of %v: %d", x, got)
 		}
 	}
@@ -20,7 +24,7 @@ func TestClamp(t *testing.T) {
 func TestNear(t *testing.T) {
 	const m = api.MaxNumber
 	for _, x := range [][4]int{{10, 20, 4, 14}, {10, 0, 4, 6}, {10, 12, 4, 12}, {10, 20, 1, 11}, {10, 14, 4, 14}, {10, 20, 0, 10}, {10, 20, -1, 10}, {10, m + 1, 4, 10}, {10, -m - 1, 4, 10}, {10, 20, m + 1, 10}, {m + 1, 0, 4, m + 1}, {-m - 1, 0, 4, -m - 1}, {m, -m, m, 0}, {-m, m, m, 0}, {0, m, m, m}, {math.MinInt, 0, 1, math.MinInt}} {
-		if got := Near(x[0], x[1], x[2]); got != x[3] {
+		if got := arith.Near(x[0], x[1], x[2]); got != x[3] {
 			t.Errorf("Near of %v: %d", x, got)
 		}
 	}
@@ -30,10 +34,10 @@ func TestDivisionsOfSmallNumbers(t *testing.T) {
 	for n := -60; n <= 60; n++ {
 		for d := 1; d <= 13; d++ {
 			exact := float64(n) / float64(d)
-			down, e1 := Floor(n, d)
-			up, e2 := Up(n, d)
-			half, e3 := Half(n, d)
-			mod, e4 := Mod(n, d)
+			down, e1 := arith.Floor(n, d)
+			up, e2 := arith.Up(n, d)
+			half, e3 := arith.Half(n, d)
+			mod, e4 := arith.Mod(n, d)
 			if e1 != api.OK || e2 != api.OK || e3 != api.OK || e4 != api.OK {
 				t.Fatalf("%d / %d: %d %d %d %d", n, d, e1, e2, e3, e4)
 			}
@@ -45,7 +49,7 @@ func TestDivisionsOfSmallNumbers(t *testing.T) {
 }
 
 func TestDivisionsAtTheLimits(t *testing.T) {
-	for name, f := range map[string]func(n, d int) (int, api.Errno){"Floor": Floor, "Up": Up, "Half": Half, "Mod": Mod} {
+	for name, f := range map[string]func(n, d int) (int, api.Errno){"Floor": arith.Floor, "Up": arith.Up, "Half": arith.Half, "Mod": arith.Mod} {
 		for _, n := range numbers {
 			for _, d := range numbers {
 				right := n >= -most && n <= most && d >= 1 && d <= api.MaxNumber
@@ -56,10 +60,10 @@ func TestDivisionsAtTheLimits(t *testing.T) {
 			}
 		}
 	}
-	if got, _ := Half(most, api.MaxNumber); got != api.MaxNumber {
+	if got, _ := arith.Half(most, api.MaxNumber); got != api.MaxNumber {
 		t.Errorf("Half at the limit: %d", got)
 	}
-	if got, _ := Half(-most, 1); got != -most {
+	if got, _ := arith.Half(-most, 1); got != -most {
 		t.Errorf("Half at the other limit: %d", got)
 	}
 }
@@ -67,10 +71,10 @@ func TestDivisionsAtTheLimits(t *testing.T) {
 func TestHalfIsFloorOfTwice(t *testing.T) {
 	for _, n := range []int{-api.MaxNumber, -12345, -3, 0, 3, 98765, api.MaxNumber} {
 		for _, d := range []int{1, 2, 3, 1000, api.MaxNumber / 2} {
-			half, _ := Half(n, d)
-			floor, _ := Floor(2*n+d, 2*d)
-			up, _ := Up(n, d)
-			down, _ := Floor(-n, d)
+			half, _ := arith.Half(n, d)
+			floor, _ := arith.Floor(2*n+d, 2*d)
+			up, _ := arith.Up(n, d)
+			down, _ := arith.Floor(-n, d)
 			if half != floor || up != -down {
 				t.Errorf("%d / %d: %d and %d, %d and %d", n, d, half, floor, up, -down)
 			}
@@ -80,7 +84,7 @@ func TestHalfIsFloorOfTwice(t *testing.T) {
 
 func TestRoot(t *testing.T) {
 	check := func(n int) {
-		r, e := Root(n)
+		r, e := arith.Root(n)
 		if e != api.OK || r < 0 || r*r > n || (r+1)*(r+1) <= n {
 			t.Errorf("Root of %d: %d, error %d", n, r, e)
 		}
@@ -93,7 +97,7 @@ func TestRoot(t *testing.T) {
 		check(r*r - 1)
 	}
 	for _, n := range []int{-1, most + 1, math.MinInt, math.MaxInt} {
-		if r, e := Root(n); r != 0 || e != api.ErrRange {
+		if r, e := arith.Root(n); r != 0 || e != api.ErrRange {
 			t.Errorf("Root of %d: %d, error %d", n, r, e)
 		}
 	}

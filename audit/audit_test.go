@@ -1,4 +1,4 @@
-package audit
+package audit_test
 
 import (
 	"fmt"
@@ -7,6 +7,7 @@ import (
 	"testing"
 
 	"dynpos/api"
+	"dynpos/audit"
 	"dynpos/example"
 	"dynpos/logbook"
 	"dynpos/plant"
@@ -63,7 +64,7 @@ func say(s *api.State) {
 func TestTick(t *testing.T) {
 	v := example.Vessel()
 	states, inputs := sail(t, v, 9)
-	same(t, "what Tick makes", Tick(v, states[8], inputs[8], states[9]), []int{})
+	same(t, "what Tick makes", audit.Tick(v, states[8], inputs[8], states[9]), []int{})
 	for _, x := range []struct {
 		name   string
 		change func(v *api.Vessel, s *api.State, in *api.Input, next *api.State)
@@ -138,7 +139,7 @@ func TestTick(t *testing.T) {
 	} {
 		v, s, in, next := v, states[8], inputs[8], states[9]
 		x.change(&v, &s, &in, &next)
-		same(t, x.name, Tick(v, s, in, next), append([]int{}, x.want...))
+		same(t, x.name, audit.Tick(v, s, in, next), append([]int{}, x.want...))
 	}
 }
 
@@ -146,9 +147,9 @@ func TestOverloaded(t *testing.T) {
 	v := example.Vessel()
 	states, inputs := sail(t, v, 2)
 	v.Board.Sources[0].Rating = 449
-	same(t, "overloaded", Tick(v, states[1], inputs[1], states[2]), []int{4})
+	same(t, "overloaded", audit.Tick(v, states[1], inputs[1], states[2]), []int{4})
 	v.Board.Sources[0].Rating = 450
-	same(t, "just not", Tick(v, states[1], inputs[1], states[2]), []int{})
+	same(t, "just not", audit.Tick(v, states[1], inputs[1], states[2]), []int{})
 }
 
 func TestPowers(t *testing.T) {
@@ -159,9 +160,9 @@ func TestPowers(t *testing.T) {
 	in.Acts = []api.Act{{Kind: api.ActLimit, Unit: 1, Value: 99}}
 	fail := api.Act{Kind: api.ActFail, Unit: 0, Value: api.PartSource}
 	want, _ := plant.Trace(v.Board, v.Table, states[0].Plant, []api.Act{fail, in.Acts[0]})
-	got, e := Powers(v, states[0], in)
+	got, e := audit.Powers(v, states[0], in)
 	same(t, "Powers", []any{got, e, len(got) > 5}, []any{want, api.OK, true})
-	got, e = Powers(v, api.State{}, in)
+	got, e = audit.Powers(v, api.State{}, in)
 	same(t, "no plant", []any{got, e}, []any{[]int{}, api.ErrShape})
 }
 
@@ -174,34 +175,34 @@ func TestSound(t *testing.T) {
 	tied.Closed[0] = true
 	apart.Sources = slices.Clone(p.Sources)
 	apart.Sources[1].Phase = 900
-	same(t, "Sound", []bool{Sound(v, nil), Sound(v, []api.Power{p, p, tied, p}), Sound(v, []api.Power{apart, tied}), Sound(v, []api.Power{p, apart, tied}), Sound(v, []api.Power{p, {}}), Sound(v, []api.Power{{}})}, []bool{true, true, false, false, false, false})
+	same(t, "Sound", []bool{audit.Sound(v, nil), audit.Sound(v, []api.Power{p, p, tied, p}), audit.Sound(v, []api.Power{apart, tied}), audit.Sound(v, []api.Power{p, apart, tied}), audit.Sound(v, []api.Power{p, {}}), audit.Sound(v, []api.Power{{}})}, []bool{true, true, false, false, false, false})
 }
 
 func TestVoyage(t *testing.T) {
 	v := example.Vessel()
 	states, inputs := sail(t, v, 12)
-	n, rules, e := Voyage(v, states, inputs)
+	n, rules, e := audit.Voyage(v, states, inputs)
 	same(t, "what Tick makes", []any{n, rules, e}, []any{-1, []int{}, api.OK})
 	claimed := slices.Clone(states)
 	claimed[7].Thrusts, claimed[9].Alarms = []api.Thrust{{}, {X: 201}, {}, {}}, nil
 	for range 20 {
-		n, rules, e = Voyage(v, claimed, inputs)
+		n, rules, e = audit.Voyage(v, claimed, inputs)
 		same(t, "two wrong states", []any{n, rules, e}, []any{6, []int{5}, api.OK})
 	}
 	claimed[0].Book.Sum++
-	n, rules, _ = Voyage(v, claimed, inputs)
+	n, rules, _ = audit.Voyage(v, claimed, inputs)
 	same(t, "a wrong beginning", []any{n, rules}, []any{0, []int{0}})
-	n, rules, e = Voyage(v, states[:1], nil)
+	n, rules, e = audit.Voyage(v, states[:1], nil)
 	same(t, "no ticks", []any{n, rules, e}, []any{-1, []int{}, api.OK})
 	for i, x := range []struct {
 		states []api.State
 		l      []api.Input
 		want   api.Errno
 	}{{nil, make([]api.Input, 61), api.ErrLimit}, {states, nil, api.ErrShape}, {nil, nil, api.ErrShape}, {states[:12], inputs, api.ErrShape}} {
-		n, rules, e := Voyage(v, x.states, x.l)
+		n, rules, e := audit.Voyage(v, x.states, x.l)
 		same(t, fmt.Sprint(i), []any{n, rules, e}, []any{0, []int{}, x.want})
 	}
-	n, rules, e = Voyage(v, make([]api.State, 61), make([]api.Input, 60))
+	n, rules, e = audit.Voyage(v, make([]api.State, 61), make([]api.Input, 60))
 	same(t, "60 ticks", []any{n, rules, e}, []any{0, []int{0}, api.OK})
 }
 
@@ -226,7 +227,7 @@ func TestManyTicks(t *testing.T) {
 			}
 			states, inputs = append(states, next), append(inputs, in)
 		}
-		n, rules, e := Voyage(v, states, inputs)
+		n, rules, e := audit.Voyage(v, states, inputs)
 		same(t, "what Tick makes", []any{n, rules, e}, []any{-1, []int{}, api.OK})
 	}
 }

@@ -1,4 +1,4 @@
-package balance
+package balance_test
 
 import (
 	"fmt"
@@ -7,6 +7,7 @@ import (
 	"testing"
 
 	"dynpos/api"
+	"dynpos/balance"
 )
 
 func same(t *testing.T, name string, got, want any) {
@@ -28,12 +29,21 @@ func plant() (api.Board, api.Power) {
 func TestLoadAndRating(t *testing.T) {
 	b, p := plant()
 	for bus, want := range map[int][3]any{0: {151, 150, true}, 1: {151, 150, true}, 2: {0, 0, false}, 3: {0, 0, false}, -1: {0, 0, false}} {
-		same(t, fmt.Sprint(bus), []any{Load(b, p, bus), Rating(b, p, bus), Overloaded(b, p, bus)}, want)
+		same(t, fmt.Sprint(bus), []any{balance.Load(b, p, bus), balance.Rating(b, p, bus), balance.Overloaded(b, p, bus)}, want)
 	}
 	p.Limits[0] = 79
-	same(t, "just not overloaded", Overloaded(b, p, 1), false)
+	same(t, "just not overloaded", balance.Overloaded(b, p, 1), false)
 	p.Limits[0] = 81
-	same(t, "no state", []any{Load(b, p, 0), Rating(b, p, 0), Overloaded(b, p, 0)}, []any{0, 0, false})
+	same(t, "no state", []any{balance.Load(b, p, 0), balance.Rating(b, p, 0), balance.Overloaded(b, p, 0)}, []any{0, 0, false})
+}
+
+// sum returns the sum of numbers.
+func sum(l []int) int {
+	s := 0
+	for _, n := range l {
+		s += n
+	}
+	return s
 }
 
 func TestSplit(t *testing.T) {
@@ -46,9 +56,9 @@ func TestSplit(t *testing.T) {
 		{10, []int{2, 2, 2}, []int{4, 3, 3}, api.OK}, {0, nil, nil, api.OK}, {0, []int{7}, []int{0}, api.OK}, {7, []int{1, 2, 4}, []int{1, 2, 4}, api.OK}, {8, []int{1, 2, 4}, []int{1, 2, 5}, api.OK}, {2, []int{1, 1, 1}, []int{1, 1, 0}, api.OK}, {5, []int{1, 3, 6}, []int{1, 1, 3}, api.OK}, {800000, []int{50000, 50000, 1}, []int{399996, 399996, 8}, api.OK},
 		{1, nil, nil, api.ErrNone}, {-1, nil, nil, api.ErrRange}, {800001, nil, nil, api.ErrRange}, {1, []int{0}, nil, api.ErrRange}, {1, []int{1, 50001}, nil, api.ErrRange}, {-1, make([]int, 9), nil, api.ErrLimit}, {math.MinInt, []int{1}, nil, api.ErrRange},
 	} {
-		got, e := Split(x.total, x.ratings)
+		got, e := balance.Split(x.total, x.ratings)
 		same(t, fmt.Sprint(x), []any{got, e}, []any{append([]int{}, x.want...), x.e})
-		same(t, fmt.Sprint(x), Check(x.total, x.ratings, got), x.e == api.OK)
+		same(t, fmt.Sprint(x), balance.Check(x.total, x.ratings, got), x.e == api.OK)
 	}
 }
 
@@ -60,8 +70,8 @@ func TestSplitIsFair(t *testing.T) {
 			ratings = append(ratings, 1+r.Intn(30))
 		}
 		total := r.Intn(sum(ratings) + 1)
-		l, e := Split(total, ratings)
-		if e != api.OK || sum(l) != total || !Check(total, ratings, l) {
+		l, e := balance.Split(total, ratings)
+		if e != api.OK || sum(l) != total || !balance.Check(total, ratings, l) {
 			t.Fatalf("%d, %v: %v, error %d", total, ratings, l, e)
 		}
 		for i, n := range l {
@@ -85,7 +95,7 @@ func TestCheck(t *testing.T) {
 		ratings, l []int
 		want       bool
 	}{{10, []int{2, 2, 2}, []int{3, 4, 3}, true}, {10, []int{2, 2, 2}, []int{3, 3, 3}, false}, {10, []int{2, 2, 2}, []int{4, 4, 2}, false}, {10, []int{2, 2, 2}, []int{4, 4, 3}, false}, {10, []int{2, 2, 2}, []int{4, 3}, false}, {6, []int{1, 2}, []int{2, 4}, true}, {6, []int{1, 2}, []int{3, 3}, false}, {0, nil, nil, true}, {1, nil, nil, false}, {1, []int{0}, []int{1}, false}, {5, []int{1, 1}, []int{math.MaxInt, math.MinInt}, false}} {
-		same(t, fmt.Sprint(x), Check(x.total, x.ratings, x.l), x.want)
+		same(t, fmt.Sprint(x), balance.Check(x.total, x.ratings, x.l), x.want)
 	}
 }
 
@@ -100,7 +110,7 @@ func TestCheckByItsDefinition(t *testing.T) {
 					exact := total * ratings[i]
 					want = want && (n == exact/7 || n == (exact+6)/7)
 				}
-				same(t, fmt.Sprint(total, l), Check(total, ratings, l), want)
+				same(t, fmt.Sprint(total, l), balance.Check(total, ratings, l), want)
 			}
 		}
 	}
@@ -108,12 +118,12 @@ func TestCheckByItsDefinition(t *testing.T) {
 
 func TestOf(t *testing.T) {
 	b, p := plant()
-	l, e := Of(b, p)
+	l, e := balance.Of(b, p)
 	same(t, "Of", []any{l, e}, []any{[]int{101, 50, 0}, api.OK})
 	p.Closed[0] = false
-	l, e = Of(b, p)
+	l, e = balance.Of(b, p)
 	same(t, "two islands", []any{l, e}, []any{[]int{80, 71, 0}, api.OK})
 	p.Limits = nil
-	l, e = Of(b, p)
+	l, e = balance.Of(b, p)
 	same(t, "no state", []any{l, e}, []any{[]int{}, api.ErrShape})
 }

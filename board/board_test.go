@@ -1,4 +1,4 @@
-package board
+package board_test
 
 import (
 	"fmt"
@@ -8,6 +8,7 @@ import (
 	"testing"
 
 	"dynpos/api"
+	"dynpos/board"
 )
 
 func same(t *testing.T, name string, got, want any) {
@@ -41,22 +42,22 @@ func lit(closed ...int) api.Power {
 }
 
 func TestCheck(t *testing.T) {
-	same(t, "three", Check(three()), api.OK)
-	same(t, "one bus", Check(api.Board{Buses: 1}), api.OK)
+	same(t, "three", board.Check(three()), api.OK)
+	same(t, "one bus", board.Check(api.Board{Buses: 1}), api.OK)
 	edge := three()
 	edge.Phase, edge.Frequency, edge.Sources[0], edge.Consumers[0] = 1800, 6000, api.Source{Rating: 50000, Least: 50000, Start: 600}, api.Consumer{Load: 50000, Least: 50000, Thruster: 7, Preference: 15}
-	same(t, "greatest numbers", Check(edge), api.OK)
+	same(t, "greatest numbers", board.Check(edge), api.OK)
 	edge.Breakers = append(edge.Breakers, api.Breaker{Kind: api.BreakerTie, A: 0, B: 1})
-	same(t, "two ties", Check(edge), api.OK)
+	same(t, "two ties", board.Check(edge), api.OK)
 	needy := api.Board{Buses: 1}
 	for i := range 6 {
 		needy.Breakers = append(needy.Breakers, api.Breaker{Kind: api.BreakerConsumer, B: i})
 		needy.Consumers = append(needy.Consumers, api.Consumer{Thruster: -1})
 	}
 	needy.Consumers[5].Needs = []int{0, 1, 2, 4}
-	same(t, "four needs", Check(needy), api.OK)
+	same(t, "four needs", board.Check(needy), api.OK)
 	needy.Consumers[5].Needs = []int{0, 1, 2, 3, 4}
-	same(t, "five needs", Check(needy), api.ErrPlant)
+	same(t, "five needs", board.Check(needy), api.ErrPlant)
 }
 
 // wrong has changes of the board with the error that they lead to.
@@ -80,34 +81,34 @@ func TestWrongBoards(t *testing.T) {
 		x.change(&b)
 		p := lit(0, 1, 2, 4)
 		name := fmt.Sprintf("wrong board %d", i)
-		same(t, name, Check(b), x.want)
-		same(t, name, State(b, p), x.want)
+		same(t, name, board.Check(b), x.want)
+		same(t, name, board.State(b, p), x.want)
 		nothing(t, name, b, p)
-		same(t, name, Find(b, api.BreakerTie, 1), []int{})
+		same(t, name, board.Find(b, api.BreakerTie, 1), []int{})
 	}
 }
 
 // nothing checks that all functions answer nothing.
 func nothing(t *testing.T, name string, b api.Board, p api.Power) {
 	t.Helper()
-	same(t, name, Islands(b, p), []int{})
-	x, ok := Of(b, p, 0)
+	same(t, name, board.Islands(b, p), []int{})
+	x, ok := board.Of(b, p, 0)
 	same(t, name, []any{x, ok}, []any{api.Island{}, false})
-	n, ok := Connected(b, p, 0)
+	n, ok := board.Connected(b, p, 0)
 	same(t, name, []any{n, ok}, []any{0, false})
-	n, ok = Fed(b, p, 0)
+	n, ok = board.Fed(b, p, 0)
 	same(t, name, []any{n, ok}, []any{0, false})
-	same(t, name, Live(b, p, 0), false)
+	same(t, name, board.Live(b, p, 0), false)
 }
 
 func TestState(t *testing.T) {
-	same(t, "dark", State(three(), dark()), api.OK)
-	same(t, "lit", State(three(), lit(0, 1, 2, 3, 4, 6)), api.OK)
+	same(t, "dark", board.State(three(), dark()), api.OK)
+	same(t, "lit", board.State(three(), lit(0, 1, 2, 3, 4, 6)), api.OK)
 	p := dark()
 	p.Broken = []api.Part{{Kind: 1, Number: 0}, {Kind: 1, Number: 1}, {Kind: 2, Number: 6}, {Kind: 3, Number: 0}, {Kind: 3, Number: 2}, {Kind: 4, Number: 0}, {Kind: 4, Number: 1}}
 	p.Sources[0] = api.Running{State: 3, Since: api.MaxTime, Frequency: 6000, Phase: 3599}
 	p.Limits = []int{0, 70}
-	same(t, "edges", State(three(), p), api.OK)
+	same(t, "edges", board.State(three(), p), api.OK)
 	for i, x := range []struct {
 		change func(p *api.Power)
 		want   api.Errno
@@ -121,7 +122,7 @@ func TestState(t *testing.T) {
 		p := lit(0, 2)
 		x.change(&p)
 		name := fmt.Sprintf("wrong state %d", i)
-		same(t, name, State(three(), p), x.want)
+		same(t, name, board.State(three(), p), x.want)
 		nothing(t, name, three(), p)
 	}
 }
@@ -142,28 +143,28 @@ func TestTooManyBroken(t *testing.T) {
 	for i := range 8 {
 		p.Broken = append(p.Broken, api.Part{Kind: api.PartConsumer, Number: i})
 	}
-	same(t, "32 broken parts", State(b, p), api.OK)
+	same(t, "32 broken parts", board.State(b, p), api.OK)
 	p.Broken = append(p.Broken, api.Part{Kind: api.PartConsumer, Number: 8})
-	same(t, "33 broken parts", State(b, p), api.ErrState)
+	same(t, "33 broken parts", board.State(b, p), api.ErrState)
 }
 
 func TestBroken(t *testing.T) {
 	p := api.Power{Broken: []api.Part{{Kind: 9, Number: 5}, {Kind: 1, Number: 2}}}
-	same(t, "Broken", []bool{Broken(p, 9, 5), Broken(p, 1, 2), Broken(p, 1, 5), Broken(api.Power{}, 0, 0)}, []bool{true, true, false, false})
+	same(t, "Broken", []bool{board.Broken(p, 9, 5), board.Broken(p, 1, 2), board.Broken(p, 1, 5), board.Broken(api.Power{}, 0, 0)}, []bool{true, true, false, false})
 }
 
 func TestIslands(t *testing.T) {
-	same(t, "all open", Islands(three(), lit()), []api.Island{{Buses: []int{0}}, {Buses: []int{1}}, {Buses: []int{2}}})
+	same(t, "all open", board.Islands(three(), lit()), []api.Island{{Buses: []int{0}}, {Buses: []int{1}}, {Buses: []int{2}}})
 	p := lit(1, 2, 3, 5, 6)
-	same(t, "two islands", Islands(three(), p), []api.Island{{Buses: []int{0}, Sources: []int{0}}, {Buses: []int{1, 2}, Sources: []int{1}, Consumers: []int{0, 1}}})
+	same(t, "two islands", board.Islands(three(), p), []api.Island{{Buses: []int{0}, Sources: []int{0}}, {Buses: []int{1, 2}, Sources: []int{1}, Consumers: []int{0, 1}}})
 	p.Sources[1].State = api.SourceStarting
-	same(t, "not connected", Islands(three(), p), []api.Island{{Buses: []int{0}, Sources: []int{0}}, {Buses: []int{1, 2}, Consumers: []int{0, 1}}})
-	same(t, "live", []bool{Live(three(), p, 0), Live(three(), p, 1), Live(three(), p, 2), Live(three(), p, 3), Live(three(), p, -1)}, []bool{true, false, false, false, false})
-	x, ok := Of(three(), p, 2)
+	same(t, "not connected", board.Islands(three(), p), []api.Island{{Buses: []int{0}, Sources: []int{0}}, {Buses: []int{1, 2}, Consumers: []int{0, 1}}})
+	same(t, "live", []bool{board.Live(three(), p, 0), board.Live(three(), p, 1), board.Live(three(), p, 2), board.Live(three(), p, 3), board.Live(three(), p, -1)}, []bool{true, false, false, false, false})
+	x, ok := board.Of(three(), p, 2)
 	same(t, "Of", []any{x, ok}, []any{api.Island{Buses: []int{1, 2}, Consumers: []int{0, 1}}, true})
-	x, ok = Of(three(), p, 3)
+	x, ok = board.Of(three(), p, 3)
 	same(t, "Of no bus", []any{x, ok}, []any{api.Island{}, false})
-	same(t, "one island", Islands(three(), lit(0, 1, 2, 3, 4)), []api.Island{{Buses: []int{0, 1, 2}, Sources: []int{0, 1}, Consumers: []int{0}}})
+	same(t, "one island", board.Islands(three(), lit(0, 1, 2, 3, 4)), []api.Island{{Buses: []int{0, 1, 2}, Sources: []int{0, 1}, Consumers: []int{0}}})
 }
 
 func TestConnectedAndFed(t *testing.T) {
@@ -174,14 +175,14 @@ func TestConnectedAndFed(t *testing.T) {
 		number int
 		bus    int
 		ok     bool
-	}{{Connected, 0, 0, true}, {Connected, 1, 0, false}, {Connected, -1, 0, false}, {Connected, 2, 0, false}, {Fed, 0, 1, true}, {Fed, 1, 0, false}, {Fed, 2, 0, false}, {Fed, -1, 0, false}} {
+	}{{board.Connected, 0, 0, true}, {board.Connected, 1, 0, false}, {board.Connected, -1, 0, false}, {board.Connected, 2, 0, false}, {board.Fed, 0, 1, true}, {board.Fed, 1, 0, false}, {board.Fed, 2, 0, false}, {board.Fed, -1, 0, false}} {
 		bus, ok := x.f(three(), p, x.number)
 		same(t, fmt.Sprint(x.number), []any{bus, ok}, []any{x.bus, x.ok})
 	}
 	p.Sources[0].State = api.SourceOff
-	bus, ok := Connected(three(), p, 0)
+	bus, ok := board.Connected(three(), p, 0)
 	same(t, "a generator that is off", []any{bus, ok}, []any{0, false})
-	bus, ok = Connected(three(), lit(2, 3), 1)
+	bus, ok = board.Connected(three(), lit(2, 3), 1)
 	same(t, "the last generator", []any{bus, ok}, []any{2, true})
 }
 
@@ -190,7 +191,7 @@ func TestFind(t *testing.T) {
 		kind, number int
 		want         []int
 	}{{api.BreakerTie, 1, []int{0, 1}}, {api.BreakerTie, 0, []int{0}}, {api.BreakerTie, 2, []int{1}}, {api.BreakerTie, 3, nil}, {api.BreakerSource, 1, []int{3}}, {api.BreakerSource, 2, nil}, {api.BreakerConsumer, 0, []int{4, 5}}, {api.BreakerConsumer, 1, []int{6}}, {0, 0, nil}, {4, 0, nil}} {
-		same(t, fmt.Sprint(x), Find(three(), x.kind, x.number), x.want)
+		same(t, fmt.Sprint(x), board.Find(three(), x.kind, x.number), x.want)
 	}
 }
 
@@ -207,20 +208,20 @@ func TestTiesMakeIslands(t *testing.T) {
 			p.Closed[i] = r.Intn(3) == 0
 		}
 		var all []int
-		for _, x := range Islands(b, p) {
+		for _, x := range board.Islands(b, p) {
 			all = append(all, x.Buses...)
 			for _, bus := range x.Buses {
-				if y, _ := Of(b, p, bus); !slices.Equal(x.Buses, y.Buses) {
+				if y, _ := board.Of(b, p, bus); !slices.Equal(x.Buses, y.Buses) {
 					t.Fatalf("%v: the island of %d is %v", x, bus, y)
 				}
 			}
 		}
 		slices.Sort(all)
 		same(t, "each bus is in one island", all, []int{0, 1, 2, 3, 4, 5})
-		before := len(Islands(b, p))
+		before := len(board.Islands(b, p))
 		i := r.Intn(8)
 		p.Closed[i] = true
-		if len(Islands(b, p)) > before {
+		if len(board.Islands(b, p)) > before {
 			t.Fatal("closing a tie made more islands")
 		}
 	}

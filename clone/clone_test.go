@@ -1,10 +1,11 @@
-package clone
+package clone_test
 
 import (
 	"reflect"
 	"testing"
 
 	"dynpos/api"
+	"dynpos/clone"
 )
 
 func TestPower(t *testing.T) {
@@ -12,7 +13,7 @@ func TestPower(t *testing.T) {
 		return api.Power{Closed: []bool{true}, Sources: []api.Running{{State: 1}}, Limits: []int{5}, Broken: []api.Part{{Kind: 1}}}
 	}
 	p := make()
-	c := Power(p)
+	c := clone.Power(p)
 	if !reflect.DeepEqual(c, p) {
 		t.Errorf("%v, not %v", c, p)
 	}

@@ -1,4 +1,4 @@
-package control
+package control_test
 
 import (
 	"fmt"
@@ -7,6 +7,7 @@ import (
 	"testing"
 
 	"dynpos/api"
+	"dynpos/control"
 )
 
 func same(t *testing.T, name string, got, want any) {
@@ -20,7 +21,7 @@ var gains = api.Gains{Near: 2000, Sum: 100, Calm: 5000, Point: 3000, Drift: 200,
 
 func TestCheck(t *testing.T) {
 	edge := api.Gains{Near: 100000, Sum: 100000, Calm: 100000, Point: 100000, Drift: 100000, Still: 100000, MostSum: 10000000, MostForce: 5000, MostYaw: 500000}
-	same(t, "valid", []api.Errno{Check(gains), Check(edge), Check(api.Gains{})}, []api.Errno{0, 0, 0})
+	same(t, "valid", []api.Errno{control.Check(gains), control.Check(edge), control.Check(api.Gains{})}, []api.Errno{0, 0, 0})
 	numbers := func(g *api.Gains) []*int {
 		return []*int{&g.Near, &g.Sum, &g.Calm, &g.Point, &g.Drift, &g.Still, &g.MostSum, &g.MostForce, &g.MostYaw}
 	}
@@ -29,8 +30,8 @@ func TestCheck(t *testing.T) {
 		*numbers(&low)[i] = -1
 		*numbers(&high)[i]++
 		for _, g := range []api.Gains{low, high} {
-			same(t, fmt.Sprint(i), []any{Check(g), Valid(g, api.Keeper{})}, []any{api.ErrGains, false})
-			f, k, e := Demand(g, api.Keeper{SumX: math.MaxInt}, api.Point{}, -1, api.Target{})
+			same(t, fmt.Sprint(i), []any{control.Check(g), control.Valid(g, api.Keeper{})}, []any{api.ErrGains, false})
+			f, k, e := control.Demand(g, api.Keeper{SumX: math.MaxInt}, api.Point{}, -1, api.Target{})
 			same(t, fmt.Sprint(i), []any{f, k, e}, []any{api.Force{}, api.Keeper{}, api.ErrGains})
 		}
 	}
@@ -38,20 +39,20 @@ func TestCheck(t *testing.T) {
 
 func TestValid(t *testing.T) {
 	for _, k := range []api.Keeper{{}, {SumX: 500, SumY: -500, SumH: 500, Last: api.Point{X: 100000000, Y: -100000000}, Heading: 3599}} {
-		same(t, fmt.Sprint(k), Valid(gains, k), true)
+		same(t, fmt.Sprint(k), control.Valid(gains, k), true)
 	}
 	for _, k := range []api.Keeper{{SumX: 501}, {SumX: -501}, {SumY: 501}, {SumY: math.MinInt}, {SumH: 501}, {SumH: -501}, {Last: api.Point{X: 100000001}}, {Last: api.Point{Y: -100000001}}, {Heading: -1}, {Heading: 3600}} {
-		same(t, fmt.Sprint(k), Valid(gains, k), false)
-		f, after, e := Demand(gains, k, api.Point{}, 0, api.Target{})
+		same(t, fmt.Sprint(k), control.Valid(gains, k), false)
+		f, after, e := control.Demand(gains, k, api.Point{}, 0, api.Target{})
 		same(t, fmt.Sprint(k), []any{f, after, e}, []any{api.Force{}, api.Keeper{}, api.ErrRange})
 	}
 }
 
 func TestSigned(t *testing.T) {
 	for a, want := range map[int]int{0: 0, 3590: -10, 1799: 1799, 1800: -1800, 1801: -1799, -1800: -1800, -1801: 1799, 7205: 5, -3600: 0} {
-		same(t, fmt.Sprint(a), Signed(a), want)
+		same(t, fmt.Sprint(a), control.Signed(a), want)
 	}
-	if n := Signed(math.MinInt); n < -1800 || n > 1799 {
+	if n := control.Signed(math.MinInt); n < -1800 || n > 1799 {
 		t.Errorf("Signed of the least number: %d", n)
 	}
 }
@@ -62,7 +63,7 @@ func TestBody(t *testing.T) {
 		{0, 0, 1000, 0, 0, 1000, 0}, {0, 0, 1000, 0, 900, 0, -1000}, {5, 6, 5, 106, 900, 100, 0}, {0, 0, 100, 100, 300, 136, 36}, {0, 0, 1, 0, 300, 1, 0}, {0, 0, -1, 0, 300, -1, 1}, {-m, m, m, -m, 0, 2 * m, -2 * m},
 		{m + 1, 0, 0, 0, 0, 0, 0}, {0, -m - 1, 0, 0, 0, 0, 0}, {0, 0, math.MaxInt, 0, 0, 0, 0}, {0, 0, 5, math.MinInt, 0, 0, 0}, {0, 0, 5, 5, -1, 0, 0}, {0, 0, 5, 5, 3600, 0, 0},
 	} {
-		ahead, right := Body(api.Point{X: x.px, Y: x.py}, api.Point{X: x.tx, Y: x.ty}, x.heading)
+		ahead, right := control.Body(api.Point{X: x.px, Y: x.py}, api.Point{X: x.tx, Y: x.ty}, x.heading)
 		same(t, fmt.Sprint(x), []int{ahead, right}, []int{x.ahead, x.right})
 	}
 }
@@ -83,11 +84,11 @@ func TestDemand(t *testing.T) {
 		{"cut", api.Keeper{}, api.Point{}, 0, api.Target{Place: api.Point{X: 5000, Y: -5000}, Heading: 1800}, api.Force{Surge: 1000, Sway: -1000, Yaw: -2000}, api.Keeper{SumX: 500, SumY: -500, SumH: -500, Seen: true}},
 		{"pointing east", api.Keeper{Last: api.Point{X: 10}, Heading: 900, Seen: true}, api.Point{}, 900, api.Target{Place: api.Point{X: 100}, Heading: 900}, api.Force{Sway: -200 - 10 - 50}, api.Keeper{SumY: -100, Heading: 900, Seen: true}},
 	} {
-		f, after, e := Demand(gains, x.k, x.place, x.heading, x.target)
+		f, after, e := control.Demand(gains, x.k, x.place, x.heading, x.target)
 		same(t, x.name, []any{f, after, e}, []any{x.f, x.after, api.OK})
 	}
 	small := api.Gains{Near: 500, Point: 500, MostForce: 9, MostYaw: 9}
-	f, _, _ := Demand(small, api.Keeper{}, api.Point{}, 0, api.Target{Place: api.Point{X: 1, Y: -1}, Heading: 3597})
+	f, _, _ := control.Demand(small, api.Keeper{}, api.Point{}, 0, api.Target{Place: api.Point{X: 1, Y: -1}, Heading: 3597})
 	same(t, "halves are rounded up", f, api.Force{Surge: 1, Yaw: -1})
 }
 
@@ -98,7 +99,7 @@ func TestDemandErrors(t *testing.T) {
 		heading int
 		target  api.Target
 	}{{far, 0, api.Target{}}, {api.Point{Y: math.MinInt}, 0, api.Target{}}, {api.Point{}, 0, api.Target{Place: far}}, {api.Point{}, -1, api.Target{}}, {api.Point{}, 3600, api.Target{}}, {api.Point{}, 0, api.Target{Heading: -1}}, {api.Point{}, 0, api.Target{Heading: 3600}}} {
-		f, k, e := Demand(gains, api.Keeper{}, x.place, x.heading, x.target)
+		f, k, e := control.Demand(gains, api.Keeper{}, x.place, x.heading, x.target)
 		same(t, fmt.Sprint(i), []any{f, k, e}, []any{api.Force{}, api.Keeper{}, api.ErrRange})
 	}
 }
@@ -109,8 +110,8 @@ func TestNothingGrowsWithoutEnd(t *testing.T) {
 	k := api.Keeper{}
 	for range 2000 {
 		place := func() api.Point { return api.Point{X: r.Intn(200000001) - 100000000, Y: r.Intn(200000001) - 100000000} }
-		f, next, e := Demand(wild, k, place(), r.Intn(3600), api.Target{Place: place(), Heading: r.Intn(3600)})
-		if e != api.OK || !Valid(wild, next) || max(f.Surge, -f.Surge, f.Sway, -f.Sway) > 5000 || max(f.Yaw, -f.Yaw) > 500000 {
+		f, next, e := control.Demand(wild, k, place(), r.Intn(3600), api.Target{Place: place(), Heading: r.Intn(3600)})
+		if e != api.OK || !control.Valid(wild, next) || max(f.Surge, -f.Surge, f.Sway, -f.Sway) > 5000 || max(f.Yaw, -f.Yaw) > 500000 {
 			t.Fatalf("%v, %v, error %d", f, next, e)
 		}
 		k = next

@@ -1,4 +1,4 @@
-package design
+package design_test
 
 import (
 	"fmt"
@@ -7,6 +7,7 @@ import (
 	"testing"
 
 	"dynpos/api"
+	"dynpos/design"
 )
 
 func same(t *testing.T, name string, got, want any) {
@@ -38,7 +39,7 @@ func cooled() api.Design {
 }
 
 func TestCheck(t *testing.T) {
-	same(t, "valid", []api.Errno{Check(cooled()), Check(api.Design{}), Check(api.Design{Parts: parts(1, 0, 9, 63)})}, []api.Errno{0, 0, 0})
+	same(t, "valid", []api.Errno{design.Check(cooled()), design.Check(api.Design{}), design.Check(api.Design{Parts: parts(1, 0, 9, 63)})}, []api.Errno{0, 0, 0})
 	big := api.Design{}
 	for i := range api.MaxParts {
 		big.Parts = append(big.Parts, part(9, i))
@@ -49,7 +50,7 @@ func TestCheck(t *testing.T) {
 	for i := range api.MaxGroups {
 		big.Groups = append(big.Groups, api.Group{Name: string(rune('a' + i)), Parts: big.Parts})
 	}
-	same(t, "as much as can be", Check(big), api.OK)
+	same(t, "as much as can be", design.Check(big), api.OK)
 	for i, x := range []struct {
 		change func(d *api.Design)
 		want   api.Errno
@@ -61,26 +62,26 @@ func TestCheck(t *testing.T) {
 		d := cooled()
 		x.change(&d)
 		name := fmt.Sprint(i)
-		same(t, name, Check(d), x.want)
-		same(t, name, Falls(d, parts(9, 2, 9, 0, 9, 2)), parts(9, 0, 9, 2))
-		chain, ok := Chain(d, part(9, 0), part(9, 0))
-		same(t, name, []any{chain, ok, Proves(d, parts(9, 0)), Common(d, 0, 1), Independent(d)}, []any{[]int{}, false, false, []int{}, false})
+		same(t, name, design.Check(d), x.want)
+		same(t, name, design.Falls(d, parts(9, 2, 9, 0, 9, 2)), parts(9, 0, 9, 2))
+		chain, ok := design.Chain(d, part(9, 0), part(9, 0))
+		same(t, name, []any{chain, ok, design.Proves(d, parts(9, 0)), design.Common(d, 0, 1), design.Independent(d)}, []any{[]int{}, false, false, []int{}, false})
 	}
 }
 
 func TestLists(t *testing.T) {
-	same(t, "Sorted", []bool{Sorted(nil), Sorted(parts(1, 0, 1, 63, 2, 0, 9, 63)), Sorted(parts(1, 1, 1, 1)), Sorted(parts(2, 0, 1, 0)), Sorted(parts(0, 0)), Sorted(parts(10, 0)), Sorted(parts(1, 64)), Sorted(parts(1, -1))}, []bool{true, true, false, false, false, false, false, false})
-	same(t, "Has", []bool{Has(parts(7, 7, -1, 5), part(-1, 5)), Has(parts(7, 7), part(7, 6)), Has(nil, part(0, 0))}, []bool{true, false, false})
-	same(t, "Union", Union(parts(9, 1, -3, 99, 9, 1), parts(1, 5, 9, 0)), parts(-3, 99, 1, 5, 9, 0, 9, 1))
-	same(t, "Union of nothing", Union(nil, nil), []int{})
+	same(t, "Sorted", []bool{design.Sorted(nil), design.Sorted(parts(1, 0, 1, 63, 2, 0, 9, 63)), design.Sorted(parts(1, 1, 1, 1)), design.Sorted(parts(2, 0, 1, 0)), design.Sorted(parts(0, 0)), design.Sorted(parts(10, 0)), design.Sorted(parts(1, 64)), design.Sorted(parts(1, -1))}, []bool{true, true, false, false, false, false, false, false})
+	same(t, "Has", []bool{design.Has(parts(7, 7, -1, 5), part(-1, 5)), design.Has(parts(7, 7), part(7, 6)), design.Has(nil, part(0, 0))}, []bool{true, false, false})
+	same(t, "Union", design.Union(parts(9, 1, -3, 99, 9, 1), parts(1, 5, 9, 0)), parts(-3, 99, 1, 5, 9, 0, 9, 1))
+	same(t, "Union of nothing", design.Union(nil, nil), []int{})
 	a := append(make([]api.Part, 0, 9), parts(5, 5)...)
-	Union(a, parts(1, 1))
+	design.Union(a, parts(1, 1))
 	same(t, "the argument", a[:2], parts(5, 5, 0, 0))
 }
 
 func TestFalls(t *testing.T) {
 	for _, x := range []struct{ broken, want []api.Part }{{nil, nil}, {parts(9, 0), parts(1, 0, 5, 0, 9, 0)}, {parts(9, 1), parts(1, 0, 1, 1, 5, 0, 5, 1, 9, 1)}, {parts(5, 1, 5, 1), parts(5, 1)}, {parts(8, 7, 9, 2, 0, -5), parts(0, -5, 1, 1, 5, 1, 8, 7, 9, 2)}} {
-		same(t, fmt.Sprint(x.broken), Falls(cooled(), x.broken), append([]api.Part{}, x.want...))
+		same(t, fmt.Sprint(x.broken), design.Falls(cooled(), x.broken), append([]api.Part{}, x.want...))
 	}
 }
 
@@ -90,11 +91,11 @@ func TestChain(t *testing.T) {
 		want     []api.Part
 		ok       bool
 	}{{part(9, 1), part(5, 0), parts(9, 1, 1, 0, 5, 0), true}, {part(9, 0), part(9, 0), parts(9, 0), true}, {part(9, 0), part(5, 1), nil, false}, {part(5, 0), part(9, 0), nil, false}, {part(7, 7), part(7, 7), nil, false}, {part(9, 0), part(7, 7), nil, false}} {
-		got, ok := Chain(cooled(), x.from, x.to)
+		got, ok := design.Chain(cooled(), x.from, x.to)
 		same(t, fmt.Sprint(x), []any{got, ok}, []any{append([]api.Part{}, x.want...), x.ok})
 	}
 	ways := api.Design{Parts: parts(9, 0, 9, 1, 9, 2, 9, 3, 9, 4), Links: []api.Link{link(9, 0, 9, 1), link(9, 0, 9, 2), link(9, 0, 9, 3), link(9, 1, 9, 0), link(9, 1, 9, 2), link(9, 2, 9, 4), link(9, 3, 9, 4)}}
-	got, ok := Chain(ways, part(9, 0), part(9, 4))
+	got, ok := design.Chain(ways, part(9, 0), part(9, 4))
 	same(t, "the least of the shortest", []any{got, ok}, []any{parts(9, 0, 9, 2, 9, 4), true})
 }
 
@@ -103,22 +104,22 @@ func TestProves(t *testing.T) {
 		chain []api.Part
 		want  bool
 	}{{parts(9, 1, 1, 0, 5, 0), true}, {parts(5, 0), true}, {nil, false}, {parts(7, 7), false}, {parts(9, 1, 5, 0), false}, {parts(1, 0, 9, 1), false}, {parts(9, 1, 9, 1), false}} {
-		same(t, fmt.Sprint(x.chain), Proves(cooled(), x.chain), x.want)
+		same(t, fmt.Sprint(x.chain), design.Proves(cooled(), x.chain), x.want)
 	}
 }
 
 func TestCommon(t *testing.T) {
 	d := cooled()
-	same(t, "Common", Common(d, 0, 1), parts(9, 1))
-	same(t, "Independent", Independent(d), false)
+	same(t, "Common", design.Common(d, 0, 1), parts(9, 1))
+	same(t, "Independent", design.Independent(d), false)
 	for _, x := range [][2]int{{0, 0}, {-1, 0}, {0, 2}, {2, 0}} {
-		same(t, fmt.Sprint(x), Common(d, x[0], x[1]), []int{})
+		same(t, fmt.Sprint(x), design.Common(d, x[0], x[1]), []int{})
 	}
 	d.Links = slices.Delete(d.Links, 3, 4)
-	same(t, "apart", []any{Common(d, 0, 1), Independent(d)}, []any{[]int{}, true})
+	same(t, "apart", []any{design.Common(d, 0, 1), design.Independent(d)}, []any{[]int{}, true})
 	d.Groups[1].Parts = parts(1, 1, 5, 0, 5, 1)
-	same(t, "a part of both groups", []any{Common(d, 1, 0), Independent(d)}, []any{parts(1, 0, 5, 0, 9, 0), false})
-	same(t, "no groups", Independent(api.Design{}), true)
+	same(t, "a part of both groups", []any{design.Common(d, 1, 0), design.Independent(d)}, []any{parts(1, 0, 5, 0, 9, 0), false})
+	same(t, "no groups", design.Independent(api.Design{}), true)
 }
 
 func TestFallsAndChains(t *testing.T) {
@@ -134,14 +135,14 @@ func TestFallsAndChains(t *testing.T) {
 			}
 		}
 		from := d.Parts[r.Intn(7)]
-		falls := Falls(d, []api.Part{from})
-		if again := Falls(d, falls); !slices.Equal(again, falls) {
+		falls := design.Falls(d, []api.Part{from})
+		if again := design.Falls(d, falls); !slices.Equal(again, falls) {
 			t.Fatalf("%v: %v, then %v", d, falls, again)
 		}
-		more := Falls(d, []api.Part{from, d.Parts[r.Intn(7)]})
+		more := design.Falls(d, []api.Part{from, d.Parts[r.Intn(7)]})
 		for _, to := range d.Parts {
-			chain, ok := Chain(d, from, to)
-			if ok != Has(falls, to) || ok && !Proves(d, chain) || Has(falls, to) && !Has(more, to) {
+			chain, ok := design.Chain(d, from, to)
+			if ok != design.Has(falls, to) || ok && !design.Proves(d, chain) || design.Has(falls, to) && !design.Has(more, to) {
 				t.Fatalf("%v: from %v to %v: %v", d, from, to, chain)
 			}
 			if best := shortest(d, []api.Part{from}, to, len(chain)); ok && !slices.Equal(chain, best) {
@@ -160,7 +161,7 @@ func shortest(d api.Design, chain []api.Part, to api.Part, length int) []api.Par
 		return nil
 	}
 	for _, p := range d.Parts {
-		if next := append(slices.Clone(chain), p); Proves(d, next[len(next)-2:]) {
+		if next := append(slices.Clone(chain), p); design.Proves(d, next[len(next)-2:]) {
 			if found := shortest(d, next, to, length); found != nil {
 				return found
 			}

@@ -1,4 +1,4 @@
-package disconnect
+package disconnect_test
 
 import (
 	"fmt"
@@ -8,6 +8,7 @@ import (
 	"testing"
 
 	"dynpos/api"
+	"dynpos/disconnect"
 )
 
 func same(t *testing.T, name string, got, want any) {
@@ -37,35 +38,35 @@ func progress(time int, works ...api.Work) api.Progress {
 const waiting, running, done, failed = api.StageWaiting, api.StageRunning, api.StageDone, api.StageFailed
 
 func TestCheck(t *testing.T) {
-	same(t, "valid", Check(three()), api.OK)
+	same(t, "valid", disconnect.Check(three()), api.OK)
 	var long api.Sequence
 	for i := range api.MaxStages + 1 {
 		long.Stages = append(long.Stages, stage(fmt.Sprintf("s%d", i), 600, 3))
 	}
-	same(t, "12 stages", Check(api.Sequence{Stages: long.Stages[:12]}), api.OK)
+	same(t, "12 stages", disconnect.Check(api.Sequence{Stages: long.Stages[:12]}), api.OK)
 	for i, s := range []api.Sequence{{}, long, {Stages: []api.Stage{stage("", 1, 1)}}, {Stages: []api.Stage{stage("A", 1, 1)}}, {Stages: []api.Stage{stage("a", 1, 1), stage("a", 1, 1)}}, {Stages: []api.Stage{stage("a", 0, 1)}}, {Stages: []api.Stage{stage("a", 601, 1)}}, {Stages: []api.Stage{stage("a", 1, 0)}}, {Stages: []api.Stage{stage("a", 1, 4)}},
 		{Stages: []api.Stage{stage("a", 1, 1, 0)}}, {Stages: []api.Stage{stage("a", 1, 1), stage("b", 1, 1, -1)}}, {Stages: []api.Stage{stage("a", 1, 1), stage("b", 1, 1), stage("c", 1, 1, 1, 0)}}, {Stages: []api.Stage{stage("a", 1, 1), stage("b", 1, 1, 0, 0)}}} {
 		name := fmt.Sprint(i)
-		same(t, name, Check(s), api.ErrSequence)
-		p, e := New(s, -1)
+		same(t, name, disconnect.Check(s), api.ErrSequence)
+		p, e := disconnect.New(s, -1)
 		same(t, name, []any{p, e}, []any{api.Progress{}, api.ErrSequence})
 		works := make([]api.Work, len(s.Stages))
-		p, e = Step(s, progress(0, works...), []int{99})
+		p, e = disconnect.Step(s, progress(0, works...), []int{99})
 		same(t, name, []any{p, e}, []any{api.Progress{}, api.ErrSequence})
-		n, ok := Left(s, progress(0, works...))
-		same(t, name, []any{n, ok, Valid(s, progress(0, works...)), Length(s), Longest(s), Path(s), Proves(s, nil), Proves(s, []int{0})}, []any{0, false, false, 0, 0, []int{}, false, false})
+		n, ok := disconnect.Left(s, progress(0, works...))
+		same(t, name, []any{n, ok, disconnect.Valid(s, progress(0, works...)), disconnect.Length(s), disconnect.Longest(s), disconnect.Path(s), disconnect.Proves(s, nil), disconnect.Proves(s, []int{0})}, []any{0, false, false, 0, 0, []int{}, false, false})
 	}
 }
 
 func TestNew(t *testing.T) {
-	p, e := New(three(), 7)
+	p, e := disconnect.New(three(), 7)
 	same(t, "New", []any{p, e}, []any{progress(7, work(running, 7, 1), work(running, 7, 1), work(waiting, 0, 0)), api.OK})
 	for _, time := range []int{-1, api.MaxTime + 1} {
-		p, e := New(three(), time)
+		p, e := disconnect.New(three(), time)
 		same(t, "New", []any{p, e}, []any{api.Progress{}, api.ErrRange})
 	}
-	p, _ = New(three(), api.MaxTime)
-	p, e = Step(three(), p, nil)
+	p, _ = disconnect.New(three(), api.MaxTime)
+	p, e = disconnect.Step(three(), p, nil)
 	same(t, "the end of time", []any{p, e}, []any{api.Progress{}, api.ErrTime})
 }
 
@@ -80,10 +81,10 @@ func TestValid(t *testing.T) {
 		{progress(10, work(done, 9, 1), r, w), false}, {progress(10, work(done, -1, 1), r, w), false}, {progress(10, work(done, 5, 0), r, w), false}, {progress(10, work(failed, 5, 1), r, w), false}, {progress(10, work(failed, 11, 2), r, w), false}, {progress(10, work(failed, -1, 2), r, w), false}, {progress(10, work(4, 5, 1), r, w), false}, {progress(10, work(-1, 5, 1), r, w), false},
 		{progress(10, w, r, w), false}, {progress(10, r, r, work(waiting, 1, 0)), false}, {progress(10, r, r, work(waiting, 0, 1)), false}, {progress(10, d, d, w), false}, {progress(10, r, d, r), false}, {progress(10, work(failed, 5, 2), d, work(done, 2, 1)), false},
 	} {
-		same(t, fmt.Sprint(i), Valid(three(), x.p), x.want)
+		same(t, fmt.Sprint(i), disconnect.Valid(three(), x.p), x.want)
 		if !x.want {
-			p, e := Step(three(), x.p, []int{9})
-			n, ok := Left(three(), x.p)
+			p, e := disconnect.Step(three(), x.p, []int{9})
+			n, ok := disconnect.Left(three(), x.p)
 			same(t, fmt.Sprint(i), []any{p, e, n, ok}, []any{api.Progress{}, api.ErrSequence, 0, false})
 		}
 	}
@@ -99,15 +100,15 @@ func TestStep(t *testing.T) {
 		{progress(10, r, r, w), nil, progress(11, work(done, 9, 1), r, w)}, {progress(10, d, work(running, 8, 1), w), nil, progress(11, d, work(done, 8, 1), work(running, 11, 1))}, {progress(10, r, r, w), []int{0, 0}, progress(11, work(running, 11, 2), r, w)}, {progress(10, work(running, 9, 2), r, w), []int{0}, progress(11, work(failed, 9, 2), r, w)},
 		{progress(10, r, work(running, 8, 1), w), []int{1, 2}, progress(11, work(done, 9, 1), work(failed, 8, 1), w)}, {progress(10, d, d, work(running, 7, 1)), []int{0, 1}, progress(11, d, d, work(done, 7, 1))}, {progress(10, d, d, work(done, 6, 1)), []int{2}, progress(11, d, d, work(done, 6, 1))},
 	} {
-		got, e := Step(three(), x.before, x.fails)
+		got, e := disconnect.Step(three(), x.before, x.fails)
 		same(t, fmt.Sprint(i), []any{got, e}, []any{x.after, api.OK})
 	}
 	for _, n := range []int{-1, 3, math.MaxInt} {
-		p, e := Step(three(), progress(10, r, r, w), []int{0, n})
+		p, e := disconnect.Step(three(), progress(10, r, r, w), []int{0, n})
 		same(t, fmt.Sprint(n), []any{p, e}, []any{api.Progress{}, api.ErrRange})
 	}
 	before := progress(10, r, r, w)
-	Step(three(), before, nil)
+	disconnect.Step(three(), before, nil)
 	same(t, "the argument", before, progress(10, r, r, w))
 }
 
@@ -116,27 +117,27 @@ func TestDoneAndStuck(t *testing.T) {
 		p           api.Progress
 		done, stuck bool
 	}{{api.Progress{}, false, false}, {progress(0, work(done, 0, 0)), true, false}, {progress(0, work(done, 0, 0), work(running, 0, 0)), false, false}, {progress(0, work(done, 0, 0), work(failed, 0, 0)), false, true}} {
-		same(t, fmt.Sprint(x), []bool{Done(x.p), Stuck(x.p)}, []bool{x.done, x.stuck})
+		same(t, fmt.Sprint(x), []bool{disconnect.Done(x.p), disconnect.Stuck(x.p)}, []bool{x.done, x.stuck})
 	}
 }
 
 func TestExample(t *testing.T) {
-	same(t, "the example", []any{Length(three()), Path(three()), Longest(three())}, []any{7, []int{1, 2}, 16})
+	same(t, "the example", []any{disconnect.Length(three()), disconnect.Path(three()), disconnect.Longest(three())}, []any{7, []int{1, 2}, 16})
 	for _, x := range []struct {
 		path []int
 		want bool
 	}{{[]int{1, 2}, true}, {[]int{0, 2}, false}, {[]int{2}, false}, {[]int{1}, false}, {nil, false}, {[]int{2, 1}, false}, {[]int{1, 3}, false}, {[]int{-1, 2}, false}, {[]int{1, 1, 2}, false}} {
-		same(t, fmt.Sprint(x.path), Proves(three(), x.path), x.want)
+		same(t, fmt.Sprint(x.path), disconnect.Proves(three(), x.path), x.want)
 	}
 	apart := api.Sequence{Stages: []api.Stage{stage("a", 2, 1), stage("b", 3, 1), stage("c", 5, 1)}}
-	same(t, "stages that do not need each other", []bool{Proves(apart, []int{0, 1}), Proves(apart, []int{2})}, []bool{false, true})
+	same(t, "stages that do not need each other", []bool{disconnect.Proves(apart, []int{0, 1}), disconnect.Proves(apart, []int{2})}, []bool{false, true})
 	long := api.Sequence{Stages: []api.Stage{stage("a", 600, 3), stage("b", 600, 3, 0)}}
-	same(t, "long", []int{Length(long), Longest(long)}, []int{1200, 3600})
-	_, ok := Left(three(), progress(10, work(failed, 5, 2), work(running, 9, 1), work(waiting, 0, 0)))
+	same(t, "long", []int{disconnect.Length(long), disconnect.Longest(long)}, []int{1200, 3600})
+	_, ok := disconnect.Left(three(), progress(10, work(failed, 5, 2), work(running, 9, 1), work(waiting, 0, 0)))
 	same(t, "stuck", ok, false)
-	n, ok := Left(three(), progress(10, work(done, 5, 1), work(done, 5, 1), work(done, 5, 1)))
+	n, ok := disconnect.Left(three(), progress(10, work(done, 5, 1), work(done, 5, 1), work(done, 5, 1)))
 	same(t, "done", []any{n, ok}, []any{0, true})
-	n, _ = Left(three(), progress(10, work(done, 5, 1), work(running, 9, 1), work(waiting, 0, 0)))
+	n, _ = disconnect.Left(three(), progress(10, work(done, 5, 1), work(running, 9, 1), work(waiting, 0, 0)))
 	same(t, "two and four", n, 6)
 }
 
@@ -177,21 +178,21 @@ func TestPathsAndRuns(t *testing.T) {
 			for _, i := range path {
 				sum += s.Stages[i].Ticks
 			}
-			if sum > Length(s) || Proves(s, path) != (sum == Length(s)) {
+			if sum > disconnect.Length(s) || disconnect.Proves(s, path) != (sum == disconnect.Length(s)) {
 				t.Fatalf("%v: %v takes %d", s, path, sum)
 			}
-			if sum == Length(s) && best == nil {
+			if sum == disconnect.Length(s) && best == nil {
 				best = path
 			}
 		})
-		same(t, fmt.Sprint(s), []any{Path(s), Proves(s, Path(s))}, []any{best, true})
-		p, _ := New(s, 3)
-		for left := Length(s); left >= 0; left-- {
-			n, ok := Left(s, p)
-			if n != left || !ok || Done(p) != (left == 0) {
+		same(t, fmt.Sprint(s), []any{disconnect.Path(s), disconnect.Proves(s, disconnect.Path(s))}, []any{best, true})
+		p, _ := disconnect.New(s, 3)
+		for left := disconnect.Length(s); left >= 0; left-- {
+			n, ok := disconnect.Left(s, p)
+			if n != left || !ok || disconnect.Done(p) != (left == 0) {
 				t.Fatalf("%v: %v has %d left, not %d", s, p, n, left)
 			}
-			p, _ = Step(s, p, nil)
+			p, _ = disconnect.Step(s, p, nil)
 		}
 		slow(t, s)
 	}
@@ -200,20 +201,20 @@ func TestPathsAndRuns(t *testing.T) {
 // slow runs a sequence in which each try but the last one of each stage fails in its last tick.
 func slow(t *testing.T, s api.Sequence) {
 	t.Helper()
-	p, _ := New(s, 0)
+	p, _ := disconnect.New(s, 0)
 	steps := 0
-	for !Done(p) {
+	for !disconnect.Done(p) {
 		var fails []int
 		for i, w := range p.Works {
 			if g := s.Stages[i]; w.State == running && w.Tries < g.Tries && w.Since+g.Ticks == p.Time+1 {
 				fails = append(fails, i)
 			}
 		}
-		next, e := Step(s, p, fails)
-		if e != api.OK || !Valid(s, next) {
+		next, e := disconnect.Step(s, p, fails)
+		if e != api.OK || !disconnect.Valid(s, next) {
 			t.Fatalf("%v: %v, error %d", s, p, e)
 		}
 		p, steps = next, steps+1
 	}
-	same(t, fmt.Sprint(s), Longest(s), steps)
+	same(t, fmt.Sprint(s), disconnect.Longest(s), steps)
 }

@@ -1,4 +1,4 @@
-package drill
+package drill_test
 
 import (
 	"fmt"
@@ -8,6 +8,7 @@ import (
 	"testing"
 
 	"dynpos/api"
+	"dynpos/drill"
 	"dynpos/example"
 	"dynpos/faults"
 	"dynpos/restore"
@@ -36,7 +37,7 @@ func breeze(ticks int, l ...api.Fault) api.Drill {
 
 func TestCheck(t *testing.T) {
 	v := example.Vessel()
-	same(t, "valid", []api.Errno{Check(v, breeze(1)), Check(v, breeze(60, begin(0, 1, 0), end(99, 1, 0)))}, []api.Errno{0, 0})
+	same(t, "valid", []api.Errno{drill.Check(v, breeze(1)), drill.Check(v, breeze(60, begin(0, 1, 0), end(99, 1, 0)))}, []api.Errno{0, 0})
 	wrong := example.Vessel()
 	wrong.Delay = -1
 	gale := breeze(1)
@@ -46,15 +47,15 @@ func TestCheck(t *testing.T) {
 		d    api.Drill
 		want api.Errno
 	}{{wrong, breeze(0, end(0, 1, 0)), api.ErrVessel}, {v, breeze(0, end(0, 1, 0)), api.ErrScript}, {v, breeze(0, make([]api.Fault, 25)...), api.ErrLimit}, {v, breeze(0), api.ErrRange}, {v, breeze(61), api.ErrRange}, {v, breeze(math.MinInt), api.ErrRange}, {v, gale, api.ErrRange}} {
-		levels, s, e := Run(x.v, x.d)
-		least, f := Least(x.v, x.d)
-		same(t, fmt.Sprint(i), []any{Check(x.v, x.d), levels, s, e, least, f, Minimal(x.v, x.d), Inputs(x.v, s, x.d)}, []any{x.want, []int{}, api.State{}, x.want, api.Drill{}, x.want, false, []int{}})
+		levels, s, e := drill.Run(x.v, x.d)
+		least, f := drill.Least(x.v, x.d)
+		same(t, fmt.Sprint(i), []any{drill.Check(x.v, x.d), levels, s, e, least, f, drill.Minimal(x.v, x.d), drill.Inputs(x.v, s, x.d)}, []any{x.want, []int{}, api.State{}, x.want, api.Drill{}, x.want, false, []int{}})
 	}
 }
 
 func TestReady(t *testing.T) {
 	v := example.Vessel()
-	s, e := Ready(v)
+	s, e := drill.Ready(v)
 	fresh, _ := voyage.New(v)
 	plan, _ := restore.Plan(v.Board, fresh.Plant.Power)
 	want := fresh
@@ -70,11 +71,11 @@ func TestReady(t *testing.T) {
 		}
 	}
 	dark.Board.Breakers = breakers
-	s, e = Ready(dark)
+	s, e = drill.Ready(dark)
 	fresh, _ = voyage.New(dark)
 	same(t, "without generators", []any{s, e}, []any{fresh, api.OK})
 	v.Delay = -1
-	s, e = Ready(v)
+	s, e = drill.Ready(v)
 	same(t, "a wrong vessel", []any{s, e}, []any{api.State{}, api.ErrVessel})
 }
 
@@ -83,7 +84,7 @@ func TestInputs(t *testing.T) {
 	s := api.State{}
 	s.Plant.Time = 40
 	d := breeze(3, begin(0, 1, 0), begin(2, 5, 1), begin(2, 9, 2), begin(3, 9, 1))
-	l := Inputs(v, s, d)
+	l := drill.Inputs(v, s, d)
 	same(t, "length", len(l), 3)
 	for i, in := range l {
 		var sights []api.Sight
@@ -98,9 +99,9 @@ func TestInputs(t *testing.T) {
 func TestRun(t *testing.T) {
 	v := example.Vessel()
 	d := breeze(9, begin(6, 9, 0), begin(7, 5, 1))
-	levels, s, e := Run(v, d)
-	ready, _ := Ready(v)
-	last, _ := voyage.Run(v, ready, Inputs(v, ready, d))
+	levels, s, e := drill.Run(v, d)
+	ready, _ := drill.Ready(v)
+	last, _ := voyage.Run(v, ready, drill.Inputs(v, ready, d))
 	same(t, "Run", []any{levels, s, e}, []any{[]int{1, 1, 2, 2, 3, 3, 2, 2, 2}, last, api.OK})
 }
 
@@ -129,11 +130,11 @@ func fragile() (api.Vessel, api.Drill) {
 
 func TestTooMuchToSay(t *testing.T) {
 	v, d := fragile()
-	levels, s, e := Run(v, d)
-	least, f := Least(v, d)
-	same(t, "the book is too short", []any{levels, s, e, least, f, Minimal(v, d)}, []any{[]int{}, api.State{}, api.ErrLimit, api.Drill{}, api.ErrLimit, false})
+	levels, s, e := drill.Run(v, d)
+	least, f := drill.Least(v, d)
+	same(t, "the book is too short", []any{levels, s, e, least, f, drill.Minimal(v, d)}, []any{[]int{}, api.State{}, api.ErrLimit, api.Drill{}, api.ErrLimit, false})
 	d.Ticks = 12
-	_, _, e = Run(v, d)
+	_, _, e = drill.Run(v, d)
 	same(t, "a short drill", e, api.OK)
 }
 
@@ -142,7 +143,7 @@ func TestWorst(t *testing.T) {
 		levels []int
 		want   int
 	}{{nil, 0}, {[]int{1, 1, 2, 3, 3}, 3}, {[]int{1, 2, 3, 2, 3}, 2}, {[]int{1, 3, 1, 2}, 1}, {[]int{2, 1, 2}, 1}, {[]int{2, 2}, 2}, {[]int{3}, 3}} {
-		same(t, fmt.Sprint(x.levels), Worst(x.levels), x.want)
+		same(t, fmt.Sprint(x.levels), drill.Worst(x.levels), x.want)
 	}
 }
 
@@ -156,9 +157,9 @@ func TestLeast(t *testing.T) {
 		{breeze(9, begin(5, 9, 0), begin(6, 9, 2), end(8, 9, 0)), breeze(9, begin(5, 9, 0), end(8, 9, 0))},
 		{breeze(9), breeze(9)},
 	} {
-		got, e := Least(v, x.d)
-		same(t, fmt.Sprint(i), []any{got, e, Minimal(v, got), Minimal(v, x.d)}, []any{x.want, api.OK, true, len(x.want.Faults) == len(x.d.Faults)})
-		again, _ := Least(v, got)
+		got, e := drill.Least(v, x.d)
+		same(t, fmt.Sprint(i), []any{got, e, drill.Minimal(v, got), drill.Minimal(v, x.d)}, []any{x.want, api.OK, true, len(x.want.Faults) == len(x.d.Faults)})
+		again, _ := drill.Least(v, got)
 		same(t, fmt.Sprint(i), again, got)
 	}
 }
@@ -174,19 +175,19 @@ func TestManyDrills(t *testing.T) {
 		l, _ = faults.Normal(l)
 		d := breeze(12, l...)
 		d.Weather.Wind.Speed = r.Intn(2500)
-		levels, _, e := Run(v, d)
+		levels, _, e := drill.Run(v, d)
 		if e != api.OK {
 			continue
 		}
-		least, e := Least(v, d)
-		behind, _, _ := Run(v, least)
-		same(t, fmt.Sprint(d), []any{e, Worst(behind), Minimal(v, least)}, []any{api.OK, Worst(levels), true})
+		least, e := drill.Least(v, d)
+		behind, _, _ := drill.Run(v, least)
+		same(t, fmt.Sprint(d), []any{e, drill.Worst(behind), drill.Minimal(v, least)}, []any{api.OK, drill.Worst(levels), true})
 		for _, f := range least.Faults {
 			if !slices.Contains(d.Faults, f) {
 				t.Errorf("%v is not among the faults of the drill", f)
 			}
 		}
-		if Minimal(v, d) != (fmt.Sprint(least.Faults) == fmt.Sprint(d.Faults)) {
+		if drill.Minimal(v, d) != (fmt.Sprint(least.Faults) == fmt.Sprint(d.Faults)) {
 			t.Errorf("%v: the least one is %v", d, least)
 		}
 	}

@@ -1,4 +1,4 @@
-package failover
+package failover_test
 
 import (
 	"fmt"
@@ -8,6 +8,7 @@ import (
 	"testing"
 
 	"dynpos/api"
+	"dynpos/failover"
 )
 
 func same(t *testing.T, name string, got, want any) {
@@ -52,14 +53,14 @@ func TestCheckAndNew(t *testing.T) {
 		time int
 		want api.Errno
 	}{{make([]api.Controller, 1), 0, api.OK}, {[]api.Controller{one(2, api.MaxTime, 5), one(1, 0, 0)}, 5, api.OK}, {nil, 0, api.ErrLimit}, {make([]api.Controller, 6), -1, api.ErrLimit}, {make([]api.Controller, 1), -1, api.ErrRange}, {[]api.Controller{one(3, 0, 0)}, 5, api.ErrRange}, {[]api.Controller{one(-1, 0, 0)}, 5, api.ErrRange}, {[]api.Controller{one(0, -1, 0)}, 5, api.ErrRange}, {[]api.Controller{one(0, api.MaxTime+1, 0)}, 5, api.ErrRange}, {[]api.Controller{one(0, 0, 6)}, 5, api.ErrRange}, {[]api.Controller{one(0, 0, -1)}, 5, api.ErrRange}} {
-		same(t, fmt.Sprint(i), Check(x.l, x.time), x.want)
+		same(t, fmt.Sprint(i), failover.Check(x.l, x.time), x.want)
 		if x.want != api.OK {
-			l, e := Tick(x.l, nil, x.time, -1)
-			same(t, fmt.Sprint(i), []any{l, e, Candidates(x.l, all(len(x.l)), x.time, 0)}, []any{[]int{}, x.want, []int{}})
+			l, e := failover.Tick(x.l, nil, x.time, -1)
+			same(t, fmt.Sprint(i), []any{l, e, failover.Candidates(x.l, all(len(x.l)), x.time, 0)}, []any{[]int{}, x.want, []int{}})
 		}
 	}
 	for n, want := range map[int]api.Errno{0: api.ErrLimit, -1: api.ErrLimit, 6: api.ErrLimit, 1: api.OK, 5: api.OK} {
-		l, e := New(n)
+		l, e := failover.New(n)
 		same(t, fmt.Sprint(n), e, want)
 		if e == api.OK {
 			same(t, fmt.Sprint(n), l, make([]api.Controller, n))
@@ -73,24 +74,24 @@ func TestHeard(t *testing.T) {
 	l := []api.Controller{one(0, 0, 0), one(1, 0, 0), one(2, 0, 0), one(0, 0, 0)}
 	reach := matrix(4, [2]int{1, 0}, [2]int{0, 2}, [2]int{1, 3})
 	for i, want := range [][]int{{0, 1}, {0, 1, 3}, nil, {1, 3}} {
-		same(t, fmt.Sprint(i), Heard(l, reach, i), append([]int{}, want...))
+		same(t, fmt.Sprint(i), failover.Heard(l, reach, i), append([]int{}, want...))
 	}
 	for _, x := range []struct {
 		reach [][]bool
 		i     int
 	}{{reach, -1}, {reach, 4}, {reach[1:], 0}, {nil, 0}, {[][]bool{nil, nil, nil, nil}, 0}} {
-		same(t, "Heard", Heard(l, x.reach, x.i), []int{})
+		same(t, "Heard", failover.Heard(l, x.reach, x.i), []int{})
 	}
 }
 
 func TestExample(t *testing.T) {
-	l, _ := New(3)
+	l, _ := failover.New(3)
 	for time := range 6 {
 		if time == 4 {
-			l, _ = Crash(l, 0)
+			l, _ = failover.Crash(l, 0)
 		}
 		var e api.Errno
-		l, e = Tick(l, all(3), time, 2)
+		l, e = failover.Tick(l, all(3), time, 2)
 		want := [][]api.Controller{
 			{one(0, 0, 0), one(0, 0, 0), one(0, 0, 0)}, {one(0, 0, 0), one(0, 0, 0), one(0, 0, 0)}, {one(1, 1, 2), one(0, 1, 0), one(0, 1, 0)},
 			{one(1, 1, 3), one(0, 1, 3), one(0, 1, 3)}, {one(2, 1, 3), one(0, 1, 3), one(0, 1, 3)}, {one(2, 1, 3), one(1, 2, 5), one(0, 2, 3)},
@@ -121,7 +122,7 @@ func TestTick(t *testing.T) {
 		{"an active one without a majority makes room", []api.Controller{one(1, 2, 9), one(0, 0, 9), one(0, 0, 0), one(0, 0, 9), one(2, 0, 9)}, matrix(5, [2]int{0, 1}, [2]int{1, 2}, [2]int{2, 3}), []api.Controller{one(0, 2, 9), one(0, 3, 9), one(1, 3, 10), one(0, 3, 9), one(2, 0, 9)}},
 	} {
 		before := slices.Clone(x.l)
-		got, e := Tick(x.l, x.reach, 10, 3)
+		got, e := failover.Tick(x.l, x.reach, 10, 3)
 		same(t, x.name, []any{got, e, x.l}, []any{x.want, api.OK, before})
 	}
 }
@@ -133,43 +134,43 @@ func TestTickErrors(t *testing.T) {
 		time, timeout int
 		want          api.Errno
 	}{{nil, api.MaxTime + 1, -1, api.ErrShape}, {[][]bool{{true, true}, {true}}, 0, 0, api.ErrShape}, {all(3), 0, 0, api.ErrShape}, {all(2), api.MaxTime + 1, 0, api.ErrRange}, {all(2), 5, -1, api.ErrRange}, {all(2), 5, 601, api.ErrRange}, {all(2), 5, 0, api.ErrLimit}, {all(2), 5, 6, api.OK}} {
-		l, e := Tick(two, x.reach, x.time, x.timeout)
+		l, e := failover.Tick(two, x.reach, x.time, x.timeout)
 		same(t, fmt.Sprint(i), e, x.want)
 		if e != api.OK {
 			want := []int{}
 			if e == api.ErrLimit {
 				want = []int{0, 1}
 			}
-			same(t, fmt.Sprint(i), []any{l, Candidates(two, x.reach, x.time, x.timeout)}, []any{[]int{}, want})
+			same(t, fmt.Sprint(i), []any{l, failover.Candidates(two, x.reach, x.time, x.timeout)}, []any{[]int{}, want})
 		}
 	}
 }
 
 func TestCandidates(t *testing.T) {
 	l := []api.Controller{one(2, 0, 0), one(0, 1, 8), one(0, 9, 7), one(0, 0, 5), one(0, 0, 5)}
-	same(t, "Candidates", Candidates(l, all(5), 10, 3), []int{2, 3, 4})
-	same(t, "no majority", Candidates(l, matrix(5, [2]int{2, 3}, [2]int{3, 4}), 10, 3), []int{3})
+	same(t, "Candidates", failover.Candidates(l, all(5), 10, 3), []int{2, 3, 4})
+	same(t, "no majority", failover.Candidates(l, matrix(5, [2]int{2, 3}, [2]int{3, 4}), 10, 3), []int{3})
 	l[1].State = active
-	same(t, "an active one", Candidates(l, all(5), 10, 3), []int{})
-	same(t, "an active one that only some hear", Candidates(l, matrix(5, [2]int{2, 3}, [2]int{3, 4}, [2]int{1, 4}), 10, 3), []int{3})
+	same(t, "an active one", failover.Candidates(l, all(5), 10, 3), []int{})
+	same(t, "an active one that only some hear", failover.Candidates(l, matrix(5, [2]int{2, 3}, [2]int{3, 4}, [2]int{1, 4}), 10, 3), []int{3})
 }
 
 func TestCrashAndRestart(t *testing.T) {
 	l := []api.Controller{one(active, 3, 7), one(crashed, 4, 8)}
-	next, e := Crash(l, 0)
+	next, e := failover.Crash(l, 0)
 	same(t, "Crash", []any{next, e}, []any{[]api.Controller{one(crashed, 3, 7), one(crashed, 4, 8)}, api.OK})
-	next, e = Restart(l, 1, 9)
+	next, e = failover.Restart(l, 1, 9)
 	same(t, "Restart", []any{next, e, l[1]}, []any{[]api.Controller{one(active, 3, 7), one(standby, 4, 9)}, api.OK, one(crashed, 4, 8)})
 	for _, i := range []int{-1, 2} {
-		next, e := Crash(l, i)
-		again, f := Restart(l, i, -1)
+		next, e := failover.Crash(l, i)
+		again, f := failover.Restart(l, i, -1)
 		same(t, fmt.Sprint(i), []any{next, e, again, f}, []any{[]int{}, api.ErrUnknown, []int{}, api.ErrUnknown})
 	}
-	next, e = Crash(l, 1)
-	again, f := Restart(l, 0, -1)
+	next, e = failover.Crash(l, 1)
+	again, f := failover.Restart(l, 0, -1)
 	same(t, "states", []any{next, e, again, f}, []any{[]int{}, api.ErrState, []int{}, api.ErrState})
 	for time, want := range map[int]api.Errno{7: api.ErrRange, api.MaxTime + 1: api.ErrRange, 8: api.OK, api.MaxTime: api.OK} {
-		_, e := Restart(l, 1, time)
+		_, e := failover.Restart(l, 1, time)
 		same(t, fmt.Sprint(time), e, want)
 	}
 }
@@ -179,7 +180,7 @@ func TestFence(t *testing.T) {
 		epoch, command, want int
 		e                    api.Errno
 	}{{3, 5, 5, api.OK}, {3, 3, 3, api.OK}, {3, 2, 0, api.ErrEpoch}, {0, api.MaxTime, api.MaxTime, api.OK}, {0, 0, 0, api.OK}, {api.MaxTime + 1, api.MaxTime + 1, 0, api.ErrRange}, {-1, -1, 0, api.ErrRange}, {-1, 5, 0, api.ErrRange}, {3, -1, 0, api.ErrRange}, {api.MaxTime + 1, 5, 0, api.ErrRange}, {3, math.MaxInt, 0, api.ErrRange}} {
-		got, e := Fence(x.epoch, x.command)
+		got, e := failover.Fence(x.epoch, x.command)
 		same(t, fmt.Sprint(x), []any{got, e}, []any{x.want, x.e})
 	}
 }
@@ -188,7 +189,7 @@ func TestNeverTwoWithOneEpoch(t *testing.T) {
 	r := rand.New(rand.NewSource(21))
 	for range 300 {
 		n, timeout := 1+r.Intn(5), r.Intn(4)
-		l, _ := New(n)
+		l, _ := failover.New(n)
 		used, last := map[int]int{}, 0
 		reach, calm := all(n), 0
 		for time := range 60 {
@@ -204,15 +205,15 @@ func TestNeverTwoWithOneEpoch(t *testing.T) {
 			}
 			switch i := r.Intn(n); {
 			case r.Intn(12) == 0 && l[i].State == crashed:
-				l, _ = Restart(l, i, time)
+				l, _ = failover.Restart(l, i, time)
 				calm = 0
 			case r.Intn(12) == 0 && l[i].State != crashed:
-				l, _ = Crash(l, i)
+				l, _ = failover.Crash(l, i)
 				calm = 0
 			}
 			before := l
 			var e api.Errno
-			l, e = Tick(l, reach, time, timeout)
+			l, e = failover.Tick(l, reach, time, timeout)
 			if e != api.OK {
 				t.Fatalf("error %d", e)
 			}
@@ -249,7 +250,7 @@ func look(t *testing.T, l, before []api.Controller, reach [][]bool, used map[int
 			t.Fatalf("%d and %d are active with the epoch %d", who, i, c.Epoch)
 		}
 		used[c.Epoch] = i
-		if 2*len(Heard(l, reach, i)) > len(l) {
+		if 2*len(failover.Heard(l, reach, i)) > len(l) {
 			majorities++
 		}
 	}

@@ -1,4 +1,4 @@
-package operation
+package operation_test
 
 import (
 	"fmt"
@@ -6,6 +6,7 @@ import (
 	"testing"
 
 	"dynpos/api"
+	"dynpos/operation"
 )
 
 func same(t *testing.T, name string, got, want any) {
@@ -34,15 +35,15 @@ func wrong() map[api.Errno][]api.Operation {
 }
 
 func TestCheck(t *testing.T) {
-	same(t, "valid", []api.Errno{Check(dive), Check(api.Operation{Name: "a", Class: 1}), Check(api.Operation{Name: "a", Class: 2, Drift: 1000})}, []api.Errno{0, 0, 0})
+	same(t, "valid", []api.Errno{operation.Check(dive), operation.Check(api.Operation{Name: "a", Class: 1}), operation.Check(api.Operation{Name: "a", Class: 2, Drift: 1000})}, []api.Errno{0, 0, 0})
 	for want, l := range wrong() {
 		for _, o := range l {
-			same(t, fmt.Sprint(o), []any{Check(o), Fit(o, 3, 1)}, []any{want, false})
-			n, e := Next(o, -1, 3, 1, false)
+			same(t, fmt.Sprint(o), []any{operation.Check(o), operation.Fit(o, 3, 1)}, []any{want, false})
+			n, e := operation.Next(o, -1, 3, 1, false)
 			same(t, fmt.Sprint(o), []any{n, e}, []any{0, want})
-			n, e = Ask(o, -1, 3, 1, 0)
+			n, e = operation.Ask(o, -1, 3, 1, 0)
 			same(t, fmt.Sprint(o), []any{n, e}, []any{0, want})
-			states, e := Run(o, 0, []int{3}, []int{1})
+			states, e := operation.Run(o, 0, []int{3}, []int{1})
 			same(t, fmt.Sprint(o), []any{states, e}, []any{[]int{}, want})
 		}
 	}
@@ -53,7 +54,7 @@ func TestFit(t *testing.T) {
 	easy.Class = api.LevelYellow
 	for level := 0; level < 5; level++ {
 		for zone := 0; zone < 5; zone++ {
-			same(t, fmt.Sprint(level, zone), []bool{Fit(dive, level, zone), Fit(easy, level, zone)}, []bool{level == 3 && zone == 1, (level == 2 || level == 3) && zone == 1})
+			same(t, fmt.Sprint(level, zone), []bool{operation.Fit(dive, level, zone), operation.Fit(easy, level, zone)}, []bool{level == 3 && zone == 1, (level == 2 || level == 3) && zone == 1})
 		}
 	}
 }
@@ -70,18 +71,18 @@ func TestNext(t *testing.T) {
 				}
 				want := []int{idle, map[bool]int{true: ready, false: idle}[fit], running, running, map[bool]int{true: left, false: leaving}[done], left}
 				for state, next := range want {
-					got, e := Next(dive, state, level, zone, done)
+					got, e := operation.Next(dive, state, level, zone, done)
 					same(t, fmt.Sprint(state, level, zone, done), []any{got, e}, []any{next, api.OK})
 				}
 			}
 		}
 	}
 	red := api.Operation{Name: "drift", Class: api.LevelRed}
-	got, e := Next(red, active, 1, 1, false)
-	same(t, "red status", []any{got, e, Fit(red, 1, 1)}, []any{leaving, api.OK, true})
+	got, e := operation.Next(red, active, 1, 1, false)
+	same(t, "red status", []any{got, e, operation.Fit(red, 1, 1)}, []any{leaving, api.OK, true})
 	for _, x := range [][3]int{{-1, 3, 1}, {6, 3, 1}, {0, 0, 1}, {0, 4, 1}, {0, 3, 0}, {0, 3, 4}, {math.MinInt, math.MinInt, math.MaxInt}} {
-		got, e := Next(dive, x[0], x[1], x[2], true)
-		again, f := Ask(dive, x[0], x[1], x[2], 9)
+		got, e := operation.Next(dive, x[0], x[1], x[2], true)
+		again, f := operation.Ask(dive, x[0], x[1], x[2], 9)
 		same(t, fmt.Sprint(x), []any{got, e, again, f}, []any{0, api.ErrRange, 0, api.ErrRange})
 	}
 }
@@ -104,27 +105,27 @@ func TestAsk(t *testing.T) {
 					case begins && zone > 1:
 						want, e = 0, api.ErrCircle
 					}
-					got, f := Ask(dive, state, level, zone, request)
+					got, f := operation.Ask(dive, state, level, zone, request)
 					same(t, fmt.Sprint(state, request, level, zone), []any{got, f}, []any{want, e})
 				}
 			}
 		}
 	}
 	for _, request := range []int{-1, 5} {
-		got, e := Ask(dive, 0, 3, 1, request)
+		got, e := operation.Ask(dive, 0, 3, 1, request)
 		same(t, fmt.Sprint(request), []any{got, e}, []any{0, api.ErrRange})
 	}
 }
 
 func TestRun(t *testing.T) {
-	states, e := Run(dive, api.OperationActive, []int{3, 2, 3, 3, 1, 3}, []int{1, 1, 2, 1, 1, 1})
+	states, e := operation.Run(dive, api.OperationActive, []int{3, 2, 3, 3, 1, 3}, []int{1, 1, 2, 1, 1, 1})
 	same(t, "Run", []any{states, e}, []any{[]int{2, 3, 3, 2, 4, 4}, api.OK})
 	for i, x := range []struct {
 		state         int
 		levels, zones []int
 		want          api.Errno
 	}{{0, make([]int, 401), nil, api.ErrShape}, {0, make([]int, 401), make([]int, 401), api.ErrLimit}, {0, make([]int, 400), make([]int, 400), api.ErrRange}, {9, nil, nil, api.OK}, {9, []int{3}, []int{1}, api.ErrRange}, {0, []int{3, 0}, []int{1, 1}, api.ErrRange}} {
-		states, e := Run(dive, x.state, x.levels, x.zones)
+		states, e := operation.Run(dive, x.state, x.levels, x.zones)
 		same(t, fmt.Sprint(i), []any{states, e}, []any{[]int{}, x.want})
 	}
 }

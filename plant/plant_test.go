@@ -1,4 +1,4 @@
-package plant
+package plant_test
 
 import (
 	"fmt"
@@ -11,6 +11,7 @@ import (
 	"dynpos/balance"
 	"dynpos/board"
 	"dynpos/clone"
+	"dynpos/plant"
 	"dynpos/restore"
 	"dynpos/shed"
 	"dynpos/sync"
@@ -35,7 +36,7 @@ func two() api.Board {
 
 // lit is a plant of it with generators and breakers that are connected.
 func lit(closed ...int) api.Plant {
-	p, _ := New(two(), table)
+	p, _ := plant.New(two(), table)
 	for _, i := range closed {
 		p.Power.Closed[i] = true
 		if i == 1 || i == 2 {
@@ -46,14 +47,14 @@ func lit(closed ...int) api.Plant {
 }
 
 func TestNew(t *testing.T) {
-	p, e := New(two(), table)
+	p, e := plant.New(two(), table)
 	calm := api.Roster{High: -1, Low: -1}
 	off := api.Running{Frequency: 5000}
 	same(t, "New", []any{p, e}, []any{api.Plant{Power: api.Power{Closed: make([]bool, 5), Sources: []api.Running{off, off}, Limits: []int{60, 70}}, Rosters: []api.Roster{calm, calm}}, api.OK})
-	same(t, "Check", Check(two(), table, p), api.OK)
-	p, e = New(api.Board{}, api.Table{})
+	same(t, "Check", plant.Check(two(), table, p), api.OK)
+	p, e = plant.New(api.Board{}, api.Table{})
 	same(t, "no board", []any{p, e}, []any{api.Plant{}, api.ErrLimit})
-	p, e = New(two(), api.Table{})
+	p, e = plant.New(two(), api.Table{})
 	same(t, "no table", []any{p, e}, []any{api.Plant{}, api.ErrRange})
 }
 
@@ -70,11 +71,11 @@ func TestCheck(t *testing.T) {
 	} {
 		b, ta, p := two(), table, lit(0, 1, 2)
 		x.change(&b, &ta, &p)
-		same(t, fmt.Sprint(i), Check(b, ta, p), x.want)
+		same(t, fmt.Sprint(i), plant.Check(b, ta, p), x.want)
 		if x.want != api.OK {
-			q, events, e := Step(b, ta, p, make([]api.Act, 201))
+			q, events, e := plant.Step(b, ta, p, make([]api.Act, 201))
 			same(t, fmt.Sprint(i), []any{q, events, e}, []any{api.Plant{}, []api.Event{}, x.want})
-			states, e := Trace(b, ta, p, nil)
+			states, e := plant.Trace(b, ta, p, nil)
 			same(t, fmt.Sprint(i), []any{states, e}, []any{[]api.Power{}, x.want})
 		}
 	}
@@ -85,7 +86,7 @@ func TestDo(t *testing.T) {
 	p.Time = 7
 	p.Events = []api.Event{{Time: 3}}
 	fail := act(api.ActFail, 1, api.PartSource)
-	q, states, e := Do(two(), p, fail)
+	q, states, e := plant.Do(two(), p, fail)
 	opened, limited := act(api.ActOpen, 2, 0), act(api.ActLimit, 0, 30)
 	same(t, "events", q.Events, []api.Event{{Time: 3}, {Time: 7, Act: fail}, {Time: 7, Act: opened}, {Time: 7, Act: limited}})
 	same(t, "error", e, api.OK)
@@ -100,7 +101,7 @@ func TestDo(t *testing.T) {
 func TestDoFollows(t *testing.T) {
 	p := lit(0, 1, 2)
 	p.Power.Sources[1].Phase = 9
-	q, states, _ := Do(two(), p, act(api.ActLimit, 0, 50))
+	q, states, _ := plant.Do(two(), p, act(api.ActLimit, 0, 50))
 	first := clone.Power(p.Power)
 	first.Limits[0] = 50
 	second := clone.Power(first)
@@ -114,32 +115,32 @@ func TestDoWithErrors(t *testing.T) {
 		a    api.Act
 		want api.Errno
 	}{{act(api.ActWait, 0, 0), api.ErrRange}, {act(api.ActClose, 99, 0), api.ErrUnknown}, {act(api.ActClose, 0, 0), api.ErrState}, {act(0, 0, 0), api.ErrRange}} {
-		q, states, e := Do(two(), p, x.a)
+		q, states, e := plant.Do(two(), p, x.a)
 		same(t, fmt.Sprint(x.a), []any{q.Power, q.Events, states, e}, []any{p.Power, []api.Event{{Act: x.a, Err: x.want}}, []api.Power{}, api.OK})
 	}
 	p.Power.Limits = nil
-	q, states, e := Do(two(), p, act(api.ActClose, 2, 0))
+	q, states, e := plant.Do(two(), p, act(api.ActClose, 2, 0))
 	same(t, "no state", []any{q, states, e}, []any{api.Plant{}, []api.Power{}, api.ErrShape})
 }
 
 func TestDoKeepsAllEvents(t *testing.T) {
 	p := lit()
 	p.Events = make([]api.Event, api.MaxEvents)
-	q, _, _ := Do(two(), p, act(api.ActLimit, 0, 50))
+	q, _, _ := plant.Do(two(), p, act(api.ActLimit, 0, 50))
 	same(t, "events", len(q.Events), api.MaxEvents+1)
-	q, events, _ := Step(two(), table, q, []api.Act{act(api.ActLimit, 0, 40), act(api.ActLimit, 0, 99)})
+	q, events, _ := plant.Step(two(), table, q, []api.Act{act(api.ActLimit, 0, 40), act(api.ActLimit, 0, 99)})
 	want := []api.Event{{Act: act(api.ActLimit, 0, 40)}, {Act: act(api.ActLimit, 0, 99), Err: api.ErrRange}}
 	same(t, "events of a step", []any{len(q.Events), events, q.Events[198:]}, []any{api.MaxEvents, want, want})
 }
 
 func TestStepErrors(t *testing.T) {
 	p := lit(1)
-	q, _, e := Step(two(), table, p, make([]api.Act, 200))
+	q, _, e := plant.Step(two(), table, p, make([]api.Act, 200))
 	same(t, "200 acts", []any{e, q.Time}, []any{api.OK, 1})
 	p.Time = api.MaxTime
-	_, _, e = Step(two(), table, p, make([]api.Act, 201))
+	_, _, e = plant.Step(two(), table, p, make([]api.Act, 201))
 	same(t, "201 acts", e, api.ErrLimit)
-	q, events, e := Step(two(), table, p, nil)
+	q, events, e := plant.Step(two(), table, p, nil)
 	same(t, "the end of time", []any{q, events, e}, []any{api.Plant{}, []api.Event{}, api.ErrTime})
 }
 
@@ -152,7 +153,7 @@ func TestStepSchedules(t *testing.T) {
 	p.Power.Sources[0].Frequency = 5010
 	for range 4 {
 		var e api.Errno
-		p, _, e = Step(b, table, p, nil)
+		p, _, e = plant.Step(b, table, p, nil)
 		same(t, "error", e, api.OK)
 	}
 	var acts []api.Act
@@ -169,33 +170,33 @@ func TestStepOfRosters(t *testing.T) {
 	p.Time, p.Rosters = 9, []api.Roster{{High: 3, Low: 4}, {High: -1, Low: 8}}
 	b := two()
 	b.Sources[1].Rating = 80
-	q, _, _ := Step(b, table, p, nil)
+	q, _, _ := plant.Step(b, table, p, nil)
 	same(t, "two islands", q.Rosters, []api.Roster{{High: -1, Low: -1}, {High: 9, Low: -1}})
-	q, _, _ = Step(b, table, p, []api.Act{act(api.ActClose, 0, 0)})
+	q, _, _ = plant.Step(b, table, p, []api.Act{act(api.ActClose, 0, 0)})
 	same(t, "one island", q.Rosters, []api.Roster{{High: -1, Low: -1}, {High: -1, Low: -1}})
-	q, _, _ = Step(b, table, p, []api.Act{act(api.ActOpen, 1, 0)})
+	q, _, _ = plant.Step(b, table, p, []api.Act{act(api.ActOpen, 1, 0)})
 	same(t, "one is dead", q.Rosters, []api.Roster{{High: -1, Low: -1}, {High: 9, Low: -1}})
 }
 
 func TestStepWaits(t *testing.T) {
 	p := lit(2)
 	p.Power.Sources[1].Frequency = 5001
-	q, events, _ := Step(two(), table, p, []api.Act{act(api.ActStart, 0, 0), act(api.ActWait, 0, 0)})
+	q, events, _ := plant.Step(two(), table, p, []api.Act{act(api.ActStart, 0, 0), act(api.ActWait, 0, 0)})
 	same(t, "one tick", []any{q.Time, q.Power.Sources[0].State, q.Power.Sources[1].Phase, len(events)}, []any{1, api.SourceStarting, 36, 2})
-	q, events, _ = Step(two(), table, q, nil)
+	q, events, _ = plant.Step(two(), table, q, nil)
 	same(t, "two ticks", []any{q.Time, q.Power.Sources[0].State, q.Power.Sources[1].Phase, len(events)}, []any{2, api.SourceReady, 72, 0})
 }
 
 func TestTrace(t *testing.T) {
 	p := lit(0, 1, 2, 3, 4)
 	acts := []api.Act{act(api.ActFail, 1, api.PartSource), act(api.ActClose, 99, 0), act(api.ActLimit, 0, 25)}
-	states, e := Trace(two(), table, p, acts)
-	q, _, _ := Step(two(), table, p, acts)
+	states, e := plant.Trace(two(), table, p, acts)
+	q, _, _ := plant.Step(two(), table, p, acts)
 	want := []api.Power{p.Power}
 	r := p
 	for _, a := range acts {
 		var l []api.Power
-		r, l, _ = Do(two(), r, a)
+		r, l, _ = plant.Do(two(), r, a)
 		want = append(want, l...)
 	}
 	same(t, "Trace", []any{states, e}, []any{append(want, q.Power), api.OK})
@@ -205,22 +206,22 @@ func TestAble(t *testing.T) {
 	s := api.Ship{Bow: 40, Thrusters: []api.Thruster{{Kind: api.KindMain, Max: 500, Cost: 1}, {Kind: api.KindMain, Max: 500, Cost: 3}}}
 	b := two()
 	p := lit(0, 1, 3).Power
-	able, e := Able(s, b, p)
+	able, e := plant.Able(s, b, p)
 	same(t, "Able", []any{able, e}, []any{[]int{0, 141}, api.OK})
 	b.Consumers[1].Thruster = 1
-	able, _ = Able(s, b, p)
+	able, _ = plant.Able(s, b, p)
 	same(t, "the first one counts", able, []int{0, 141})
 	p.Limits[0] = 19
-	able, _ = Able(s, b, p)
+	able, _ = plant.Able(s, b, p)
 	same(t, "not served", able, []int{0, 0})
-	able, e = Able(api.Ship{}, b, api.Power{})
+	able, e = plant.Able(api.Ship{}, b, api.Power{})
 	same(t, "no ship", []any{able, e}, []any{[]int{}, api.ErrRange})
-	able, e = Able(s, b, api.Power{})
+	able, e = plant.Able(s, b, api.Power{})
 	same(t, "no state", []any{able, e}, []any{[]int{}, api.ErrShape})
 }
 
 func TestBlack(t *testing.T) {
-	same(t, "Black", []bool{Black(two(), lit().Power), Black(two(), lit(0, 3).Power), Black(two(), lit(2).Power), Black(two(), api.Power{}), Black(api.Board{}, api.Power{})}, []bool{true, true, false, false, false})
+	same(t, "Black", []bool{plant.Black(two(), lit().Power), plant.Black(two(), lit(0, 3).Power), plant.Black(two(), lit(2).Power), plant.Black(two(), api.Power{}), plant.Black(api.Board{}, api.Power{})}, []bool{true, true, false, false, false})
 }
 
 func TestManyTicks(t *testing.T) {
@@ -228,7 +229,7 @@ func TestManyTicks(t *testing.T) {
 	b := two()
 	b.Phase, b.Frequency = 20, 1
 	for range 60 {
-		p, _ := New(b, table)
+		p, _ := plant.New(b, table)
 		for range 40 {
 			var acts []api.Act
 			for range r.Intn(4) {
@@ -239,9 +240,9 @@ func TestManyTicks(t *testing.T) {
 					p.Power.Sources[i].Frequency = 4999 + r.Intn(3)
 				}
 			}
-			states, e := Trace(b, table, p, acts)
-			q, _, f := Step(b, table, p, acts)
-			if e != api.OK || f != api.OK || Check(b, table, q) != api.OK || !slices.Equal(states[len(states)-1].Closed, q.Power.Closed) {
+			states, e := plant.Trace(b, table, p, acts)
+			q, _, f := plant.Step(b, table, p, acts)
+			if e != api.OK || f != api.OK || plant.Check(b, table, q) != api.OK || !slices.Equal(states[len(states)-1].Closed, q.Power.Closed) {
 				t.Fatalf("%v, %v: errors %d and %d", p, acts, e, f)
 			}
 			for i := range states[1:] {
@@ -259,7 +260,7 @@ func TestManyTicks(t *testing.T) {
 func look(t *testing.T, b api.Board, p api.Plant, acts []api.Act) {
 	t.Helper()
 	for _, a := range acts {
-		q, states, _ := Do(b, p, a)
+		q, states, _ := plant.Do(b, p, a)
 		for bus := range b.Buses {
 			if balance.Overloaded(b, q.Power, bus) {
 				t.Fatalf("%v, %v: overloaded", p, a)
@@ -276,7 +277,7 @@ func TestWildActs(t *testing.T) {
 	p := lit(0, 1, 2, 3, 4)
 	for _, n := range []int{math.MinInt, -1, 5, math.MaxInt} {
 		for kind := -1; kind < 12; kind++ {
-			if q, _, e := Do(two(), p, act(kind, n, n)); e != api.OK || q.Events[0].Err == api.OK {
+			if q, _, e := plant.Do(two(), p, act(kind, n, n)); e != api.OK || q.Events[0].Err == api.OK {
 				t.Errorf("%d, %d: %v", kind, n, q.Events)
 			}
 		}

@@ -1,4 +1,4 @@
-package report
+package report_test
 
 import (
 	"fmt"
@@ -8,6 +8,7 @@ import (
 
 	"dynpos/api"
 	"dynpos/logbook"
+	"dynpos/report"
 )
 
 func same(t *testing.T, name string, got, want any) {
@@ -42,19 +43,19 @@ func TestOf(t *testing.T) {
 	}{
 		{0, 10, api.Report{Ticks: [4]int{0, 4, 0, 6}, Worst: 1, Broken: 3, Short: 2}}, {4, 9, api.Report{Ticks: [4]int{0, 0, 0, 5}, Worst: 3, Short: 1}}, {2, 3, api.Report{Ticks: [4]int{0, 1}, Worst: 1, Broken: 2}}, {3, 4, api.Report{Ticks: [4]int{0, 1}, Worst: 1, Short: 1}}, {5, 5, api.Report{}}, {9, api.MaxTime, api.Report{Ticks: [4]int{0, 0, 0, api.MaxTime - 9}, Worst: 3, Broken: 1}},
 	} {
-		r, e := Of(b, x.from, x.to)
+		r, e := report.Of(b, x.from, x.to)
 		same(t, fmt.Sprint(x.from, x.to), []any{r, e}, []any{x.want, api.OK})
 	}
-	r, _ := Of(book(t, entry(3, 1, 2), entry(5, 1, 7), entry(6, 1, -1), entry(8, 1, 0), entry(8, 8, 0, 0, 0)), 0, 9)
+	r, _ := report.Of(book(t, entry(3, 1, 2), entry(5, 1, 7), entry(6, 1, -1), entry(8, 1, 0), entry(8, 8, 0, 0, 0)), 0, 9)
 	same(t, "other values", r, api.Report{Ticks: [4]int{4, 0, 2, 0}, Worst: 2, Short: 1})
-	r, _ = Of(logbook.New(), 0, 7)
+	r, _ = report.Of(logbook.New(), 0, 7)
 	same(t, "an empty book", r, api.Report{Ticks: [4]int{7}})
 	for i, x := range []struct {
 		b        api.Book
 		from, to int
 		want     api.Errno
 	}{{api.Book{}, -1, 5, api.ErrBook}, {b, -1, 5, api.ErrRange}, {b, 5, 4, api.ErrRange}, {b, 0, api.MaxTime + 1, api.ErrRange}} {
-		r, e := Of(x.b, x.from, x.to)
+		r, e := report.Of(x.b, x.from, x.to)
 		same(t, fmt.Sprint(i), []any{r, e}, []any{api.Report{}, x.want})
 	}
 }
@@ -64,9 +65,9 @@ func TestAdd(t *testing.T) {
 	for i, x := range []struct{ b, want api.Report }{
 		{api.Report{}, a}, {api.Report{Ticks: [4]int{10, 20, 30, 40}, Worst: 1, Broken: 50, Short: 60}, api.Report{Ticks: [4]int{11, 22, 33, 44}, Worst: 1, Broken: 55, Short: 66}}, {api.Report{Worst: 3}, a},
 	} {
-		same(t, fmt.Sprint(i), []any{Add(a, x.b), Add(x.b, a)}, []any{x.want, x.want})
+		same(t, fmt.Sprint(i), []any{report.Add(a, x.b), report.Add(x.b, a)}, []any{x.want, x.want})
 	}
-	same(t, "nothing", Add(api.Report{}, api.Report{}), api.Report{})
+	same(t, "nothing", report.Add(api.Report{}, api.Report{}), api.Report{})
 }
 
 func TestAddOfTwoTimes(t *testing.T) {
@@ -80,16 +81,16 @@ func TestAddOfTwoTimes(t *testing.T) {
 		from := r.Intn(10)
 		middle := from + r.Intn(10)
 		to := middle + r.Intn(10)
-		whole, _ := Of(b, from, to)
-		first, _ := Of(b, from, middle)
-		second, _ := Of(b, middle, to)
-		same(t, fmt.Sprint(b), Add(first, second), whole)
+		whole, _ := report.Of(b, from, to)
+		first, _ := report.Of(b, from, middle)
+		second, _ := report.Of(b, middle, to)
+		same(t, fmt.Sprint(b), report.Add(first, second), whole)
 	}
 }
 
 func TestPercent(t *testing.T) {
 	r := api.Report{Ticks: [4]int{0, 4, 0, 6}}
-	same(t, "the example", []int{Percent(r, 0), Percent(r, 1), Percent(r, 2), Percent(r, 3), Percent(r, -1), Percent(r, 4)}, []int{0, 40, 0, 60, 0, 0})
+	same(t, "the example", []int{report.Percent(r, 0), report.Percent(r, 1), report.Percent(r, 2), report.Percent(r, 3), report.Percent(r, -1), report.Percent(r, 4)}, []int{0, 40, 0, 60, 0, 0})
 	for i, x := range []struct {
 		ticks [4]int
 		level int
@@ -97,23 +98,23 @@ func TestPercent(t *testing.T) {
 	}{
 		{[4]int{}, 1, 0}, {[4]int{199, 1}, 1, 1}, {[4]int{200, 1}, 1, 0}, {[4]int{197, 3}, 1, 2}, {[4]int{1, 1, 1}, 0, 33}, {[4]int{1, 2}, 1, 67}, {[4]int{-1, 5}, 1, 0}, {[4]int{5, api.MaxTime + 1}, 1, 0}, {[4]int{math.MinInt, 0, 0, 5}, 3, 0}, {[4]int{api.MaxTime, api.MaxTime, api.MaxTime, api.MaxTime}, 2, 25}, {[4]int{0, 0, api.MaxTime, 0}, 2, 100}, {[4]int{api.MaxTime, 0, 0, api.MaxTime / 2}, 3, 33},
 	} {
-		same(t, fmt.Sprint(i), Percent(api.Report{Ticks: x.ticks}, x.level), x.want)
+		same(t, fmt.Sprint(i), report.Percent(api.Report{Ticks: x.ticks}, x.level), x.want)
 	}
 }
 
 func TestTextAndRead(t *testing.T) {
 	r := api.Report{Ticks: [4]int{7, 4, 0, 6}, Worst: 1, Broken: 3, Short: 2}
 	text := "red 4 yellow 0 green 6 none 7\nworst 1\nbroken 3\nshort 2\n"
-	same(t, "Text", Text(r), text)
-	back, e := Read(text)
+	same(t, "Text", report.Text(r), text)
+	back, e := report.Read(text)
 	same(t, "Read", []any{back, e}, []any{r, api.OK})
 	edge := api.Report{Ticks: [4]int{api.MaxTime, api.MaxTime, api.MaxTime, api.MaxTime}, Worst: api.MaxTime, Broken: api.MaxTime, Short: api.MaxTime}
-	back, e = Read(Text(edge))
+	back, e = report.Read(report.Text(edge))
 	same(t, "edges", []any{back, e}, []any{edge, api.OK})
 	for _, wrong := range []string{
-		"", text[:len(text)-1], text + "\n", " " + text, "red 4 yellow 0 green 6 none 7\nworst 1\nbroken 3\nshort 02\n", "red 4 yellow 0 green 6 none 7\nworst 1\nbroken 3\nshort -0\n", "red 4 yellow 0 green 6 none 7\nworst -1\nbroken 3\nshort 2\n", "red 4 yellow 0 green 6 none 7\nworst 1\nbroken 3\nshort 2147483649\n", "red 4 yellow 0 green 6 none +7\nworst 1\nbroken 3\nshort 2\n", "red 4 yellow 0 green 6 none 7 worst 1\nbroken 3\nshort 2\n", "red 4  yellow 0 green 6 none 7\nworst 1\nbroken 3\nshort 2\n", "red 4 green 0 yellow 6 none 7\nworst 1\nbroken 3\nshort 2\n", "red x yellow 0 green 6 none 7\nworst 1\nbroken 3\nshort 2\n", "red 4 yellow 0 green 6 none 7\nworst 1\nbroken 3\nshort 99999999999999999999\n", Text(api.Report{Short: -1}),
+		"", text[:len(text)-1], text + "\n", " " + text, "red 4 yellow 0 green 6 none 7\nworst 1\nbroken 3\nshort 02\n", "red 4 yellow 0 green 6 none 7\nworst 1\nbroken 3\nshort -0\n", "red 4 yellow 0 green 6 none 7\nworst -1\nbroken 3\nshort 2\n", "red 4 yellow 0 green 6 none 7\nworst 1\nbroken 3\nshort 2147483649\n", "red 4 yellow 0 green 6 none +7\nworst 1\nbroken 3\nshort 2\n", "red 4 yellow 0 green 6 none 7 worst 1\nbroken 3\nshort 2\n", "red 4  yellow 0 green 6 none 7\nworst 1\nbroken 3\nshort 2\n", "red 4 green 0 yellow 6 none 7\nworst 1\nbroken 3\nshort 2\n", "red x yellow 0 green 6 none 7\nworst 1\nbroken 3\nshort 2\n", "red 4 yellow 0 green 6 none 7\nworst 1\nbroken 3\nshort 99999999999999999999\n", report.Text(api.Report{Short: -1}),
 	} {
-		r, e := Read(wrong)
+		r, e := report.Read(wrong)
 		same(t, fmt.Sprintf("%q", wrong), []any{r, e}, []any{api.Report{}, api.ErrText})
 	}
 }

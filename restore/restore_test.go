@@ -1,4 +1,4 @@
-package restore
+package restore_test
 
 import (
 	"fmt"
@@ -10,6 +10,7 @@ import (
 	"dynpos/api"
 	"dynpos/balance"
 	"dynpos/board"
+	"dynpos/restore"
 	"dynpos/shed"
 	"dynpos/sync"
 )
@@ -42,26 +43,26 @@ func part(kind, number int) api.Part { return api.Part{Kind: kind, Number: numbe
 
 func TestUsable(t *testing.T) {
 	b, p := three()
-	equal(t, "Usable", []bool{Usable(b, p, 0), Usable(b, p, 1), Usable(b, p, 2), Usable(b, p, -1), Usable(b, api.Power{}, 0)}, []bool{true, true, false, false, false})
+	equal(t, "Usable", []bool{restore.Usable(b, p, 0), restore.Usable(b, p, 1), restore.Usable(b, p, 2), restore.Usable(b, p, -1), restore.Usable(b, api.Power{}, 0)}, []bool{true, true, false, false, false})
 	for _, x := range []api.Part{part(1, 0), part(2, 2), part(3, 0)} {
-		equal(t, fmt.Sprint(x), []bool{Usable(b, with(x), 0), Usable(b, with(x), 1)}, []bool{false, true})
+		equal(t, fmt.Sprint(x), []bool{restore.Usable(b, with(x), 0), restore.Usable(b, with(x), 1)}, []bool{false, true})
 	}
-	equal(t, "others", Usable(b, with(part(1, 1), part(2, 0), part(3, 1)), 0), true)
+	equal(t, "others", restore.Usable(b, with(part(1, 1), part(2, 0), part(3, 1)), 0), true)
 	for state, want := range map[int]bool{0: true, 1: true, 2: true, 3: false} {
 		p.Sources[0].State = state
-		equal(t, fmt.Sprint(state), Usable(b, p, 0), want)
+		equal(t, fmt.Sprint(state), restore.Usable(b, p, 0), want)
 	}
 }
 
 func TestGoal(t *testing.T) {
 	b, p := three()
-	equal(t, "no state", Goal(b, api.Power{}), []bool{})
-	equal(t, "whole", Goal(b, p), []bool{true, true, true})
+	equal(t, "no state", restore.Goal(b, api.Power{}), []bool{})
+	equal(t, "whole", restore.Goal(b, p), []bool{true, true, true})
 	for _, x := range []struct {
 		broken []api.Part
 		want   []bool
 	}{{[]api.Part{part(3, 1)}, []bool{true, false, true}}, {[]api.Part{part(1, 0), part(2, 1)}, []bool{false, false, true}}, {[]api.Part{part(1, 0)}, []bool{true, true, true}}, {[]api.Part{part(1, 0), part(1, 1)}, []bool{false, false, false}}, {[]api.Part{part(1, 1), part(3, 0)}, []bool{false, false, false}}, {[]api.Part{part(1, 0), part(2, 0)}, []bool{false, true, true}}} {
-		equal(t, fmt.Sprint(x.broken), Goal(b, with(x.broken...)), x.want)
+		equal(t, fmt.Sprint(x.broken), restore.Goal(b, with(x.broken...)), x.want)
 	}
 }
 
@@ -72,26 +73,26 @@ func TestHopeless(t *testing.T) {
 		buses []int
 		want  bool
 	}{{[]int{0, 1}, true}, {[]int{0}, false}, {[]int{1}, false}, {nil, false}, {[]int{1, 0}, false}, {[]int{0, 0}, false}, {[]int{2}, false}, {[]int{0, 1, 2}, false}, {[]int{-1, 0, 1}, false}, {[]int{0, 1, 3}, false}} {
-		equal(t, fmt.Sprint(x.buses), Hopeless(b, p, x.buses), x.want)
+		equal(t, fmt.Sprint(x.buses), restore.Hopeless(b, p, x.buses), x.want)
 	}
-	equal(t, "a broken bus", []bool{Hopeless(b, with(part(3, 1)), []int{1}), Hopeless(b, with(part(3, 1)), []int{1, 1})}, []bool{true, false})
-	equal(t, "no state", Hopeless(b, api.Power{}, []int{0}), false)
+	equal(t, "a broken bus", []bool{restore.Hopeless(b, with(part(3, 1)), []int{1}), restore.Hopeless(b, with(part(3, 1)), []int{1, 1})}, []bool{true, false})
+	equal(t, "no state", restore.Hopeless(b, api.Power{}, []int{0}), false)
 }
 
 func TestRestored(t *testing.T) {
 	b, p := three()
-	equal(t, "dark", Restored(b, p), false)
-	equal(t, "nothing to restore", Restored(b, with(part(1, 0), part(1, 1))), true)
-	equal(t, "no state", Restored(b, api.Power{}), false)
+	equal(t, "dark", restore.Restored(b, p), false)
+	equal(t, "nothing to restore", restore.Restored(b, with(part(1, 0), part(1, 1))), true)
+	equal(t, "no state", restore.Restored(b, api.Power{}), false)
 	p.Sources[0].State, p.Closed[2], p.Closed[0] = api.SourceReady, true, true
-	equal(t, "two of three", Restored(b, p), false)
+	equal(t, "two of three", restore.Restored(b, p), false)
 	p.Closed[1] = true
-	equal(t, "lit", Restored(b, p), true)
+	equal(t, "lit", restore.Restored(b, p), true)
 }
 
 func TestBound(t *testing.T) {
 	b, _ := three()
-	equal(t, "Bound", []int{Bound(b), Bound(api.Board{}), Bound(api.Board{Buses: 1})}, []int{14 + 2 + 3 + 1, 0, 1})
+	equal(t, "Bound", []int{restore.Bound(b), restore.Bound(api.Board{}), restore.Bound(api.Board{Buses: 1})}, []int{14 + 2 + 3 + 1, 0, 1})
 }
 
 func TestActErrors(t *testing.T) {
@@ -112,7 +113,7 @@ func TestActErrors(t *testing.T) {
 		{p, 0, act(api.ActClose, 2, 0), api.ErrState}, {p, 0, act(api.ActOpen, 2, 0), api.ErrState}, {p, 0, act(api.ActSync, 0, 0), api.ErrState}, {p, 0, act(api.ActLimit, 0, 61), api.ErrRange}, {p, 0, act(api.ActLimit, 0, -1), api.ErrRange},
 		{running, 0, act(api.ActStart, 0, 0), api.ErrState}, {running, 0, act(api.ActStart, 1, 0), api.ErrState}, {failed, 0, act(api.ActStart, 1, 0), api.ErrState}, {off, 0, act(api.ActStart, 0, 0), api.ErrState}, {running, 0, act(api.ActStop, 0, 0), api.ErrState}, {p, 0, act(api.ActStop, 0, 0), api.ErrState}, {failed, 0, act(api.ActStop, 1, 0), api.ErrState}, {failed, 0, act(api.ActFail, 1, 1), api.ErrState}, {p, 0, act(api.ActMend, 1, 1), api.ErrState},
 	} {
-		q, e := Act(b, x.p, x.time, x.a)
+		q, e := restore.Act(b, x.p, x.time, x.a)
 		equal(t, fmt.Sprint(i), []any{q, e}, []any{api.Power{}, x.want})
 	}
 }
@@ -121,7 +122,7 @@ func TestActs(t *testing.T) {
 	b, p := three()
 	do := func(p api.Power, time int, a api.Act) api.Power {
 		t.Helper()
-		q, e := Act(b, p, time, a)
+		q, e := restore.Act(b, p, time, a)
 		equal(t, fmt.Sprint(a), e, api.OK)
 		return q
 	}
@@ -166,43 +167,43 @@ func TestTooManyBroken(t *testing.T) {
 		b.Breakers, p.Closed = append(b.Breakers, api.Breaker{Kind: api.BreakerTie, B: 1}), append(p.Closed, false)
 	}
 	for i := range 24 {
-		p, _ = Act(b, p, 0, act(api.ActFail, i, api.PartBreaker))
+		p, _ = restore.Act(b, p, 0, act(api.ActFail, i, api.PartBreaker))
 	}
 	for i := range 8 {
-		p, _ = Act(b, p, 0, act(api.ActFail, i, api.PartSource))
+		p, _ = restore.Act(b, p, 0, act(api.ActFail, i, api.PartSource))
 	}
-	_, again := Act(b, p, 0, act(api.ActFail, 0, api.PartSource))
-	_, e := Act(b, p, 0, act(api.ActFail, 0, api.PartBus))
+	_, again := restore.Act(b, p, 0, act(api.ActFail, 0, api.PartSource))
+	_, e := restore.Act(b, p, 0, act(api.ActFail, 0, api.PartBus))
 	equal(t, "33 parts", []any{len(p.Broken), again, e}, []any{32, api.ErrState, api.ErrLimit})
 }
 
 func TestRun(t *testing.T) {
 	b, p := three()
-	q, time, n, e := Run(b, p, 7, []api.Act{act(api.ActStart, 1, 0), act(api.ActWait, 0, 0), act(api.ActClose, 3, 0)})
+	q, time, n, e := restore.Run(b, p, 7, []api.Act{act(api.ActStart, 1, 0), act(api.ActWait, 0, 0), act(api.ActClose, 3, 0)})
 	equal(t, "Run", []any{q.Closed[3], time, n, e}, []any{true, 8, 3, api.OK})
-	q, time, n, e = Run(b, p, 7, []api.Act{act(api.ActWait, 0, 0), act(api.ActClose, 3, 0), act(api.ActWait, 0, 0)})
+	q, time, n, e = restore.Run(b, p, 7, []api.Act{act(api.ActWait, 0, 0), act(api.ActClose, 3, 0), act(api.ActWait, 0, 0)})
 	equal(t, "Run with an error", []any{q, time, n, e}, []any{p, 8, 1, api.ErrState})
-	q, time, n, e = Run(b, p, -5, nil)
+	q, time, n, e = restore.Run(b, p, -5, nil)
 	equal(t, "Run of nothing", []any{q, time, n, e}, []any{p, -5, 0, api.OK})
-	q, time, n, e = Run(b, api.Power{}, 7, nil)
+	q, time, n, e = restore.Run(b, api.Power{}, 7, nil)
 	equal(t, "no state", []any{q, time, n, e}, []any{api.Power{}, 0, 0, api.ErrShape})
 }
 
 func TestPlanOfTheExample(t *testing.T) {
 	b := api.Board{Buses: 2, Breakers: []api.Breaker{{Kind: api.BreakerTie, B: 1}, {Kind: api.BreakerSource}}, Sources: []api.Source{{Rating: 9, Start: 3}}}
 	p := api.Power{Closed: make([]bool, 2), Sources: make([]api.Running, 1)}
-	l, e := Plan(b, p)
+	l, e := restore.Plan(b, p)
 	wait := act(api.ActWait, 0, 0)
 	equal(t, "Plan", []any{l, e}, []any{[]api.Act{act(api.ActStart, 0, 0), wait, wait, wait, act(api.ActClose, 1, 0), act(api.ActClose, 0, 0)}, api.OK})
 	p.Closed[0] = true
-	l, e = Plan(b, p)
+	l, e = restore.Plan(b, p)
 	equal(t, "with a closed tie", []any{l, e}, []any{[]api.Act{act(api.ActOpen, 0, 0), act(api.ActStart, 0, 0), wait, wait, wait, act(api.ActClose, 1, 0), act(api.ActClose, 0, 0)}, api.OK})
 	p.Sources[0].State = api.SourceStarting
 	b.Sources[0].Start = 0
-	l, _ = Plan(b, p)
+	l, _ = restore.Plan(b, p)
 	equal(t, "it starts already", l, []api.Act{act(api.ActOpen, 0, 0), wait, act(api.ActClose, 1, 0), act(api.ActClose, 0, 0)})
 	p.Sources[0].State = api.SourceReady
-	l, _ = Plan(b, p)
+	l, _ = restore.Plan(b, p)
 	equal(t, "it is ready", l, []api.Act{act(api.ActOpen, 0, 0), act(api.ActClose, 1, 0), act(api.ActClose, 0, 0)})
 }
 
@@ -210,23 +211,23 @@ func TestPlanOfConsumers(t *testing.T) {
 	b, p := three()
 	wait := act(api.ActWait, 0, 0)
 	begin := []api.Act{act(api.ActStart, 0, 0), act(api.ActStart, 1, 0), wait, wait, wait, act(api.ActClose, 2, 0), act(api.ActClose, 3, 0), act(api.ActClose, 0, 0)}
-	l, e := Plan(b, p)
+	l, e := restore.Plan(b, p)
 	equal(t, "the important one takes the room of the other", []any{l, e}, []any{append(slices.Clone(begin), act(api.ActClose, 5, 0)), api.OK})
 	p.Limits[0] = 50
-	l, _ = Plan(b, p)
+	l, _ = restore.Plan(b, p)
 	equal(t, "both fit", l, append(slices.Clone(begin), act(api.ActClose, 5, 0), act(api.ActClose, 4, 0)))
 	p = with(part(2, 5))
-	l, _ = Plan(b, p)
+	l, _ = restore.Plan(b, p)
 	equal(t, "a broken breaker", l, append(slices.Clone(begin), act(api.ActClose, 6, 0), act(api.ActClose, 4, 0)))
 	p = with(part(4, 1))
-	l, _ = Plan(b, p)
+	l, _ = restore.Plan(b, p)
 	equal(t, "a broken consumer", l, append(slices.Clone(begin), act(api.ActClose, 4, 0)))
 	p = with(part(3, 1))
-	l, _ = Plan(b, p)
+	l, _ = restore.Plan(b, p)
 	equal(t, "a broken bus", l, append(slices.Clone(begin[:7]), act(api.ActClose, 6, 0), act(api.ActClose, 4, 0)))
 	b.Sources[0].Rating = 40
 	b.Sources[1].Rating = 59
-	l, _ = Plan(b, with(part(3, 1)))
+	l, _ = restore.Plan(b, with(part(3, 1)))
 	equal(t, "no room", l, append(slices.Clone(begin[:7]), act(api.ActClose, 6, 0)))
 }
 
@@ -246,7 +247,7 @@ func TestPlanErrors(t *testing.T) {
 		p    api.Power
 		want api.Errno
 	}{{b, api.Power{}, api.ErrShape}, {api.Board{}, p, api.ErrLimit}, {b, unprotected, api.ErrState}, {b, stuck, api.ErrState}, {b, unfollowed, api.ErrState}, {b, lit, api.ErrNone}, {b, with(part(1, 0), part(1, 1)), api.ErrNone}} {
-		l, e := Plan(x.b, x.p)
+		l, e := restore.Plan(x.b, x.p)
 		equal(t, fmt.Sprint(i), []any{l, e}, []any{[]api.Act{}, x.want})
 	}
 }
@@ -285,36 +286,36 @@ func TestPlansRestore(t *testing.T) {
 	for range 3000 {
 		b, p := random(r)
 		p, _, _ = shed.Protect(b, p)
-		goal := Goal(b, p)
+		goal := restore.Goal(b, p)
 		var rest []int
 		for bus, in := range goal {
 			if !in && !board.Broken(p, api.PartBus, bus) {
 				rest = append(rest, bus)
 			}
 		}
-		if len(rest) > 0 && !Hopeless(b, p, rest) {
+		if len(rest) > 0 && !restore.Hopeless(b, p, rest) {
 			t.Fatalf("%v, %v: %v is not hopeless", b, p, rest)
 		}
-		l, e := Plan(b, p)
+		l, e := restore.Plan(b, p)
 		if e != api.OK {
-			if e == api.ErrNone && slices.Contains(goal, true) && !Restored(b, p) {
+			if e == api.ErrNone && slices.Contains(goal, true) && !restore.Restored(b, p) {
 				t.Fatalf("%v, %v: no plan", b, p)
 			}
 			continue
 		}
 		restored++
-		if len(l) > Bound(b) {
+		if len(l) > restore.Bound(b) {
 			t.Fatalf("%v, %v: %d acts", b, p, len(l))
 		}
 		time := 10
 		for n, a := range l {
-			q, next, done, e := Run(b, p, time, []api.Act{a})
+			q, next, done, e := restore.Run(b, p, time, []api.Act{a})
 			if e != api.OK || done != 1 || sync.Bad(b, p, q) {
 				t.Fatalf("%v, %v: %v, act %d, error %d", b, p, l, n, e)
 			}
 			p, time = q, next
 		}
-		if !Restored(b, p) {
+		if !restore.Restored(b, p) {
 			t.Fatalf("%v: %v is not restored", b, p)
 		}
 		for bus := range b.Buses {

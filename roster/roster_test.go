@@ -1,4 +1,4 @@
-package roster
+package roster_test
 
 import (
 	"fmt"
@@ -6,6 +6,7 @@ import (
 	"testing"
 
 	"dynpos/api"
+	"dynpos/roster"
 	"dynpos/sync"
 )
 
@@ -35,20 +36,20 @@ func TestValid(t *testing.T) {
 		t    api.Table
 		want bool
 	}{{table, true}, {api.Table{Start: 2, Stop: 1}, true}, {api.Table{Start: 100, Stop: 99, Delay: 600}, true}, {api.Table{Start: 100, Stop: 100}, false}, {api.Table{Start: 101, Stop: 99}, false}, {api.Table{Start: 2}, false}, {api.Table{Start: 40, Stop: 40}, false}, {api.Table{Start: 80, Stop: 40, Delay: -1}, false}, {api.Table{Start: 80, Stop: 40, Delay: 601}, false}} {
-		same(t, fmt.Sprint(x), Valid(x.t), x.want)
+		same(t, fmt.Sprint(x), roster.Valid(x.t), x.want)
 	}
 }
 
 func TestHigh(t *testing.T) {
 	for limit, want := range map[int]bool{80: false, 81: true, 0: false, 300: true} {
 		b, p := plant(limit, 12, 2, 0)
-		same(t, fmt.Sprint(limit), []bool{High(b, table, p, 0), High(b, table, p, 1), High(b, table, p, 2), High(b, api.Table{}, p, 0)}, []bool{want, want, false, false})
+		same(t, fmt.Sprint(limit), []bool{roster.High(b, table, p, 0), roster.High(b, table, p, 1), roster.High(b, table, p, 2), roster.High(b, api.Table{}, p, 0)}, []bool{want, want, false, false})
 	}
 	b, p := plant(300, 2, 0, 0)
-	same(t, "a dead island", High(b, table, p, 0), false)
+	same(t, "a dead island", roster.High(b, table, p, 0), false)
 	p.Limits[0] = 301
 	p.Closed[1] = true
-	same(t, "no state", High(b, table, p, 0), false)
+	same(t, "no state", roster.High(b, table, p, 0), false)
 }
 
 func TestLow(t *testing.T) {
@@ -71,11 +72,11 @@ func TestLow(t *testing.T) {
 	} {
 		b, p := plant(x.limit, x.states...)
 		p.Broken = x.broken
-		got, ok := Low(b, table, p, 1)
+		got, ok := roster.Low(b, table, p, 1)
 		same(t, fmt.Sprint(i), []any{got, ok}, []any{x.want, x.ok})
-		got, ok = Low(b, api.Table{Start: 40, Stop: 40}, p, 1)
+		got, ok = roster.Low(b, api.Table{Start: 40, Stop: 40}, p, 1)
 		same(t, "a wrong table", []any{got, ok}, []any{0, false})
-		_, ok = Low(b, table, p, 2)
+		_, ok = roster.Low(b, table, p, 2)
 		same(t, "no bus", ok, false)
 	}
 }
@@ -92,13 +93,13 @@ func TestNext(t *testing.T) {
 	} {
 		b, p := plant(10, x.states...)
 		p.Broken = x.broken
-		got, ok := Next(b, p, 0)
+		got, ok := roster.Next(b, p, 0)
 		same(t, fmt.Sprint(i), []any{got, ok}, []any{x.want, x.ok})
 	}
 	b, p := plant(10, 12, 12, 2)
 	p.Closed[0] = false
 	for bus, want := range map[int]string{0: "0 false", 1: "2 true", 2: "0 false", -1: "0 false"} {
-		got, ok := Next(b, p, bus)
+		got, ok := roster.Next(b, p, bus)
 		same(t, fmt.Sprint(bus), fmt.Sprint(got, ok), want)
 	}
 }
@@ -109,7 +110,7 @@ func TestStepStarts(t *testing.T) {
 	for time := 10; time <= 15; time++ {
 		var acts []api.Act
 		var e api.Errno
-		r, acts, e = Step(b, table, p, 0, time, r)
+		r, acts, e = roster.Step(b, table, p, 0, time, r)
 		want := []api.Act{}
 		if time == 15 {
 			want = []api.Act{{Kind: api.ActStart, Unit: 1}}
@@ -117,7 +118,7 @@ func TestStepStarts(t *testing.T) {
 		same(t, fmt.Sprint(time), []any{r, acts, e}, []any{api.Roster{High: 10, Low: -1}, want, api.OK})
 	}
 	p.Limits[0] = 80
-	r, _, _ = Step(b, table, p, 0, 16, r)
+	r, _, _ = roster.Step(b, table, p, 0, 16, r)
 	same(t, "no more high", r, api.Roster{High: -1, Low: -1})
 }
 
@@ -131,9 +132,9 @@ func TestStepBehindTheDelay(t *testing.T) {
 		{[]int{12, 1, 0}, late, nil}, {[]int{12, 3, 3}, late, nil}, {[]int{12, 1, 2}, api.Roster{High: -1, Low: -1}, []api.Act{{Kind: api.ActSync, Unit: 2, Value: 0}, {Kind: api.ActClose, Unit: 3}}}, {[]int{2, 3, 12}, api.Roster{High: -1, Low: -1}, []api.Act{{Kind: api.ActSync, Unit: 0, Value: 1}, {Kind: api.ActClose, Unit: 1}}},
 	} {
 		b, p := plant(200, x.states...)
-		r, acts, e := Step(b, table, p, 1, 8, late)
+		r, acts, e := roster.Step(b, table, p, 1, 8, late)
 		same(t, fmt.Sprint(i), []any{r, acts, e}, []any{x.want, append([]api.Act{}, x.acts...), api.OK})
-		r, acts, _ = Step(b, table, p, 1, 7, late)
+		r, acts, _ = roster.Step(b, table, p, 1, 7, late)
 		same(t, fmt.Sprint(i), []any{r, acts}, []any{late, []api.Act{}})
 	}
 }
@@ -141,17 +142,17 @@ func TestStepBehindTheDelay(t *testing.T) {
 func TestStepStops(t *testing.T) {
 	b, p := plant(60, 12, 12, 12)
 	r := api.Roster{High: -1, Low: -1}
-	r, acts, _ := Step(b, table, p, 0, 10, r)
+	r, acts, _ := roster.Step(b, table, p, 0, 10, r)
 	same(t, "low", []any{r, acts}, []any{api.Roster{High: -1, Low: 10}, []api.Act{}})
-	_, acts, _ = Step(b, table, p, 0, 14, r)
+	_, acts, _ = roster.Step(b, table, p, 0, 14, r)
 	same(t, "not yet", acts, []api.Act{})
-	r, acts, e := Step(b, table, p, 0, 15, r)
+	r, acts, e := roster.Step(b, table, p, 0, 15, r)
 	same(t, "stop", []any{r, acts, e}, []any{api.Roster{High: -1, Low: -1}, []api.Act{{Kind: api.ActOpen, Unit: 3}, {Kind: api.ActStop, Unit: 2}}, api.OK})
 	p.Limits[0] = 100
-	r, acts, _ = Step(b, table, p, 0, 15, api.Roster{High: -1, Low: 10})
+	r, acts, _ = roster.Step(b, table, p, 0, 15, api.Roster{High: -1, Low: 10})
 	same(t, "no more low", []any{r, acts}, []any{api.Roster{High: -1, Low: -1}, []api.Act{}})
 	b, p = plant(0, 12, 12, 12)
-	_, acts, _ = Step(b, api.Table{Start: 80, Stop: 40}, p, 0, 0, api.Roster{High: -1, Low: -1})
+	_, acts, _ = roster.Step(b, api.Table{Start: 80, Stop: 40}, p, 0, 0, api.Roster{High: -1, Low: -1})
 	same(t, "without a delay", acts, []api.Act{{Kind: api.ActOpen, Unit: 3}, {Kind: api.ActStop, Unit: 2}})
 }
 
@@ -168,7 +169,7 @@ func TestStepErrors(t *testing.T) {
 		{api.Power{}, api.Table{}, 9, -1, calm, api.ErrShape}, {p, api.Table{}, 9, 0, calm, api.ErrRange}, {p, table, 9, -1, calm, api.ErrRange}, {p, table, 9, api.MaxTime + 1, calm, api.ErrRange}, {p, table, 9, 5, api.Roster{High: 6, Low: -1}, api.ErrRange}, {p, table, 9, 5, api.Roster{High: -1, Low: 6}, api.ErrRange}, {p, table, 9, 5, api.Roster{High: -2, Low: -1}, api.ErrRange}, {p, table, 9, 5, api.Roster{High: -1, Low: math.MinInt}, api.ErrRange},
 		{p, table, 1, api.MaxTime, calm, api.OK}, {p, table, 2, 5, calm, api.ErrUnknown}, {p, table, -1, 5, calm, api.ErrUnknown}, {p, table, 1, 5, api.Roster{High: 5, Low: 5}, api.OK},
 	} {
-		r, acts, e := Step(b, x.t, x.p, x.bus, x.time, x.r)
+		r, acts, e := roster.Step(b, x.t, x.p, x.bus, x.time, x.r)
 		same(t, fmt.Sprint(i), e, x.want)
 		if e != api.OK {
 			same(t, fmt.Sprint(i), []any{r, acts}, []any{api.Roster{}, []api.Act{}})
@@ -178,13 +179,13 @@ func TestStepErrors(t *testing.T) {
 
 func TestActsArePossible(t *testing.T) {
 	b, p := plant(200, 12, 2, 2)
-	_, acts, _ := Step(b, api.Table{Start: 80, Stop: 40}, p, 1, 9, api.Roster{High: -1, Low: -1})
+	_, acts, _ := roster.Step(b, api.Table{Start: 80, Stop: 40}, p, 1, 9, api.Roster{High: -1, Low: -1})
 	same(t, "not permitted without Match", sync.May(b, p, acts[1].Unit), api.ErrInterlock)
 	q, e := sync.Match(b, p, acts[0].Unit, acts[0].Value)
 	same(t, "Match", e, api.OK)
 	same(t, "May", sync.May(b, q, acts[1].Unit), api.OK)
 	b, p = plant(60, 12, 12, 12)
-	gone, _ := Low(b, table, p, 0)
+	gone, _ := roster.Low(b, table, p, 0)
 	p.Closed[1+gone] = false
-	same(t, "what is stopped does not make the load high", High(b, table, p, 0), false)
+	same(t, "what is stopped does not make the load high", roster.High(b, table, p, 0), false)
 }

@@ -1,4 +1,4 @@
-package script
+package script_test
 
 import (
 	"fmt"
@@ -9,6 +9,7 @@ import (
 
 	"dynpos/api"
 	"dynpos/example"
+	"dynpos/script"
 	"dynpos/voyage"
 )
 
@@ -32,34 +33,34 @@ var every = []struct {
 func TestValid(t *testing.T) {
 	for _, x := range every {
 		c := x.c
-		same(t, x.text, Valid(c), true)
-		same(t, x.text, []bool{Valid(command(c.Kind, c.Numbers[1:]...)), Valid(command(c.Kind, append(c.Numbers, 1)...)), Valid(command(c.Kind))}, []bool{false, false, false})
+		same(t, x.text, script.Valid(c), true)
+		same(t, x.text, []bool{script.Valid(command(c.Kind, c.Numbers[1:]...)), script.Valid(command(c.Kind, append(c.Numbers, 1)...)), script.Valid(command(c.Kind))}, []bool{false, false, false})
 		for i := range c.Numbers {
 			for _, n := range []int{1000000001, -1000000001, math.MinInt} {
 				wrong := append([]int{}, c.Numbers...)
 				wrong[i] = n
-				same(t, x.text, Valid(command(c.Kind, wrong...)), false)
+				same(t, x.text, script.Valid(command(c.Kind, wrong...)), false)
 			}
 		}
 	}
-	same(t, "kinds and ticks", []bool{Valid(command(0)), Valid(command(9)), Valid(command(-1, 1)), Valid(command(8, 0)), Valid(command(8, 61)), Valid(command(8, 1)), Valid(command(6, -5))}, []bool{false, false, false, false, false, true, true})
+	same(t, "kinds and ticks", []bool{script.Valid(command(0)), script.Valid(command(9)), script.Valid(command(-1, 1)), script.Valid(command(8, 0)), script.Valid(command(8, 61)), script.Valid(command(8, 1)), script.Valid(command(6, -5))}, []bool{false, false, false, false, false, true, true})
 }
 
 func TestFormatAndParse(t *testing.T) {
 	var l []api.Command
 	whole := ""
 	for _, x := range every {
-		text, e := Format([]api.Command{x.c})
+		text, e := script.Format([]api.Command{x.c})
 		same(t, x.text, []any{text, e}, []any{x.text, api.OK})
-		back, i, e := Parse(x.text)
+		back, i, e := script.Parse(x.text)
 		same(t, x.text, []any{back, i, e}, []any{[]api.Command{x.c}, 0, api.OK})
 		l, whole = append(l, x.c), whole+x.text
 	}
-	text, _ := Format(l)
-	back, i, e := Parse(text)
+	text, _ := script.Format(l)
+	back, i, e := script.Parse(text)
 	same(t, "all", []any{text, back, i, e}, []any{whole, l, 0, api.OK})
-	text, e = Format(nil)
-	back, i, f := Parse("")
+	text, e = script.Format(nil)
+	back, i, f := script.Parse("")
 	same(t, "nothing", []any{text, e, back, i, f}, []any{"", api.OK, []int{}, 0, api.OK})
 }
 
@@ -68,13 +69,13 @@ func TestFormatErrors(t *testing.T) {
 	for i := range many {
 		many[i] = command(api.CommandTick, 1)
 	}
-	_, e := Format(many[:80])
+	_, e := script.Format(many[:80])
 	same(t, "80", e, api.OK)
 	for _, x := range []struct {
 		l    []api.Command
 		want api.Errno
 	}{{many, api.ErrLimit}, {make([]api.Command, 81), api.ErrLimit}, {[]api.Command{many[0], {}}, api.ErrText}} {
-		text, e := Format(x.l)
+		text, e := script.Format(x.l)
 		same(t, "Format", []any{text, e}, []any{"", x.want})
 	}
 }
@@ -89,10 +90,10 @@ func TestParseErrors(t *testing.T) {
 		{strings.Repeat("x\n", 81), 80, api.ErrLimit}, {strings.Repeat(good, 80) + "x", 80, api.ErrLimit}, {strings.Repeat(good, 79) + "x", 79, api.ErrText}, {strings.Repeat(good, 79) + "tick 1", 79, api.ErrText}, {good + "\n" + "x", 1, api.ErrText}, {"\n", 0, api.ErrText},
 		{"tick 1", 0, api.ErrText}, {"tick  1\n", 0, api.ErrText}, {" tick 1\n", 0, api.ErrText}, {"tick 1 \n", 0, api.ErrText}, {"tick 1\r\n", 0, api.ErrText}, {"tick 01\n", 0, api.ErrText}, {"tick +1\n", 0, api.ErrText}, {"tick 0\n", 0, api.ErrText}, {"tick 61\n", 0, api.ErrText}, {"tick\n", 0, api.ErrText}, {"tick x\n", 0, api.ErrText}, {"Tick 1\n", 0, api.ErrText}, {"seen -0\n", 0, api.ErrText}, {"seen 00\n", 0, api.ErrText}, {"seen 1000000001\n", 0, api.ErrText}, {"seen 99999999999999999999\n", 0, api.ErrText}, {"act 1 2\n", 0, api.ErrText}, {"act 1 2 3 4\n", 0, api.ErrText}, {good + good + "mend 1 0 0\n" + "x\n", 2, api.ErrText}, {"weather 1 2 3 4 5 6 7 8\n", 0, api.ErrText}, {"weather" + strings.Repeat(" 1", 20) + "\n", 0, api.ErrText}, {"1\n", 0, api.ErrText},
 	} {
-		l, i, e := Parse(x.text)
+		l, i, e := script.Parse(x.text)
 		same(t, fmt.Sprintf("%q", x.text), []any{l, i, e}, []any{[]int{}, x.index, x.e})
 	}
-	l, _, e := Parse(strings.Repeat(good, 80))
+	l, _, e := script.Parse(strings.Repeat(good, 80))
 	same(t, "80 lines", []any{len(l), e}, []any{80, api.OK})
 }
 
@@ -108,9 +109,9 @@ func TestInputs(t *testing.T) {
 		{Weather: w, Heading: 7, Request: 2, Faults: []api.Fault{{Kind: 2, Part: api.Part{Kind: 1}}, {Kind: 1, Part: api.Part{Kind: 9, Number: 1}}}, Acts: []api.Act{{Kind: 2, Unit: 5}, {Kind: 4}}, Sights: []api.Sight{sight(0, 103, 1, 2, 3), sight(1, 103, 1, 2, 3)}},
 		{Weather: w, Heading: 7, Seen: []int{9, 8}},
 	}
-	got, e := Inputs(l, 100)
+	got, e := script.Inputs(l, 100)
 	same(t, "Inputs", []any{got, e}, []any{want, api.OK})
-	got, e = Inputs(nil, api.MaxTime)
+	got, e = script.Inputs(nil, api.MaxTime)
 	same(t, "nothing", []any{got, e}, []any{[]int{}, api.OK})
 }
 
@@ -125,13 +126,13 @@ func TestInputsErrors(t *testing.T) {
 		time int
 		want api.Errno
 	}{{many, -1, api.ErrLimit}, {make([]api.Command, 81), 0, api.ErrLimit}, {[]api.Command{tick(60), {}, tick(1)}, -1, api.ErrLimit}, {[]api.Command{tick(60), tick(61)}, -1, api.ErrText}, {[]api.Command{{}}, -1, api.ErrText}, {nil, -1, api.ErrRange}, {nil, api.MaxTime + 1, api.ErrRange}, {[]api.Command{tick(30), tick(30)}, api.MaxTime, api.OK}, {many[:80], 0, api.OK}} {
-		got, e := Inputs(x.l, x.time)
+		got, e := script.Inputs(x.l, x.time)
 		same(t, fmt.Sprint(i), e, x.want)
 		if e != api.OK {
 			same(t, fmt.Sprint(i), got, []int{})
 			s := api.State{}
 			s.Plant.Time = x.time
-			next, e := Run(example.Vessel(), s, x.l)
+			next, e := script.Run(example.Vessel(), s, x.l)
 			same(t, fmt.Sprint(i), []any{next, e}, []any{api.State{}, x.want})
 		}
 	}
@@ -144,20 +145,20 @@ func TestRun(t *testing.T) {
 	first := weather + "act 3 0 0\nact 3 1 0\ntick 3\n"
 	second := weather + "act 1 1 0\nact 1 2 0\nact 1 3 0\nfix 0 1000 -500 100\nfix 1 1000 -500 100\ntick 2\nseen 1\nbreak 5 0\ntick 1\n"
 	read := func(text string) []api.Command {
-		l, _, e := Parse(text)
+		l, _, e := script.Parse(text)
 		same(t, "Parse", e, api.OK)
 		return l
 	}
-	whole, e := Run(v, s, read(first+second))
+	whole, e := script.Run(v, s, read(first+second))
 	same(t, "error", []any{e, whole.Plant.Time, whole.Broken, whole.Estimate.State}, []any{api.OK, 6, []api.Part{{Kind: 5}}, api.EstimateGood})
-	middle, e := Run(v, s, read(first))
+	middle, e := script.Run(v, s, read(first))
 	same(t, "error", e, api.OK)
-	last, e := Run(v, middle, read(second))
+	last, e := script.Run(v, middle, read(second))
 	same(t, "in two parts", []any{last, e}, []any{whole, api.OK})
-	inputs, _ := Inputs(read(first), 0)
+	inputs, _ := script.Inputs(read(first), 0)
 	again, _ := voyage.Run(v, s, inputs)
 	same(t, "by the inputs", again, middle)
-	next, e := Run(v, s, read("weather 0 0 0 0 0 0 3600\ntick 1\n"))
+	next, e := script.Run(v, s, read("weather 0 0 0 0 0 0 3600\ntick 1\n"))
 	same(t, "an error of the ship", []any{next, e}, []any{api.State{}, api.ErrRange})
 }
 
@@ -176,8 +177,8 @@ func TestParseOfFormat(t *testing.T) {
 			}
 			l = append(l, command(x.Kind, numbers...))
 		}
-		text, e := Format(l)
-		back, _, f := Parse(text)
+		text, e := script.Format(l)
+		back, _, f := script.Parse(text)
 		same(t, text, []any{back, e, f}, []any{append([]api.Command{}, l...), api.OK, api.OK})
 	}
 }

@@ -1,4 +1,4 @@
-package sector
+package sector_test
 
 import (
 	"math"
@@ -6,6 +6,7 @@ import (
 	"testing"
 
 	"dynpos/api"
+	"dynpos/sector"
 )
 
 func azimuth(most int, arcs ...api.Arc) api.Thruster {
@@ -30,18 +31,18 @@ func wrong() []api.Thruster {
 
 func TestValid(t *testing.T) {
 	for _, x := range []api.Thruster{azimuth(0), azimuth(5000, side, side, side, side), {Kind: 1, Station: 1, Rate: 5000, Cost: 100}, {Kind: 2, Cost: 1}} {
-		if !Valid(x) || !Allowed(x, 0, 0) {
+		if !sector.Valid(x) || !sector.Allowed(x, 0, 0) {
 			t.Errorf("%v is not valid", x)
 		}
 	}
 	for _, x := range wrong() {
-		if Valid(x) || Allowed(x, 0, 0) {
+		if sector.Valid(x) || sector.Allowed(x, 0, 0) {
 			t.Errorf("%v is valid", x)
 		}
-		if low, high := Lateral(x); low != 0 || high != 0 {
+		if low, high := sector.Lateral(x); low != 0 || high != 0 {
 			t.Errorf("Lateral of %v: %d, %d", x, low, high)
 		}
-		if low, high := Longitudinal(x, 0); low != 0 || high != 0 {
+		if low, high := sector.Longitudinal(x, 0); low != 0 || high != 0 {
 			t.Errorf("Longitudinal of %v: %d, %d", x, low, high)
 		}
 	}
@@ -59,7 +60,7 @@ func TestAllowed(t *testing.T) {
 		{tunnel, 0, 100, true}, {tunnel, 1, 0, false}, {main, -100, 0, true}, {main, 0, 1, false}, {azimuth(0), 0, 0, true}, {azimuth(0), 0, 1, false},
 		{azimuth(100), math.MinInt, 0, false}, {azimuth(100), 0, math.MaxInt, false}, {azimuth(100), math.MaxInt, math.MinInt, false},
 	} {
-		if Allowed(x.t, x.x, x.y) != x.want {
+		if sector.Allowed(x.t, x.x, x.y) != x.want {
 			t.Errorf("%v, (%d, %d): %v", x.t, x.x, x.y, !x.want)
 		}
 	}
@@ -67,14 +68,14 @@ func TestAllowed(t *testing.T) {
 
 func TestExample(t *testing.T) {
 	x := azimuth(100, side)
-	if low, high := Lateral(x); low != -100 || high != 0 {
+	if low, high := sector.Lateral(x); low != -100 || high != 0 {
 		t.Errorf("Lateral: %d, %d", low, high)
 	}
-	if low, high := Longitudinal(x, -60); low != -80 || high != 80 {
+	if low, high := sector.Longitudinal(x, -60); low != -80 || high != 80 {
 		t.Errorf("Longitudinal: %d, %d", low, high)
 	}
 	for _, y := range []int{1, 101, -101, math.MinInt, math.MaxInt} {
-		if low, high := Longitudinal(x, y); low != 0 || high != 0 {
+		if low, high := sector.Longitudinal(x, y); low != 0 || high != 0 {
 			t.Errorf("Longitudinal beside %d: %d, %d", y, low, high)
 		}
 	}
@@ -116,14 +117,14 @@ func TestRunsByTheirDefinition(t *testing.T) {
 			}
 			x.Forbidden = append(x.Forbidden, api.Arc{From: from, To: (from + width) % api.Turn})
 		}
-		low, high := Lateral(x)
-		if l, h := run(x.Max, func(n int) bool { return Allowed(x, 0, n) }); l != low || h != high {
+		low, high := sector.Lateral(x)
+		if l, h := run(x.Max, func(n int) bool { return sector.Allowed(x, 0, n) }); l != low || h != high {
 			t.Fatalf("Lateral of %v: %d, %d, not %d, %d", x, low, high, l, h)
 		}
 		for range 10 {
 			y := r.Intn(2*x.Max+1) - x.Max
-			low, high := Longitudinal(x, y)
-			if l, h := run(x.Max, func(n int) bool { return Allowed(x, n, y) }); l != low || h != high {
+			low, high := sector.Longitudinal(x, y)
+			if l, h := run(x.Max, func(n int) bool { return sector.Allowed(x, n, y) }); l != low || h != high {
 				t.Fatalf("Longitudinal of %v beside %d: %d, %d, not %d, %d", x, y, low, high, l, h)
 			}
 		}
@@ -136,7 +137,7 @@ func TestRated(t *testing.T) {
 		{-100, 100, 0, 10, -10, 10}, {-100, 100, 95, 10, 85, 100}, {-100, 100, -95, 10, -100, -85}, {-100, 0, 50, 10, 0, 0}, {0, 100, -50, 10, 0, 0}, {-100, 0, 10, 10, 0, 0}, {-100, 100, 40, 0, 40, 40}, {-5, 5, 40, 0, 5, 5}, {3, 9, -40, 2, 3, 3},
 		{-100, 100, 0, -1, -100, 100}, {100, -100, 0, 10, 100, -100}, {-100, 100, m + 1, 10, -100, 100}, {-100, 100, 0, m + 1, -100, 100}, {-m - 1, 100, 0, 1, -m - 1, 100}, {-100, m + 1, 0, 1, -100, m + 1}, {-m, m, m, m, 0, m}, {math.MinInt, math.MaxInt, math.MaxInt, math.MaxInt, math.MinInt, math.MaxInt},
 	} {
-		if l, h := Rated(x.low, x.high, x.last, x.rate); l != x.l || h != x.h {
+		if l, h := sector.Rated(x.low, x.high, x.last, x.rate); l != x.l || h != x.h {
 			t.Errorf("%v: %d, %d", x, l, h)
 		}
 	}

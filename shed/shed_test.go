@@ -1,4 +1,4 @@
-package shed
+package shed_test
 
 import (
 	"fmt"
@@ -9,6 +9,7 @@ import (
 	"dynpos/api"
 	"dynpos/balance"
 	"dynpos/board"
+	"dynpos/shed"
 )
 
 func same(t *testing.T, name string, got, want any) {
@@ -52,14 +53,14 @@ func two() (api.Board, api.Power) {
 
 func TestOrder(t *testing.T) {
 	b, _ := one(1, [3]int{5, 0, 3}, [3]int{5, 0, 1}, [3]int{5, 0, 3}, [3]int{5, 0, 0}, [3]int{5, 0, 1})
-	same(t, "Order", Order(b), []int{3, 1, 4, 0, 2})
-	same(t, "no board", Order(api.Board{}), []int{})
+	same(t, "Order", shed.Order(b), []int{3, 1, 4, 0, 2})
+	same(t, "no board", shed.Order(api.Board{}), []int{})
 }
 
 func TestServed(t *testing.T) {
 	b, p := two()
 	served := func(p api.Power) string {
-		return fmt.Sprint(Served(b, p, 0), Served(b, p, 1), Served(b, p, 2), Served(b, p, 3), Served(b, p, -1))
+		return fmt.Sprint(shed.Served(b, p, 0), shed.Served(b, p, 1), shed.Served(b, p, 2), shed.Served(b, p, 3), shed.Served(b, p, -1))
 	}
 	same(t, "all", served(p), "true true true false false")
 	for _, x := range []struct {
@@ -87,9 +88,9 @@ func TestServedWithManyNeeds(t *testing.T) {
 			b.Consumers[i].Needs = append(b.Consumers[i].Needs, n)
 		}
 	}
-	same(t, "a long chain", Served(b, p, 15), true)
+	same(t, "a long chain", shed.Served(b, p, 15), true)
 	p.Closed[1] = false
-	same(t, "a broken chain", Served(b, p, 15), false)
+	same(t, "a broken chain", shed.Served(b, p, 15), false)
 }
 
 func TestClear(t *testing.T) {
@@ -113,7 +114,7 @@ func TestClear(t *testing.T) {
 	} {
 		b, p := two()
 		x.change(&p)
-		q, acts, e := Clear(b, p)
+		q, acts, e := shed.Clear(b, p)
 		want := slices.Clone(p.Closed)
 		for _, a := range x.want {
 			want[a.Unit] = false
@@ -125,7 +126,7 @@ func TestClear(t *testing.T) {
 func TestClearFollows(t *testing.T) {
 	b, p := two()
 	p.Sources[1].Phase = 900
-	q, acts, e := Clear(b, p)
+	q, acts, e := shed.Clear(b, p)
 	same(t, "Clear", []any{len(acts), e, q.Sources[1].Phase, p.Sources[1].Phase}, []any{0, api.OK, 7, 900})
 }
 
@@ -146,57 +147,57 @@ func TestShed(t *testing.T) {
 	} {
 		b, p := one(x.rating, x.consumers...)
 		before := slices.Clone(p.Limits)
-		q, acts, e := Shed(b, p)
+		q, acts, e := shed.Shed(b, p)
 		same(t, x.name, []any{acts, e}, []any{append([]api.Act{}, x.want...), api.OK})
-		same(t, x.name, []any{balance.Overloaded(b, q, 0), Check(b, p, q), p.Limits}, []any{false, true, before})
+		same(t, x.name, []any{balance.Overloaded(b, q, 0), shed.Check(b, p, q), p.Limits}, []any{false, true, before})
 	}
 }
 
 func TestShedSparesTheLimited(t *testing.T) {
 	b, p := one(100, [3]int{60, 20, 0}, [3]int{70, 10, 1})
 	p.Limits[0] = 15
-	_, acts, _ := Shed(b, p)
+	_, acts, _ := shed.Shed(b, p)
 	same(t, "within the rating", acts, []api.Act{})
 	b.Sources[0].Rating = 80
-	q, acts, _ := Shed(b, p)
+	q, acts, _ := shed.Shed(b, p)
 	same(t, "one below its least stays", []any{acts, q.Limits}, []any{[]api.Act{limit(1, 65)}, []int{15, 65}})
 }
 
 func TestShedOpensBrokenBreakers(t *testing.T) {
 	b, p := one(50, [3]int{60, 60, 0})
 	p.Broken = []api.Part{{Kind: api.PartBreaker, Number: 1}}
-	_, acts, _ := Shed(b, p)
+	_, acts, _ := shed.Shed(b, p)
 	same(t, "a broken breaker", acts, open(1))
 }
 
 func TestShedLooksAtEachIsland(t *testing.T) {
 	b, p := two()
 	p.Closed[0], b.Sources[1].Rating = false, 60
-	q, acts, e := Shed(b, p)
+	q, acts, e := shed.Shed(b, p)
 	same(t, "both islands", []any{acts, e, q.Limits}, []any{append([]api.Act{limit(0, 50)}, open(4)...), api.OK, []int{50, 70, 50}})
 }
 
 func TestProtect(t *testing.T) {
 	b, p := two()
 	p.Sources[1].State = api.SourceFailed
-	q, acts, e := Protect(b, p)
+	q, acts, e := shed.Protect(b, p)
 	want := append(open(2), limit(0, 20), limit(2, 10))
 	same(t, "Protect", []any{acts, e, q.Limits, q.Closed}, []any{want, api.OK, []int{20, 70, 10}, []bool{true, true, false, true, true, true, false}})
-	again, acts, e := Protect(b, q)
+	again, acts, e := shed.Protect(b, q)
 	same(t, "twice", []any{again, acts, e}, []any{q, []api.Act{}, api.OK})
 }
 
 func TestErrors(t *testing.T) {
 	b, p := two()
 	p.Limits[0] = 61
-	for i, f := range []func(api.Board, api.Power) (api.Power, []api.Act, api.Errno){Clear, Shed, Protect} {
+	for i, f := range []func(api.Board, api.Power) (api.Power, []api.Act, api.Errno){shed.Clear, shed.Shed, shed.Protect} {
 		q, acts, e := f(b, p)
 		same(t, fmt.Sprint(i), []any{q, acts, e}, []any{api.Power{}, []api.Act{}, api.ErrState})
 		_, _, e = f(api.Board{}, p)
 		same(t, fmt.Sprint(i), e, api.ErrLimit)
 	}
 	_, good := two()
-	same(t, "Check", []bool{Check(b, p, p), Check(b, good, p), Check(b, p, good), Check(b, good, good)}, []bool{false, false, false, true})
+	same(t, "Check", []bool{shed.Check(b, p, p), shed.Check(b, good, p), shed.Check(b, p, good), shed.Check(b, good, good)}, []bool{false, false, false, true})
 }
 
 func TestCheckOfWrongStates(t *testing.T) {
@@ -213,26 +214,26 @@ func TestCheckOfWrongStates(t *testing.T) {
 		for _, k := range x.open {
 			q.Closed[k] = false
 		}
-		same(t, fmt.Sprint(i), Check(b, p, q), x.want)
+		same(t, fmt.Sprint(i), shed.Check(b, p, q), x.want)
 	}
-	q, _, _ := Protect(b, p)
+	q, _, _ := shed.Protect(b, p)
 	for i, change := range []func(q *api.Power){func(q *api.Power) { q.Sources = []api.Running{{State: 2, Frequency: 5001}} }, func(q *api.Power) { q.Broken = []api.Part{{Kind: 3}} }, func(q *api.Power) { q.Limits = []int{20, 71, 0, 10} }} {
 		w := q
 		change(&w)
-		same(t, fmt.Sprintf("change %d", i), Check(b, p, w), false)
+		same(t, fmt.Sprintf("change %d", i), shed.Check(b, p, w), false)
 	}
-	same(t, "a limit that is not valid", Check(b, p, api.Power{Closed: p.Closed, Sources: p.Sources, Limits: []int{-1, 50, 0, 0}}), false)
+	same(t, "a limit that is not valid", shed.Check(b, p, api.Power{Closed: p.Closed, Sources: p.Sources, Limits: []int{-1, 50, 0, 0}}), false)
 	one := api.Power{Closed: slices.Clone(p.Closed), Sources: p.Sources, Limits: []int{1, 50, 0, 0}}
 	one.Closed[2] = false
-	same(t, "one that takes 1 comes before one that is tripped", Check(b, p, one), false)
+	same(t, "one that takes 1 comes before one that is tripped", shed.Check(b, p, one), false)
 	shut := api.Power{Closed: []bool{true, false, true, true, true}, Sources: p.Sources, Limits: []int{10, 70, 0, 10}}
-	same(t, "closed, and not overloaded", Check(b, shut, api.Power{Closed: p.Closed, Sources: p.Sources, Limits: shut.Limits}), false)
+	same(t, "closed, and not overloaded", shed.Check(b, shut, api.Power{Closed: p.Closed, Sources: p.Sources, Limits: shut.Limits}), false)
 	opened := api.Power{Closed: slices.Clone(p.Closed), Sources: p.Sources, Limits: []int{20, 70, 0, 10}}
 	opened.Closed[4] = false
-	same(t, "closed again", Check(b, opened, p), false)
+	same(t, "closed again", shed.Check(b, opened, p), false)
 	raised := q
 	raised.Limits = []int{10, 70, 0, 10}
-	same(t, "a limit that was raised", Check(b, raised, q), false)
+	same(t, "a limit that was raised", shed.Check(b, raised, q), false)
 }
 
 // random returns a board of up to four buses in a state.
@@ -267,8 +268,8 @@ func TestProtectOfManyStates(t *testing.T) {
 	r := rand.New(rand.NewSource(11))
 	for range 1500 {
 		b, p := random(r)
-		q, acts, e := Protect(b, p)
-		if e != api.OK || board.State(b, q) != api.OK || !Check(b, p, q) {
+		q, acts, e := shed.Protect(b, p)
+		if e != api.OK || board.State(b, q) != api.OK || !shed.Check(b, p, q) {
 			t.Fatalf("%v, %v: %v, error %d", b, p, q, e)
 		}
 		for bus := range b.Buses {
@@ -276,7 +277,7 @@ func TestProtectOfManyStates(t *testing.T) {
 				t.Fatalf("%v, %v: %v is overloaded", b, p, q)
 			}
 		}
-		if again, more, _ := Protect(b, q); fmt.Sprint(again) != fmt.Sprint(q) || len(more) > 0 {
+		if again, more, _ := shed.Protect(b, q); fmt.Sprint(again) != fmt.Sprint(q) || len(more) > 0 {
 			t.Fatalf("%v, %v: again %v", b, p, more)
 		}
 		if n := len(acts) - 1; n >= 0 && acts[n].Kind == api.ActOpen && b.Breakers[acts[n].Unit].Kind == api.BreakerConsumer && !board.Broken(p, api.PartConsumer, b.Breakers[acts[n].Unit].B) && board.Live(b, q, b.Breakers[acts[n].Unit].A) {

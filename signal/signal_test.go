@@ -1,4 +1,4 @@
-package signal
+package signal_test
 
 import (
 	"math"
@@ -7,6 +7,7 @@ import (
 	"testing"
 
 	"dynpos/api"
+	"dynpos/signal"
 )
 
 // edges has for each kind the least and the greatest valid signal, and its word.
@@ -28,14 +29,14 @@ func numbers(s *api.Signal) []*int { return []*int{&s.Source, &s.Time, &s.A, &s.
 func TestEdgesAreValid(t *testing.T) {
 	for _, x := range edges {
 		for _, s := range []api.Signal{x.least, x.most} {
-			if !Valid(s) {
+			if !signal.Valid(s) {
 				t.Errorf("%v is not valid", s)
 			}
-			w, e := Write(s)
+			w, e := signal.Write(s)
 			if e != api.OK || w.Fields[0] != x.word {
 				t.Errorf("Write of %v: %q, error %d", s, w.Fields, e)
 			}
-			if back, e := Read(w); back != s || e != api.OK {
+			if back, e := signal.Read(w); back != s || e != api.OK {
 				t.Errorf("Read of %q: %v, error %d", w.Fields, back, e)
 			}
 		}
@@ -49,14 +50,14 @@ func TestBeyondTheEdges(t *testing.T) {
 			*numbers(&low)[i]--
 			*numbers(&high)[i]++
 			for _, s := range []api.Signal{low, high} {
-				if w, e := Write(s); Valid(s) || e != api.ErrSignal || w.Fields != nil {
+				if w, e := signal.Write(s); signal.Valid(s) || e != api.ErrSignal || w.Fields != nil {
 					t.Errorf("%v is valid", s)
 				}
 			}
 		}
 	}
 	for _, kind := range []int{-1, 0, 7, math.MinInt, math.MaxInt} {
-		if Valid(api.Signal{Kind: kind}) {
+		if signal.Valid(api.Signal{Kind: kind}) {
 			t.Errorf("the kind %d is valid", kind)
 		}
 	}
@@ -64,12 +65,12 @@ func TestBeyondTheEdges(t *testing.T) {
 
 func TestNumber(t *testing.T) {
 	for text, want := range map[string]int{"0": 0, "5": 5, "-5": -5, "10": 10, "9999999999": 9999999999, "-9999999999": -9999999999, "1234567890": 1234567890} {
-		if n, ok := Number(text); n != want || !ok {
+		if n, ok := signal.Number(text); n != want || !ok {
 			t.Errorf("Number of %q: %d, %v", text, n, ok)
 		}
 	}
 	for _, text := range []string{"", "-", "-0", "00", "01", "-01", "+1", "12345678901", "-12345678901", "1a", " 1", "1 ", "--1", "1-", "0x1", "٣"} {
-		if n, ok := Number(text); n != 0 || ok {
+		if n, ok := signal.Number(text); n != 0 || ok {
 			t.Errorf("Number of %q: %d, %v", text, n, ok)
 		}
 	}
@@ -77,8 +78,8 @@ func TestNumber(t *testing.T) {
 
 func TestText(t *testing.T) {
 	for n, want := range map[int]string{0: "0", -7: "-7", math.MinInt: "-9223372036854775808", math.MaxInt: "9223372036854775807"} {
-		if Text(n) != want {
-			t.Errorf("Text of %d: %q", n, Text(n))
+		if signal.Text(n) != want {
+			t.Errorf("Text of %d: %q", n, signal.Text(n))
 		}
 	}
 }
@@ -86,10 +87,10 @@ func TestText(t *testing.T) {
 func TestWriteAndRead(t *testing.T) {
 	fix := api.Signal{Kind: api.SignalFix, Source: 2, Time: 17, A: 100, B: -50, C: 30}
 	fields := []string{"FIX", "2", "17", "100", "-50", "30"}
-	if w, e := Write(fix); !slices.Equal(w.Fields, fields) || e != api.OK {
+	if w, e := signal.Write(fix); !slices.Equal(w.Fields, fields) || e != api.OK {
 		t.Errorf("Write: %q, error %d", w.Fields, e)
 	}
-	if s, e := Read(api.Sentence{Fields: fields}); s != fix || e != api.OK {
+	if s, e := signal.Read(api.Sentence{Fields: fields}); s != fix || e != api.OK {
 		t.Errorf("Read: %v, error %d", s, e)
 	}
 }
@@ -101,11 +102,11 @@ func TestFieldsOfAllKinds(t *testing.T) {
 	}{
 		{api.Signal{Kind: 1, Source: 1, Time: 2, A: 3, B: 4, C: 5}, "FIX,1,2,3,4,5"}, {api.Signal{Kind: 2, Source: 1, Time: 2, A: 3}, "HDG,1,2,3"}, {api.Signal{Kind: 3, Source: 1, Time: 2, A: 3, B: 4}, "WND,1,2,3,4"}, {api.Signal{Kind: 4, Source: 1, Time: 2, A: 3, B: 4}, "THR,1,2,3,4"}, {api.Signal{Kind: 5, Source: 1, Time: 2, A: 1}, "BRK,1,2,1"}, {api.Signal{Kind: 6, Source: 1, Time: 2, A: 3, B: 4, C: 5}, "GEN,1,2,3,4,5"},
 	} {
-		w, e := Write(x.s)
+		w, e := signal.Write(x.s)
 		if got := strings.Join(w.Fields, ","); got != x.want || e != api.OK {
 			t.Errorf("Write of %v: %s, error %d", x.s, got, e)
 		}
-		if s, e := Read(api.Sentence{Fields: strings.Split(x.want, ",")}); s != x.s || e != api.OK {
+		if s, e := signal.Read(api.Sentence{Fields: strings.Split(x.want, ",")}); s != x.s || e != api.OK {
 			t.Errorf("Read of %s: %v, error %d", x.want, s, e)
 		}
 	}
@@ -113,11 +114,11 @@ func TestFieldsOfAllKinds(t *testing.T) {
 
 func TestReadErrors(t *testing.T) {
 	for _, text := range []string{"", "FIX", "FIX,2,17,100,-50", "FIX,2,17,100,-50,30,1", "FIX,2,17,100,-50,0", "FIX,02,17,100,-50,30", "fix,2,17,100,-50,30", "XXX,1,1,1", "HDG,1,1,3600", "HDG,1,1,-0", "HDG,1,1,5,0", "HDG,1,1", "BRK,1,1,2", "BRK,1,1,", ",1,1,1", "GEN,1,1,1,1", "WND,100,1,1,1", "THR,1,-1,1,1"} {
-		if s, e := Read(api.Sentence{Fields: strings.Split(text, ",")}); s != (api.Signal{}) || e != api.ErrSignal {
+		if s, e := signal.Read(api.Sentence{Fields: strings.Split(text, ",")}); s != (api.Signal{}) || e != api.ErrSignal {
 			t.Errorf("Read of %q: %v, error %d", text, s, e)
 		}
 	}
-	if _, e := Read(api.Sentence{}); e != api.ErrSignal {
+	if _, e := signal.Read(api.Sentence{}); e != api.ErrSignal {
 		t.Error("a sentence without fields is read")
 	}
 }

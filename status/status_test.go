@@ -1,4 +1,4 @@
-package status
+package status_test
 
 import (
 	"fmt"
@@ -6,6 +6,7 @@ import (
 	"testing"
 
 	"dynpos/api"
+	"dynpos/status"
 )
 
 func same(t *testing.T, name string, got, want any) {
@@ -26,7 +27,7 @@ func TestJudge(t *testing.T) {
 				} else if safe && causes >= 2 {
 					want = api.LevelGreen
 				}
-				same(t, fmt.Sprint(holds, safe, state, causes), Judge(holds, safe, api.Estimate{State: state}, causes), want)
+				same(t, fmt.Sprint(holds, safe, state, causes), status.Judge(holds, safe, api.Estimate{State: state}, causes), want)
 			}
 		}
 	}
@@ -37,7 +38,7 @@ func TestValid(t *testing.T) {
 		level, better, time int
 		want                bool
 	}{{1, -1, 0, true}, {2, 5, 5, true}, {2, 6, 5, false}, {1, -2, 5, false}, {3, -1, 5, true}, {3, 0, 5, false}, {0, -1, 5, false}, {4, -1, 5, false}, {1, -1, -1, true}, {1, -1, -2, false}} {
-		same(t, fmt.Sprint(x), Valid(api.Class{Level: x.level, Better: x.better}, x.time), x.want)
+		same(t, fmt.Sprint(x), status.Valid(api.Class{Level: x.level, Better: x.better}, x.time), x.want)
 	}
 }
 
@@ -49,14 +50,14 @@ func TestNext(t *testing.T) {
 		{3, -1, 9, 3, 5, api.Class{Level: 3, Better: -1}}, {3, -1, 9, 1, 5, api.Class{Level: 1, Better: -1}}, {2, 4, 9, 2, 5, api.Class{Level: 2, Better: -1}}, {2, 4, 9, 1, 5, api.Class{Level: 1, Better: -1}}, {1, -1, 9, 2, 5, api.Class{Level: 1, Better: 9}}, {1, 5, 9, 3, 5, api.Class{Level: 1, Better: 5}},
 		{1, 4, 9, 2, 5, api.Class{Level: 2, Better: -1}}, {1, 4, 9, 3, 5, api.Class{Level: 2, Better: 9}}, {2, 4, 9, 3, 5, api.Class{Level: 3, Better: -1}}, {1, -1, 9, 3, 0, api.Class{Level: 2, Better: 9}}, {2, -1, 9, 3, 0, api.Class{Level: 3, Better: -1}}, {1, 0, api.MaxTime, 2, 600, api.Class{Level: 2, Better: -1}},
 	} {
-		got, e := Next(api.Class{Level: x.level, Better: x.better}, x.time, x.judged, x.delay)
+		got, e := status.Next(api.Class{Level: x.level, Better: x.better}, x.time, x.judged, x.delay)
 		same(t, fmt.Sprint(x), []any{got, e}, []any{x.want, api.OK})
 	}
 	for _, x := range []struct {
 		level, better, time, judged, delay int
 		want                               api.Errno
 	}{{0, -1, -1, 1, -1, api.ErrClass}, {2, 6, 5, 1, 0, api.ErrClass}, {2, -1, 5, 0, -1, api.ErrClass}, {2, -1, 5, 4, 0, api.ErrClass}, {2, -1, -1, 2, 0, api.ErrRange}, {2, -1, api.MaxTime + 1, 2, 0, api.ErrRange}, {2, -1, 5, 2, -1, api.ErrRange}, {2, -1, 5, 2, 601, api.ErrRange}} {
-		got, e := Next(api.Class{Level: x.level, Better: x.better}, x.time, x.judged, x.delay)
+		got, e := status.Next(api.Class{Level: x.level, Better: x.better}, x.time, x.judged, x.delay)
 		same(t, fmt.Sprint(x), []any{got, e}, []any{api.Class{}, x.want})
 	}
 }
@@ -68,14 +69,14 @@ func TestRun(t *testing.T) {
 		want   []int
 		e      api.Errno
 	}{{[]int{3, 3, 3, 3, 3}, 2, []int{1, 1, 2, 2, 3}, api.OK}, {[]int{3, 3, 3}, 0, []int{2, 3, 3}, api.OK}, {[]int{3, 3, 1, 2, 2, 3}, 1, []int{1, 2, 1, 1, 2, 2}, api.OK}, {nil, -1, nil, api.OK}, {[]int{3, 0}, 0, nil, api.ErrClass}, {[]int{3}, -1, nil, api.ErrRange}, {make([]int, 401), 0, nil, api.ErrLimit}} {
-		got, e := Run(x.judged, x.delay)
+		got, e := status.Run(x.judged, x.delay)
 		same(t, fmt.Sprint(x), []any{got, e}, []any{append([]int{}, x.want...), x.e})
 	}
 	long := make([]int, 400)
 	for i := range long {
 		long[i] = 2
 	}
-	_, e := Run(long, 5)
+	_, e := status.Run(long, 5)
 	same(t, "400 ticks", e, api.OK)
 }
 
@@ -90,7 +91,7 @@ func TestLevelsAreNeverBetterThanJudged(t *testing.T) {
 			}
 		}
 		delay := r.Intn(5)
-		levels, _ := Run(judged, delay)
+		levels, _ := status.Run(judged, delay)
 		for i, level := range levels {
 			for _, n := range judged[max(0, i-delay) : i+1] {
 				if level > n && level > 1 {
@@ -105,5 +106,5 @@ func TestLevelsAreNeverBetterThanJudged(t *testing.T) {
 }
 
 func TestEnough(t *testing.T) {
-	same(t, "Enough", []bool{Enough(api.Class{Level: 2}, 1), Enough(api.Class{Level: 2}, 2), Enough(api.Class{Level: 2}, 3)}, []bool{true, true, false})
+	same(t, "Enough", []bool{status.Enough(api.Class{Level: 2}, 1), status.Enough(api.Class{Level: 2}, 2), status.Enough(api.Class{Level: 2}, 3)}, []bool{true, true, false})
 }

@@ -1,4 +1,4 @@
-package stream
+package stream_test
 
 import (
 	"fmt"
@@ -8,6 +8,7 @@ import (
 
 	"dynpos/api"
 	"dynpos/sentence"
+	"dynpos/stream"
 )
 
 const one, two = "$A,1*5C\r\n", "$J*4A\r\n"
@@ -29,7 +30,7 @@ func TestFeed(t *testing.T) {
 		{"$A,1", "x$", "$", nil, 1}, {"$A,1", "$J", "$J", nil, 0}, {"$A\nB", "x", "", nil, 1}, {"x$A", "*00", "", nil, 3}, {"$$", "J*4A\r\n", "", nil, 6}, {"$A", "", "$A", nil, 0}, {"$A\n", "", "", nil, 0},
 		{"", long, long, nil, 0}, {"", long + "x", "", nil, 200}, {long, "x", "", nil, 1}, {long, "\n", "", nil, 1}, {long + "x", "yz", "", nil, 2}, {long, "xy" + two, "", []api.Sentence{j}, 2}, {"", "\n\n", "", nil, 2},
 	} {
-		f, l, lost := Feed(api.Framer{Rest: []byte(x.rest)}, []byte(x.bytes))
+		f, l, lost := stream.Feed(api.Framer{Rest: []byte(x.rest)}, []byte(x.bytes))
 		if got, want := show(string(f.Rest), l, lost), show(x.left, x.sentences, x.lost); got != want {
 			t.Errorf("%q and %q: %s, not %s", x.rest, x.bytes, got, want)
 		}
@@ -39,17 +40,17 @@ func TestFeed(t *testing.T) {
 func TestLongestSentence(t *testing.T) {
 	s := api.Sentence{Fields: strings.Split(strings.Repeat("xxxxxxxxxxxxxxxxxxxx,", 9)+"12345", ",")}
 	text, _ := sentence.Format(s)
-	if l, lost := All(text); len(text) != api.MaxSentence || len(l) != 1 || lost != 0 {
+	if l, lost := stream.All(text); len(text) != api.MaxSentence || len(l) != 1 || lost != 0 {
 		t.Errorf("%d bytes: %v, %d lost", len(text), l, lost)
 	}
 }
 
 func TestAllAndIdle(t *testing.T) {
-	if l, lost := All([]byte("x" + one + "$A")); len(l) != 1 || lost != 1 {
+	if l, lost := stream.All([]byte("x" + one + "$A")); len(l) != 1 || lost != 1 {
 		t.Errorf("All: %v, %d", l, lost)
 	}
 	for rest, want := range map[string]bool{"": true, "$": false, "$A": false, "A": true, "$A$": true, "$A\n": true, "$\nA": true, "$" + strings.Repeat("x", 198): false, "$" + strings.Repeat("x", 199): true} {
-		if Idle(api.Framer{Rest: []byte(rest)}) != want {
+		if stream.Idle(api.Framer{Rest: []byte(rest)}) != want {
 			t.Errorf("Idle of %q: %v", rest, !want)
 		}
 	}
@@ -63,12 +64,12 @@ func TestPiecesDoNotMatter(t *testing.T) {
 		for range r.Intn(12) {
 			text += parts[r.Intn(len(parts))]
 		}
-		whole, _ := All([]byte(text))
+		whole, _ := stream.All([]byte(text))
 		f, pieces := api.Framer{}, []api.Sentence(nil)
 		for rest := []byte(text); len(rest) > 0; {
 			n := 1 + r.Intn(len(rest))
 			var l []api.Sentence
-			f, l, _ = Feed(f, rest[:n])
+			f, l, _ = stream.Feed(f, rest[:n])
 			pieces = append(pieces, l...)
 			rest = rest[n:]
 			if len(f.Rest) >= api.MaxSentence {
@@ -83,8 +84,8 @@ func TestPiecesDoNotMatter(t *testing.T) {
 
 func TestArgumentsStay(t *testing.T) {
 	rest := append(make([]byte, 0, 100), "$A,1"...)
-	f, _, _ := Feed(api.Framer{Rest: rest}, []byte("*5"))
-	Feed(api.Framer{Rest: rest}, []byte("xx"))
+	f, _, _ := stream.Feed(api.Framer{Rest: rest}, []byte("*5"))
+	stream.Feed(api.Framer{Rest: rest}, []byte("xx"))
 	if string(f.Rest) != "$A,1*5" || string(rest) != "$A,1" {
 		t.Errorf("%q, %q", f.Rest, rest)
 	}

@@ -1,4 +1,4 @@
-package sync
+package sync_test
 
 import (
 	"fmt"
@@ -9,6 +9,7 @@ import (
 
 	"dynpos/api"
 	"dynpos/board"
+	"dynpos/sync"
 )
 
 func same(t *testing.T, name string, got, want any) {
@@ -44,11 +45,11 @@ func TestAgree(t *testing.T) {
 		want             bool
 	}{{5000, 3580, true}, {5020, 30, true}, {4980, 3530, true}, {5021, 3580, false}, {4979, 3580, false}, {5000, 31, false}, {5000, 3529, false}, {5000, 3630, true}, {5000, -20, true}, {-1, 0, false}, {6001, 0, false}, {math.MinInt, 3580, false}} {
 		o := api.Running{Frequency: y.frequency, Phase: y.phase}
-		same(t, fmt.Sprint(y), []bool{Agree(b, x, o), Agree(b, o, x)}, []bool{y.want, y.want})
+		same(t, fmt.Sprint(y), []bool{sync.Agree(b, x, o), sync.Agree(b, o, x)}, []bool{y.want, y.want})
 	}
 	b.Frequency = 10000
-	same(t, "the least and the greatest frequency", Agree(b, api.Running{Frequency: 0}, api.Running{Frequency: 6000}), true)
-	same(t, "6001 and a wide window", Agree(b, api.Running{Frequency: 6001}, api.Running{Frequency: 6000}), false)
+	same(t, "the least and the greatest frequency", sync.Agree(b, api.Running{Frequency: 0}, api.Running{Frequency: 6000}), true)
+	same(t, "6001 and a wide window", sync.Agree(b, api.Running{Frequency: 6001}, api.Running{Frequency: 6000}), false)
 }
 
 func TestLeader(t *testing.T) {
@@ -59,7 +60,7 @@ func TestLeader(t *testing.T) {
 		want int
 		ok   bool
 	}{{p, 1, 1, true}, {p, 0, 0, false}, {p, 2, 0, false}, {p, -1, 0, false}, {with([3]int{}, 0, 1, 2, 3), 1, 0, true}, {with([3]int{}, 0, 3), 0, 2, true}, {api.Power{}, 0, 0, false}} {
-		got, ok := Leader(two(), x.p, x.bus)
+		got, ok := sync.Leader(two(), x.p, x.bus)
 		same(t, fmt.Sprint(x), []any{got, ok}, []any{x.want, x.ok})
 	}
 }
@@ -82,8 +83,8 @@ func TestMay(t *testing.T) {
 		{with([3]int{10, 100}, 1, 2), 0, api.ErrInterlock}, {with([3]int{50, 100}, 1, 2), 0, api.OK}, {with([3]int{10, 900}, 1), 0, api.OK}, {with([3]int{10, 900}, 2), 0, api.OK}, {with([3]int{10, 900}), 0, api.OK},
 		{with([3]int{0, 900}, 1), 2, api.OK}, {with([3]int{0, 900}, 0, 1), 2, api.ErrInterlock}, {with([3]int{0, 50}, 0, 1), 2, api.OK}, {with([3]int{0, 0, 51}, 2), 3, api.ErrInterlock}, {broken(with([3]int{0, 900}, 0, 1), 1, 1), 2, api.ErrState},
 	} {
-		same(t, fmt.Sprint(i), May(two(), x.p, x.breaker), x.want)
-		q, e := Close(two(), x.p, x.breaker)
+		same(t, fmt.Sprint(i), sync.May(two(), x.p, x.breaker), x.want)
+		q, e := sync.Close(two(), x.p, x.breaker)
 		same(t, fmt.Sprint(i), e, x.want)
 		if e != api.OK {
 			same(t, fmt.Sprint(i), q, api.Power{})
@@ -96,7 +97,7 @@ func TestMay(t *testing.T) {
 func TestTieToADeadBus(t *testing.T) {
 	b := two()
 	b.Breakers[1].A, b.Breakers[2].A = 1, 0
-	same(t, "a generator that is not connected does not matter", May(b, with([3]int{900, 10, 10}, 2), 0), api.OK)
+	same(t, "a generator that is not connected does not matter", sync.May(b, with([3]int{900, 10, 10}, 2), 0), api.OK)
 }
 
 func TestSecondTieInAnIsland(t *testing.T) {
@@ -104,25 +105,25 @@ func TestSecondTieInAnIsland(t *testing.T) {
 	b.Breakers = append(b.Breakers, api.Breaker{Kind: api.BreakerTie, A: 0, B: 1})
 	p := with([3]int{10, 100}, 0, 1, 2)
 	p.Closed = append(p.Closed, false)
-	same(t, "a tie within an island", May(b, p, 6), api.OK)
+	same(t, "a tie within an island", sync.May(b, p, 6), api.OK)
 }
 
 func TestFollowAndClose(t *testing.T) {
 	p := with([3]int{10, 20, 30}, 0, 1, 3)
 	p.Sources[2].Frequency = 5010
-	q, e := Follow(two(), p)
+	q, e := sync.Follow(two(), p)
 	want := with([3]int{10, 20, 10}, 0, 1, 3)
 	same(t, "Follow", []any{q, e}, []any{want, api.OK})
 	same(t, "the argument", p.Sources[2], api.Running{State: 2, Frequency: 5010, Phase: 30})
 	p = with([3]int{10, 40, 40}, 1, 2, 3)
-	q, e = Close(two(), p, 0)
+	q, e = sync.Close(two(), p, 0)
 	same(t, "Close", []any{q, e}, []any{with([3]int{10, 10, 10}, 0, 1, 2, 3), api.OK})
-	q, e = Follow(two(), api.Power{})
+	q, e = sync.Follow(two(), api.Power{})
 	same(t, "no state", []any{q, e}, []any{api.Power{}, api.ErrShape})
 }
 
 func TestOpen(t *testing.T) {
-	q, e := Open(two(), with([3]int{10, 20, 30}, 0, 1), 0)
+	q, e := sync.Open(two(), with([3]int{10, 20, 30}, 0, 1), 0)
 	same(t, "Open", []any{q, e}, []any{with([3]int{10, 20, 30}, 1), api.OK})
 	broken := with([3]int{}, 0)
 	broken.Broken = []api.Part{{Kind: api.PartBreaker, Number: 0}}
@@ -131,7 +132,7 @@ func TestOpen(t *testing.T) {
 		breaker int
 		want    api.Errno
 	}{{with([3]int{}), 0, api.ErrState}, {broken, 0, api.ErrState}, {with([3]int{}), 6, api.ErrUnknown}, {with([3]int{}), -1, api.ErrUnknown}, {api.Power{}, 9, api.ErrShape}} {
-		q, e := Open(two(), x.p, x.breaker)
+		q, e := sync.Open(two(), x.p, x.breaker)
 		same(t, fmt.Sprint(x), []any{q, e}, []any{api.Power{}, x.want})
 	}
 }
@@ -139,14 +140,14 @@ func TestOpen(t *testing.T) {
 func TestMatch(t *testing.T) {
 	p := with([3]int{10, 100, 100}, 1, 2, 3)
 	p.Sources[0].Frequency = 5005
-	q, e := Match(two(), p, 1, 0)
+	q, e := sync.Match(two(), p, 1, 0)
 	want := with([3]int{10, 10, 10}, 1, 2, 3)
 	want.Sources[0].Frequency, want.Sources[1].Frequency, want.Sources[2].Frequency = 5005, 5005, 5005
 	same(t, "connected", []any{q, e}, []any{want, api.OK})
-	same(t, "then the tie", May(two(), q, 0), api.OK)
-	q, e = Match(two(), with([3]int{10, 100, 200}, 1, 3), 1, 0)
+	same(t, "then the tie", sync.May(two(), q, 0), api.OK)
+	q, e = sync.Match(two(), with([3]int{10, 100, 200}, 1, 3), 1, 0)
 	same(t, "not connected", []any{q, e}, []any{with([3]int{10, 10, 200}, 1, 3), api.OK})
-	q, e = Match(two(), with([3]int{10, 100, 200}, 2), 0, 1)
+	q, e = sync.Match(two(), with([3]int{10, 100, 200}, 2), 0, 1)
 	same(t, "the first one", []any{q, e}, []any{with([3]int{100, 100, 200}, 2), api.OK})
 	off := with([3]int{}, 1)
 	off.Sources[1].State = api.SourceOff
@@ -155,7 +156,7 @@ func TestMatch(t *testing.T) {
 		source, bus int
 		want        api.Errno
 	}{{off, 1, 0, api.ErrState}, {off, 2, 1, api.ErrState}, {off, 3, 0, api.ErrUnknown}, {off, -1, 0, api.ErrUnknown}, {off, 1, 2, api.ErrUnknown}, {off, 1, -1, api.ErrUnknown}, {api.Power{}, 9, 9, api.ErrShape}} {
-		q, e := Match(two(), x.p, x.source, x.bus)
+		q, e := sync.Match(two(), x.p, x.source, x.bus)
 		same(t, fmt.Sprint(x), []any{q, e}, []any{api.Power{}, x.want})
 	}
 }
@@ -163,12 +164,12 @@ func TestMatch(t *testing.T) {
 func TestTurn(t *testing.T) {
 	p := with([3]int{10, 10, 10})
 	p.Sources[0].Frequency, p.Sources[1].Frequency, p.Sources[2].Frequency, p.Sources[2].State = 4999, 5100, 5001, api.SourceStarting
-	q, e := Turn(two(), p)
+	q, e := sync.Turn(two(), p)
 	same(t, "phases", []any{q.Sources[0].Phase, q.Sources[1].Phase, q.Sources[2].Phase, e}, []any{3574, 10, 10, api.OK})
 	p.Sources[1].Frequency = 5002
-	q, _ = Turn(two(), p)
+	q, _ = sync.Turn(two(), p)
 	same(t, "72 on", q.Sources[1].Phase, 82)
-	q, e = Turn(two(), api.Power{})
+	q, e = sync.Turn(two(), api.Power{})
 	same(t, "no state", []any{q, e}, []any{api.Power{}, api.ErrShape})
 }
 
@@ -193,7 +194,7 @@ func TestBad(t *testing.T) {
 		{with([3]int{10, 100, 10}, 1, 3), with([3]int{10, 10}, 0, 1, 3), false},   // 1 is not connected
 		{with([3]int{10, 100, 10}, 1, 3), with([3]int{10, 10}, 0, 1, 2, 3), true}, // now it is
 	} {
-		same(t, fmt.Sprint(i), Bad(two(), x.p, x.q), x.want)
+		same(t, fmt.Sprint(i), sync.Bad(two(), x.p, x.q), x.want)
 	}
 }
 
@@ -206,18 +207,18 @@ func TestNothingIsBad(t *testing.T) {
 			var e api.Errno
 			switch n := r.Intn(6); r.Intn(5) {
 			case 0, 1:
-				q, e = Close(two(), p, n)
+				q, e = sync.Close(two(), p, n)
 			case 2:
-				q, e = Open(two(), p, n)
+				q, e = sync.Open(two(), p, n)
 			case 3:
-				q, e = Match(two(), p, n, r.Intn(2))
+				q, e = sync.Match(two(), p, n, r.Intn(2))
 			case 4:
-				q, e = Turn(two(), p)
+				q, e = sync.Turn(two(), p)
 			}
 			if e != api.OK {
 				continue
 			}
-			if again, _ := Follow(two(), q); board.State(two(), q) != api.OK || Bad(two(), p, q) || !slices.Equal(again.Sources, q.Sources) {
+			if again, _ := sync.Follow(two(), q); board.State(two(), q) != api.OK || sync.Bad(two(), p, q) || !slices.Equal(again.Sources, q.Sources) {
 				t.Fatalf("%v became %v", p, q)
 			}
 			p = q

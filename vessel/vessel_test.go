@@ -1,4 +1,4 @@
-package vessel
+package vessel_test
 
 import (
 	"fmt"
@@ -6,6 +6,7 @@ import (
 	"testing"
 
 	"dynpos/api"
+	"dynpos/vessel"
 )
 
 func same(t *testing.T, name string, got, want any) {
@@ -22,24 +23,25 @@ func hull(mass, inertia, drag, spin int) api.Hull {
 
 func TestValid(t *testing.T) {
 	edge := api.Motion{Time: api.MaxTime, X: 10000000000, Y: -10000000000, Course: 359999, Surge: 100000, Sway: -100000, Turn: -10000}
-	same(t, "valid", []bool{Valid(api.Motion{}), Valid(edge)}, []bool{true, true})
+	same(t, "valid", []bool{vessel.Valid(api.Motion{}), vessel.Valid(edge)}, []bool{true, true})
 	for _, m := range []api.Motion{{Time: -1}, {Time: api.MaxTime + 1}, {X: 10000000001}, {X: -10000000001}, {Y: 10000000001}, {Y: math.MinInt}, {Course: -1}, {Course: 360000}, {Surge: 100001}, {Surge: -100001}, {Sway: 100001}, {Sway: -100001}, {Turn: 10001}, {Turn: -10001}} {
-		same(t, fmt.Sprint(m), Valid(m), false)
-		got, e := Step(hull(1, 1, 0, 0), m, api.Force{Surge: math.MaxInt})
+		same(t, fmt.Sprint(m), vessel.Valid(m), false)
+		got, e := vessel.Step(hull(1, 1, 0, 0), m, api.Force{Surge: math.MaxInt})
 		same(t, fmt.Sprint(m), []any{got, e}, []any{api.Motion{}, api.ErrMotion})
 	}
 }
 
 func TestPlaceHeadingStill(t *testing.T) {
-	for n, want := range map[int]int{0: 0, 149: 1, 150: 2, -150: -1, -151: -2, 49: 0, 50: 1, -50: 0, -51: -1, math.MaxInt: math.MaxInt / 100, math.MinInt: math.MinInt / 100} {
-		same(t, fmt.Sprint(n), Place(api.Motion{X: n, Y: -7}), api.Point{X: want})
-		same(t, fmt.Sprint(n), Place(api.Motion{Y: n}), api.Point{Y: want})
+	for n, want := range map[int]int{0: 0, 149: 1, 150: 2, -150: -1, -151: -2, 49: 0, 50: 1, -50: 0, -51: -1, 10000000000: 100000000, -10000000000: -100000000, 1 << 60: 11529215046068470, -1 << 60: -11529215046068470} {
+		same(t, fmt.Sprint(n), vessel.Place(api.Motion{X: n, Y: -7}), api.Point{X: want})
+		same(t, fmt.Sprint(n), vessel.Place(api.Motion{Y: n}), api.Point{Y: want})
 	}
 	for course, want := range map[int]int{0: 0, 99: 0, 100: 1, 359999: 3599, 360000: 0, -1: 3599, -100: 3599, -101: 3598, 720150: 1} {
-		same(t, fmt.Sprint(course), Heading(api.Motion{Course: course}), want)
+		same(t, fmt.Sprint(course), vessel.Heading(api.Motion{Course: course}), want)
 	}
-	Heading(api.Motion{Course: math.MinInt})
-	same(t, "Still", []bool{Still(api.Motion{X: 5, Course: 7, Time: 9}), Still(api.Motion{Surge: 1}), Still(api.Motion{Sway: -1}), Still(api.Motion{Turn: 1})}, []bool{true, false, false, false})
+	vessel.Place(api.Motion{X: math.MinInt, Y: math.MaxInt})
+	vessel.Heading(api.Motion{Course: math.MinInt})
+	same(t, "Still", []bool{vessel.Still(api.Motion{X: 5, Course: 7, Time: 9}), vessel.Still(api.Motion{Surge: 1}), vessel.Still(api.Motion{Sway: -1}), vessel.Still(api.Motion{Turn: 1})}, []bool{true, false, false, false})
 }
 
 func TestStep(t *testing.T) {
@@ -64,7 +66,7 @@ func TestStep(t *testing.T) {
 		{"a great inertia, back", hull(1, 1<<30, 0, 0), api.Motion{}, api.Force{Yaw: -53688}, api.Motion{Time: 1, Turn: -1, Course: 359999}},
 		{"to the north-east", hull(1, 1, 0, 0), api.Motion{Course: 45099, Surge: 1000, Sway: 10}, api.Force{}, api.Motion{Time: 1, X: 699, Y: 713, Course: 45099, Surge: 1000, Sway: 10}},
 	} {
-		got, e := Step(x.h, x.m, x.f)
+		got, e := vessel.Step(x.h, x.m, x.f)
 		same(t, x.name, []any{got, e}, []any{x.want, api.OK})
 	}
 }
@@ -80,9 +82,9 @@ func TestStepErrors(t *testing.T) {
 		{api.Hull{}, api.Motion{Time: -1}, api.Force{}, api.ErrHull}, {h, api.Motion{}, api.Force{Surge: 1000001}, api.ErrRange}, {h, api.Motion{}, api.Force{Sway: -1000001}, api.ErrRange}, {h, api.Motion{}, api.Force{Yaw: math.MinInt}, api.ErrRange},
 		{h, api.Motion{Time: api.MaxTime}, api.Force{}, api.ErrLimit}, {h, api.Motion{X: 10000000000, Surge: 1}, api.Force{}, api.ErrLimit}, {h, api.Motion{}, api.Force{Surge: 10001}, api.ErrLimit}, {h, api.Motion{}, api.Force{Surge: 10000}, api.OK}, {h, api.Motion{}, api.Force{Yaw: 1001}, api.ErrLimit}, {h, api.Motion{Sway: -100000}, api.Force{Sway: -1}, api.ErrLimit},
 	} {
-		got, e := Step(x.h, x.m, x.f)
+		got, e := vessel.Step(x.h, x.m, x.f)
 		same(t, fmt.Sprint(x.m, x.f), e, x.want)
-		again, f := Run(x.h, x.m, x.f, 1)
+		again, f := vessel.Run(x.h, x.m, x.f, 1)
 		same(t, fmt.Sprint(x.m, x.f), []any{again, f}, []any{got, e})
 		if e != api.OK {
 			same(t, fmt.Sprint(x.m, x.f), got, api.Motion{})
@@ -92,11 +94,11 @@ func TestStepErrors(t *testing.T) {
 
 func TestRun(t *testing.T) {
 	h, m, f := hull(1000, 3000, 7, 11), api.Motion{X: 5, Course: 12345, Surge: 33, Turn: -40}, api.Force{Surge: 9, Sway: -4, Yaw: 3}
-	whole, e := Run(h, m, f, 100)
+	whole, e := vessel.Run(h, m, f, 100)
 	same(t, "error", e, api.OK)
 	for _, a := range []int{0, 1, 37, 100} {
-		part, _ := Run(h, m, f, a)
-		got, e := Run(h, part, f, 100-a)
+		part, _ := vessel.Run(h, m, f, a)
+		got, e := vessel.Run(h, part, f, 100-a)
 		same(t, fmt.Sprint(a), []any{got, e}, []any{whole, api.OK})
 	}
 	for _, x := range []struct {
@@ -106,7 +108,7 @@ func TestRun(t *testing.T) {
 		ticks int
 		want  api.Errno
 	}{{api.Hull{}, m, f, -1, api.ErrLimit}, {h, m, f, 401, api.ErrLimit}, {h, m, api.Force{}, 400, api.OK}, {api.Hull{}, m, f, 0, api.ErrHull}, {h, api.Motion{Time: -1}, f, 0, api.ErrMotion}, {h, m, api.Force{Yaw: 1000001}, 0, api.ErrRange}, {h, m, api.Force{Surge: 9000}, 50, api.ErrLimit}, {h, api.Motion{Time: api.MaxTime - 2}, f, 3, api.ErrLimit}} {
-		got, e := Run(x.h, x.m, x.f, x.ticks)
+		got, e := vessel.Run(x.h, x.m, x.f, x.ticks)
 		same(t, fmt.Sprint(x.ticks), e, x.want)
 		if e != api.OK {
 			same(t, fmt.Sprint(x.ticks), got, api.Motion{})
@@ -116,7 +118,7 @@ func TestRun(t *testing.T) {
 
 func TestForthAndBack(t *testing.T) {
 	h, m := hull(1000, 1000, 0, 0), api.Motion{Course: 7777, Surge: 5, Sway: 9}
-	forth, _ := Step(h, m, api.Force{Surge: 30, Sway: -20})
-	back, _ := Step(h, forth, api.Force{Surge: -30, Sway: 20})
+	forth, _ := vessel.Step(h, m, api.Force{Surge: 30, Sway: -20})
+	back, _ := vessel.Step(h, forth, api.Force{Surge: -30, Sway: 20})
 	same(t, "speeds", []int{back.Surge, back.Sway, back.Turn}, []int{5, 9, 0})
 }

@@ -1,4 +1,4 @@
-package vote
+package vote_test
 
 import (
 	"fmt"
@@ -8,6 +8,7 @@ import (
 	"testing"
 
 	"dynpos/api"
+	"dynpos/vote"
 )
 
 // line returns fixes on a line with the same error.
@@ -28,11 +29,11 @@ func TestAgree(t *testing.T) {
 		{a, true}, {api.Fix{X: 115, Y: -50, Error: 5}, true}, {api.Fix{X: 116, Y: -50, Error: 5}, false}, {api.Fix{X: 100, Y: -66, Error: 5}, false}, {api.Fix{X: 115, Y: -35, Error: 5}, true}, {api.Fix{X: 110, Y: -50}, true},
 		{api.Fix{X: 100, Y: -50, Error: -1}, false}, {api.Fix{X: 100, Y: -50, Error: api.MaxError}, true}, {api.Fix{X: 100, Y: -50, Error: api.MaxError + 1}, false}, {api.Fix{X: math.MinInt, Error: 5}, false}, {api.Fix{Y: api.MaxPosition + 1, Error: 5}, false}, {api.Fix{Error: math.MaxInt}, false},
 	} {
-		if Agree(a, x.b) != x.want || Agree(x.b, a) != x.want {
+		if vote.Agree(a, x.b) != x.want || vote.Agree(x.b, a) != x.want {
 			t.Errorf("%v and %v: %v", a, x.b, !x.want)
 		}
 	}
-	if Agree(api.Fix{X: api.MaxPosition + 1}, api.Fix{X: api.MaxPosition + 1}) {
+	if vote.Agree(api.Fix{X: api.MaxPosition + 1}, api.Fix{X: api.MaxPosition + 1}) {
 		t.Error("a place that is not valid agrees with itself")
 	}
 }
@@ -43,7 +44,7 @@ func TestClique(t *testing.T) {
 		members []int
 		want    bool
 	}{{nil, true}, {[]int{0}, true}, {[]int{0, 1}, true}, {[]int{1, 2}, true}, {[]int{0, 2}, false}, {[]int{0, 1, 2}, false}, {[]int{1, 0}, false}, {[]int{1, 1}, false}, {[]int{3}, true}, {[]int{4}, false}, {[]int{5}, false}, {[]int{-1}, false}} {
-		if Clique(l, x.members) != x.want {
+		if vote.Clique(l, x.members) != x.want {
 			t.Errorf("%v: %v", x.members, !x.want)
 		}
 	}
@@ -51,7 +52,7 @@ func TestClique(t *testing.T) {
 
 func TestCauses(t *testing.T) {
 	for _, x := range []struct{ members, want []int }{{nil, nil}, {[]int{0, 1, 2}, []int{3, 5}}, {[]int{2, 9, -1, 1}, []int{3, 5}}, {[]int{4, 0}, []int{5}}, {[]int{1, 1}, []int{3}}, {[]int{3}, []int{-7}}} {
-		if got := Causes([]int{5, 3, 5, -7}, x.members); !slices.Equal(got, x.want) {
+		if got := vote.Causes([]int{5, 3, 5, -7}, x.members); !slices.Equal(got, x.want) {
 			t.Errorf("%v: %v", x.members, got)
 		}
 	}
@@ -74,11 +75,11 @@ func TestDecide(t *testing.T) {
 		{[]int{1, 2, 1, 2}, line(5, 0, 0, 50, 50), api.Vote{Members: []int{0, 1}, Causes: []int{1, 2}}},
 		{[]int{1, 2, 1, 3}, line(5, 0, 0, 50, 50), api.Vote{Tie: true}},
 	} {
-		got, e := Decide(x.causes, x.l)
+		got, e := vote.Decide(x.causes, x.l)
 		if fmt.Sprint(got) != fmt.Sprint(x.want) || e != api.OK {
 			t.Errorf("%v, %v: %v, error %d, not %v", x.causes, x.l, got, e, x.want)
 		}
-		if !Check(x.causes, x.l, x.want) {
+		if !vote.Check(x.causes, x.l, x.want) {
 			t.Errorf("%v, %v: Check does not hold", x.causes, x.l)
 		}
 	}
@@ -93,8 +94,8 @@ func TestDecideErrors(t *testing.T) {
 	}{
 		{[]int{0}, nil, api.ErrShape}, {nine, line(1, 0), api.ErrShape}, {nine, make([]api.Fix, 9), api.ErrLimit}, {[]int{-1}, line(1, 0), api.ErrRange}, {[]int{8}, line(1, 0), api.ErrRange}, {[]int{0}, line(-1, 0), api.ErrRange}, {[]int{0}, line(1, api.MaxPosition+1), api.ErrRange},
 	} {
-		got, e := Decide(x.causes, x.l)
-		if e != x.want || got.Tie || got.Members != nil || got.Causes != nil || Check(x.causes, x.l, got) {
+		got, e := vote.Decide(x.causes, x.l)
+		if e != x.want || got.Tie || got.Members != nil || got.Causes != nil || vote.Check(x.causes, x.l, got) {
 			t.Errorf("%v, %v: %v, error %d", x.causes, x.l, got, e)
 		}
 	}
@@ -103,10 +104,21 @@ func TestDecideErrors(t *testing.T) {
 func TestCheckOfWrongVotes(t *testing.T) {
 	causes, l := []int{0, 1, 2}, line(5, 0, 10, 1000)
 	for _, v := range []api.Vote{{}, {Tie: true}, {Members: []int{0, 1}}, {Members: []int{0, 1}, Causes: []int{0, 1}, Tie: true}, {Members: []int{0}, Causes: []int{0}}, {Members: []int{1, 0}, Causes: []int{0, 1}}} {
-		if Check(causes, l, v) {
+		if vote.Check(causes, l, v) {
 			t.Errorf("%v", v)
 		}
 	}
+}
+
+// elements returns the indices whose bits a number has.
+func elements(bits int) []int {
+	var l []int
+	for i := range api.MaxReferences {
+		if bits>>i&1 == 1 {
+			l = append(l, i)
+		}
+	}
+	return l
 }
 
 // slow is Decide by its definition: all sets, the greatest ones, and the best one of those.
@@ -114,14 +126,14 @@ func slow(causes []int, l []api.Fix) api.Vote {
 	var sets [][]int
 	most := 0
 	for bits := range 1 << len(l) {
-		if set := elements(bits); Clique(l, set) {
+		if set := elements(bits); vote.Clique(l, set) {
 			sets = append(sets, set)
-			most = max(most, len(Causes(causes, set)))
+			most = max(most, len(vote.Causes(causes, set)))
 		}
 	}
-	sets = slices.DeleteFunc(sets, func(s []int) bool { return len(Causes(causes, s)) < most })
+	sets = slices.DeleteFunc(sets, func(s []int) bool { return len(vote.Causes(causes, s)) < most })
 	for _, s := range sets {
-		if !slices.Equal(Causes(causes, s), Causes(causes, sets[0])) {
+		if !slices.Equal(vote.Causes(causes, s), vote.Causes(causes, sets[0])) {
 			return api.Vote{Tie: true}
 		}
 	}
@@ -131,7 +143,7 @@ func slow(causes []int, l []api.Fix) api.Vote {
 		}
 		return slices.Compare(a, b)
 	})
-	return api.Vote{Members: sets[0], Causes: Causes(causes, sets[0])}
+	return api.Vote{Members: sets[0], Causes: vote.Causes(causes, sets[0])}
 }
 
 func TestDecideByItsDefinition(t *testing.T) {
@@ -142,7 +154,7 @@ func TestDecideByItsDefinition(t *testing.T) {
 		for i := range l {
 			causes[i], l[i] = r.Intn(1+r.Intn(api.MaxCauses)), api.Fix{X: r.Intn(40), Y: r.Intn(20), Error: 1 + r.Intn(6)}
 		}
-		got, e := Decide(causes, l)
+		got, e := vote.Decide(causes, l)
 		if want := slow(causes, l); fmt.Sprint(got) != fmt.Sprint(want) || e != api.OK {
 			t.Fatalf("%v, %v: %v, not %v", causes, l, got, want)
 		}

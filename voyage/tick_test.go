@@ -1,4 +1,4 @@
-package voyage
+package voyage_test
 
 import (
 	"fmt"
@@ -13,6 +13,7 @@ import (
 	"dynpos/disconnect"
 	"dynpos/example"
 	"dynpos/logbook"
+	"dynpos/voyage"
 	"dynpos/weather"
 )
 
@@ -28,9 +29,9 @@ func calm(s api.State) api.Input {
 // step makes a tick, whose state must be valid.
 func step(t *testing.T, v api.Vessel, s api.State, in api.Input) api.State {
 	t.Helper()
-	next, e := Tick(v, s, in)
-	if e != api.OK || !Valid(v, next) || next.Plant.Time != s.Plant.Time+1 {
-		t.Fatalf("at %d: error %d, valid %v", s.Plant.Time, e, Valid(v, next))
+	next, e := voyage.Tick(v, s, in)
+	if e != api.OK || !voyage.Valid(v, next) || next.Plant.Time != s.Plant.Time+1 {
+		t.Fatalf("at %d: error %d, valid %v", s.Plant.Time, e, voyage.Valid(v, next))
 	}
 	return next
 }
@@ -60,7 +61,7 @@ func entry(time, kind int, words ...int) api.Entry {
 func TestWithoutReferences(t *testing.T) {
 	v := example.Vessel()
 	v.References, v.Design.Parts = nil, slices.DeleteFunc(v.Design.Parts, func(p api.Part) bool { return p.Kind == api.PartReference })
-	s, _ := New(v)
+	s, _ := voyage.New(v)
 	same(t, "New", []any{s.Class.Level, s.Estimate.State}, []any{api.LevelRed, api.EstimateNone})
 	s = step(t, v, s, api.Input{})
 	var numbers []int
@@ -82,7 +83,7 @@ func TestBecomingGreen(t *testing.T) {
 	same(t, "entries", s.Book.Entries[3:], []api.Entry{entry(3, 2, 1), entry(3, 7, 1, 1), entry(5, 1, 2), entry(5, 7, 1, 3), entry(5, 7, 2, 1), entry(7, 1, 3), entry(7, 7, 2, 3)})
 	same(t, "estimate", s.Estimate, api.Estimate{Point: api.Point{X: 1000, Y: -500}, Bound: 100, Time: 7, State: api.EstimateGood})
 	load, _ := weather.Total(v.Hull, calm(s).Weather, 300)
-	demand, keeper := Demand(v, s, load, 300)
+	demand, keeper := voyage.Demand(v, s, load, 300)
 	a, _ := allocate.Divide(v.Ship, []int{200, 200, 200, 200}, s.Thrusts, demand)
 	next := step(t, v, s, calm(s))
 	same(t, "thrusts and keeper", []any{next.Thrusts, next.Keeper}, []any{a.Thrusts, keeper})
@@ -114,7 +115,7 @@ func TestMissing(t *testing.T) {
 	in.Weather.Wind.Speed = 4000
 	next := step(t, v, s, in)
 	load, _ := weather.Total(v.Hull, in.Weather, 300)
-	demand, _ := Demand(v, s, load, 300)
+	demand, _ := voyage.Demand(v, s, load, 300)
 	_, able, _ := consequence.After(v, s.Plant, nil, nil)
 	a, _ := allocate.Divide(v.Ship, able, s.Thrusts, demand)
 	l := added(s, next)
@@ -226,9 +227,9 @@ func TestTickErrors(t *testing.T) {
 		s, in := s, calm(s)
 		s.Tracks = slices.Clone(s.Tracks)
 		x.change(&s, &in)
-		next, e := Tick(v, s, in)
+		next, e := voyage.Tick(v, s, in)
 		same(t, fmt.Sprint(i), e, x.want)
-		again, f := Run(v, s, []api.Input{in})
+		again, f := voyage.Run(v, s, []api.Input{in})
 		same(t, fmt.Sprint(i), []any{again, f}, []any{next, e})
 		if e != api.OK {
 			same(t, fmt.Sprint(i), next, api.State{})
@@ -245,7 +246,7 @@ func TestFullBook(t *testing.T) {
 	same(t, "nothing to say", len(added(s, step(t, v, s, calm(s)))), 0)
 	in := calm(s)
 	in.Seen = []int{1}
-	next, e := Tick(v, s, in)
+	next, e := voyage.Tick(v, s, in)
 	same(t, "something to say", []any{next, e}, []any{api.State{}, api.ErrLimit})
 }
 
@@ -253,7 +254,7 @@ func TestEndOfTime(t *testing.T) {
 	v := example.Vessel()
 	s := lit(t, v)
 	s.Plant.Time, s.Estimate.Time = api.MaxTime, api.MaxTime
-	_, e := Tick(v, s, api.Input{})
+	_, e := voyage.Tick(v, s, api.Input{})
 	same(t, "the end of time", e, api.ErrTime)
 }
 
@@ -268,17 +269,17 @@ func TestRun(t *testing.T) {
 		l = append(l, in)
 		whole = step(t, v, whole, in)
 	}
-	got, e := Run(v, s, l)
+	got, e := voyage.Run(v, s, l)
 	same(t, "Run", []any{got, e}, []any{whole, api.OK})
-	got, e = Run(v, s, make([]api.Input, 61))
+	got, e = voyage.Run(v, s, make([]api.Input, 61))
 	same(t, "too many", []any{got, e}, []any{api.State{}, api.ErrLimit})
 	quiet := api.Input{Heading: 300}
-	_, e = Run(v, s, slices.Repeat([]api.Input{quiet}, 60))
+	_, e = voyage.Run(v, s, slices.Repeat([]api.Input{quiet}, 60))
 	same(t, "60", e, api.OK)
-	got, e = Run(v, s, nil)
+	got, e = voyage.Run(v, s, nil)
 	same(t, "none", []any{got, e}, []any{s, api.OK})
 	l[3].Heading = -1
-	got, e = Run(v, s, l)
+	got, e = voyage.Run(v, s, l)
 	same(t, "the first error", []any{got, e}, []any{api.State{}, api.ErrRange})
 }
 
@@ -297,12 +298,12 @@ func TestManyTicks(t *testing.T) {
 				in.Acts = append(in.Acts, api.Act{Kind: 1 + r.Intn(6), Unit: r.Intn(9), Value: r.Intn(2)})
 			}
 			in.Sights = in.Sights[:r.Intn(4)]
-			next, e := Tick(v, s, in)
+			next, e := voyage.Tick(v, s, in)
 			if e == api.ErrLimit {
 				break
 			}
 			load, _ := weather.Total(v.Hull, in.Weather, in.Heading)
-			if e != api.OK || !Valid(v, next) || next.Class.Level > Judged(v, next, load) {
+			if e != api.OK || !voyage.Valid(v, next) || next.Class.Level > voyage.Judged(v, next, load) {
 				t.Fatalf("%v, %v: error %d", s, in, e)
 			}
 			_, able, _ := consequence.After(v, next.Plant, next.Broken, nil)

@@ -1,8 +1,7 @@
-package voyage
+package voyage_test
 
 import (
 	"fmt"
-	"math"
 	"testing"
 
 	"dynpos/allocate"
@@ -12,6 +11,7 @@ import (
 	"dynpos/logbook"
 	"dynpos/plant"
 	"dynpos/restore"
+	"dynpos/voyage"
 )
 
 func same(t *testing.T, name string, got, want any) {
@@ -26,7 +26,7 @@ func part(kind, number int) api.Part { return api.Part{Kind: kind, Number: numbe
 // lit returns the state of the example ship with both generators connected.
 func lit(t *testing.T, v api.Vessel) api.State {
 	t.Helper()
-	s, e := New(v)
+	s, e := voyage.New(v)
 	if e != api.OK {
 		t.Fatalf("New: error %d", e)
 	}
@@ -41,13 +41,13 @@ func lit(t *testing.T, v api.Vessel) api.State {
 
 func TestCheck(t *testing.T) {
 	v := example.Vessel()
-	same(t, "the example", Check(v), api.OK)
+	same(t, "the example", voyage.Check(v), api.OK)
 	edge := example.Vessel()
 	edge.Target.Heading, edge.Delay, edge.Target.Place = 3599, 600, api.Point{X: 100000000, Y: -100000000}
 	edge.Design.Parts = append(edge.Design.Parts, part(9, 63))
-	same(t, "edges", Check(edge), api.OK)
+	same(t, "edges", voyage.Check(edge), api.OK)
 	edge.Delay = 0
-	same(t, "no delay", Check(edge), api.OK)
+	same(t, "no delay", voyage.Check(edge), api.OK)
 	// Each change makes an error that comes before those of the changes before it.
 	for i, x := range []struct {
 		change func(v *api.Vessel)
@@ -57,9 +57,9 @@ func TestCheck(t *testing.T) {
 		{func(v *api.Vessel) { v.Board.Phase = -1 }, api.ErrPlant}, {func(v *api.Vessel) { v.Ship.Bow = 201 }, api.ErrRange}, {func(v *api.Vessel) { v.Hull.Mass = 0 }, api.ErrHull},
 	} {
 		x.change(&v)
-		s, e := New(v)
-		same(t, fmt.Sprint(i), []any{Check(v), s, e, Valid(v, s)}, []any{x.want, api.State{}, x.want, false})
-		s, e = Tick(v, api.State{}, api.Input{Heading: -1})
+		s, e := voyage.New(v)
+		same(t, fmt.Sprint(i), []any{voyage.Check(v), s, e, voyage.Valid(v, s)}, []any{x.want, api.State{}, x.want, false})
+		s, e = voyage.Tick(v, api.State{}, api.Input{Heading: -1})
 		same(t, fmt.Sprint(i), []any{s, e}, []any{api.State{}, x.want})
 	}
 }
@@ -72,21 +72,21 @@ func TestCheckOfTheVessel(t *testing.T) {
 		v := example.Vessel()
 		v.Design.Links, v.Design.Groups = nil, nil
 		change(&v)
-		same(t, fmt.Sprint(i), Check(v), api.ErrVessel)
+		same(t, fmt.Sprint(i), voyage.Check(v), api.ErrVessel)
 	}
 	v := example.Vessel()
 	v.Design = api.Design{Parts: []api.Part{part(1, 1), part(2, 8), part(3, 1), part(4, 4), part(5, 3), part(6, 2), part(7, 63), part(8, 63), part(9, 63)}}
-	same(t, "the last ones", Check(v), api.OK)
+	same(t, "the last ones", voyage.Check(v), api.OK)
 }
 
 func TestNew(t *testing.T) {
 	v := example.Vessel()
-	s, e := New(v)
+	s, e := voyage.New(v)
 	p, _ := plant.New(v.Board, v.Table)
 	entries := []api.Entry{{Kind: api.EntryStatus, Words: []int{1}}, {Kind: api.EntryEstimate, Words: []int{0}}, {Kind: api.EntryOperation, Words: []int{0}}}
 	want := api.State{Plant: p, Tracks: make([]api.Track, 3), Thrusts: make([]api.Thrust, 4), Class: api.Class{Level: 1, Better: -1}, Book: api.Book{Entries: entries, Sum: s.Book.Sum}}
 	same(t, "New", []any{s, e}, []any{want, api.OK})
-	same(t, "valid", []any{Valid(v, s), logbook.Check(s.Book)}, []any{true, api.OK})
+	same(t, "valid", []any{voyage.Valid(v, s), logbook.Check(s.Book)}, []any{true, api.OK})
 }
 
 func TestValid(t *testing.T) {
@@ -105,24 +105,24 @@ func TestValid(t *testing.T) {
 	} {
 		s := lit(t, v)
 		change(&s)
-		same(t, fmt.Sprint(i), Valid(v, s), false)
-		_, e := Tick(v, s, api.Input{Heading: -1})
+		same(t, fmt.Sprint(i), voyage.Valid(v, s), false)
+		_, e := voyage.Tick(v, s, api.Input{Heading: -1})
 		same(t, fmt.Sprint(i), e, api.ErrVessel)
 	}
 	s := lit(t, v)
 	s.Broken, s.Thrusts[0], s.Alarms = []api.Part{part(5, 0), part(9, 63)}, api.Thrust{X: 5000, Y: -5000}, []api.Alarm{{Number: 1, Urgency: 1, State: 1, Since: s.Plant.Time}}
 	s.Estimate.Bound, s.Keeper.SumX, s.Class.Better = 200000000, -10000, s.Plant.Time
-	same(t, "edges", Valid(v, s), true)
+	same(t, "edges", voyage.Valid(v, s), true)
 	s.Operation, s.Progress = api.OperationLeft, api.Progress{Time: s.Plant.Time, Works: []api.Work{{State: 2, Since: 0, Tries: 1}, {State: 2, Since: 0, Tries: 1}, {State: 1, Since: s.Plant.Time, Tries: 1}}}
 	s.Book, _ = logbook.Append(s.Book, api.Entry{Time: 2, Kind: api.EntryOperation, Words: []int{5}})
-	same(t, "with a progress", Valid(v, s), true)
+	same(t, "with a progress", voyage.Valid(v, s), true)
 	s.Plant.Time, s.Estimate.Time = 9, 9
 	s.Progress = api.Progress{Time: 9, Works: []api.Work{{State: 2, Tries: 1}, {State: 2, Tries: 1}, {State: 2, Tries: 1}}}
-	same(t, "done", Valid(v, s), true)
+	same(t, "done", voyage.Valid(v, s), true)
 	s.Progress.Time = 8
-	same(t, "with an old progress", Valid(v, s), false)
+	same(t, "with an old progress", voyage.Valid(v, s), false)
 	s.Progress.Time, s.Progress.Works[0].Tries = 9, 0
-	same(t, "with a wrong progress", Valid(v, s), false)
+	same(t, "with a wrong progress", voyage.Valid(v, s), false)
 }
 
 func TestActs(t *testing.T) {
@@ -153,7 +153,7 @@ func TestActs(t *testing.T) {
 	} {
 		s := lit(t, v)
 		s.Plant.Power.Broken, s.Broken = x.plant, x.broken
-		acts, parts := Acts(v, s, x.faults)
+		acts, parts := voyage.Acts(v, s, x.faults)
 		same(t, fmt.Sprint(i), []any{acts, parts}, []any{append([]api.Act{}, x.acts...), append([]api.Part{}, x.parts...)})
 	}
 }
@@ -162,26 +162,26 @@ func TestDemand(t *testing.T) {
 	v := example.Vessel()
 	s := lit(t, v)
 	load := api.Force{Surge: 30, Sway: -20, Yaw: 160}
-	d, k := Demand(v, s, load, 300)
+	d, k := voyage.Demand(v, s, load, 300)
 	want, _ := allocate.Stations(v.Ship, api.Force{Surge: -30, Sway: 20, Yaw: -160})
 	same(t, "nothing is known", []any{d, k}, []any{want, s.Keeper})
 	s.Estimate.State, s.Estimate.Point = api.EstimateLost, api.Point{X: 0, Y: 0}
 	f, after, _ := control.Demand(v.Gains, s.Keeper, s.Estimate.Point, 100, v.Target)
 	want, _ = allocate.Stations(v.Ship, api.Force{Surge: f.Surge - 30, Sway: f.Sway + 20, Yaw: f.Yaw - 160})
-	d, k = Demand(v, s, load, 100)
+	d, k = voyage.Demand(v, s, load, 100)
 	same(t, "lost", []any{d, k, f != api.Force{}}, []any{want, after, true})
-	d, k = Demand(v, s, load, 3600)
+	d, k = voyage.Demand(v, s, load, 3600)
 	want, _ = allocate.Stations(v.Ship, api.Force{Surge: -30, Sway: 20, Yaw: -160})
 	same(t, "an error of control", []any{d, k}, []any{want, s.Keeper})
 	s.Estimate.State = api.EstimateNone
-	d, _ = Demand(v, s, api.Force{Surge: -9000, Sway: 9000}, 0)
+	d, _ = voyage.Demand(v, s, api.Force{Surge: -9000, Sway: 9000}, 0)
 	same(t, "cut", d, api.Demand{Surge: 5000, Bow: -2500, Stern: -2500})
-	d, _ = Demand(v, s, api.Force{Surge: math.MinInt, Sway: math.MaxInt}, 0)
-	same(t, "wild", d, api.Demand{Surge: 5000, Bow: -2500, Stern: -2500})
-	d, _ = Demand(v, s, api.Force{Yaw: 600000}, 0)
+	d, _ = voyage.Demand(v, s, api.Force{Surge: -1000000, Sway: 1000000}, 0)
+	same(t, "the greatest loads", d, api.Demand{Surge: 5000, Bow: -2500, Stern: -2500})
+	d, _ = voyage.Demand(v, s, api.Force{Yaw: 600000}, 0)
 	same(t, "yaw is cut", d, api.Demand{Bow: -6250, Stern: 6250})
 	v.Ship.Bow = 201
-	d, _ = Demand(v, s, load, 0)
+	d, _ = voyage.Demand(v, s, load, 0)
 	same(t, "an error of allocate", d, api.Demand{})
 }
 
@@ -206,20 +206,20 @@ func TestJudged(t *testing.T) {
 	}{
 		{placed(t, v, 0, 1), api.Force{Surge: 50}, api.LevelGreen}, {placed(t, v, 1, 2), api.Force{Surge: 50}, api.LevelYellow}, {placed(t, v), api.Force{Surge: 50}, api.LevelYellow}, {lit(t, v), api.Force{Surge: 50}, api.LevelRed}, {placed(t, v, 0, 1), api.Force{Surge: 600}, api.LevelYellow}, {placed(t, v, 0, 1), api.Force{Surge: 900}, api.LevelRed},
 	} {
-		same(t, fmt.Sprint(i), Judged(v, x.s, x.load), x.want)
+		same(t, fmt.Sprint(i), voyage.Judged(v, x.s, x.load), x.want)
 	}
 	broken := placed(t, v, 0, 1)
 	broken.Broken = []api.Part{part(5, 0)}
-	same(t, "a broken thruster", Judged(v, broken, api.Force{Surge: 50, Sway: 190}), api.LevelYellow)
+	same(t, "a broken thruster", voyage.Judged(v, broken, api.Force{Surge: 50, Sway: 190}), api.LevelYellow)
 	v.Operation.Drift = 1001
-	same(t, "no vote", Judged(v, placed(t, example.Vessel(), 0, 1), api.Force{}), api.LevelYellow)
+	same(t, "no vote", voyage.Judged(v, placed(t, example.Vessel(), 0, 1), api.Force{}), api.LevelYellow)
 }
 
 func TestCauses(t *testing.T) {
 	v := example.Vessel()
 	good := placed(t, v, 0, 1)
 	good.Class.Level = api.LevelGreen
-	dark, _ := New(v)
+	dark, _ := voyage.New(v)
 	one := func(number, urgency int) api.Alarm { return api.Alarm{Number: number, Urgency: urgency} }
 	yellow := good
 	yellow.Class.Level = api.LevelYellow
@@ -235,14 +235,14 @@ func TestCauses(t *testing.T) {
 	}{
 		{good, api.ZoneInside, api.Demand{}, nil}, {dark, api.ZoneRed, api.Demand{Stern: -1}, []api.Alarm{one(1, 1), one(3, 1), one(4, 1), one(6, 1), one(7, 2)}}, {yellow, api.ZoneYellow, api.Demand{}, []api.Alarm{one(2, 2), one(5, 3)}}, {broken, api.ZoneInside, api.Demand{Surge: 5}, []api.Alarm{one(7, 2), one(8, 4)}}, {failed, api.ZoneInside, api.Demand{}, []api.Alarm{one(8, 4)}},
 	} {
-		same(t, fmt.Sprint(i), Causes(v, x.s, x.zone, x.missing), append([]api.Alarm{}, x.want...))
+		same(t, fmt.Sprint(i), voyage.Causes(v, x.s, x.zone, x.missing), append([]api.Alarm{}, x.want...))
 	}
 }
 
 func TestCausesOfAWildState(t *testing.T) {
-	same(t, "nothing", len(Causes(api.Vessel{}, api.State{}, 0, api.Demand{})), 1)
-	same(t, "nothing holds", Judged(api.Vessel{}, api.State{}, api.Force{}), api.LevelRed)
-	acts, parts := Acts(api.Vessel{}, api.State{Broken: []api.Part{part(-5, 9), part(9, 0)}}, nil)
+	same(t, "nothing", len(voyage.Causes(api.Vessel{}, api.State{}, 0, api.Demand{})), 1)
+	same(t, "nothing holds", voyage.Judged(api.Vessel{}, api.State{}, api.Force{}), api.LevelRed)
+	acts, parts := voyage.Acts(api.Vessel{}, api.State{Broken: []api.Part{part(-5, 9), part(9, 0)}}, nil)
 	same(t, "Acts", []any{acts, parts}, []any{[]int{}, []api.Part{part(9, 0)}})
-	same(t, "no vessel", Check(api.Vessel{}), api.ErrHull)
+	same(t, "no vessel", voyage.Check(api.Vessel{}), api.ErrHull)
 }

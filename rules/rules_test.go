@@ -1,4 +1,4 @@
-// Package rules tests the rules of the document that apply to all functions: none panics, none changes its arguments, and results depend on the arguments alone.
+// Package rules tests the rules of the document that apply to all functions: none panics, none changes its arguments, results depend on the arguments alone, and are zero beside an error.
 package rules
 
 import (
@@ -158,6 +158,20 @@ func text(l []reflect.Value) string {
 	return s
 }
 
+// speaking are the functions whose chapters say something else than zero beside an error or false.
+var speaking = []string{"monitor.Run", "network.Accept", "restore.Run", "script.Parse"}
+
+// failed reports whether the last result is an error, or false beside other results.
+func failed(results []reflect.Value) bool {
+	last := results[len(results)-1]
+	return len(results) > 1 && (last.Type() == reflect.TypeFor[api.Errno]() && last.Int() != 0 || last.Kind() == reflect.Bool && !last.Bool())
+}
+
+// zero reports whether a result is zero, or an empty list.
+func zero(v reflect.Value) bool {
+	return v.IsZero() || v.Kind() == reflect.Slice && v.Len() == 0
+}
+
 // try calls a function twice with equal arguments.
 func try(t *testing.T, name string, f reflect.Value, first, second []reflect.Value) {
 	t.Helper()
@@ -167,8 +181,14 @@ func try(t *testing.T, name string, f reflect.Value, first, second []reflect.Val
 			t.Errorf("%s panics: %v with %s", name, x, before)
 		}
 	}()
-	if a, b := text(f.Call(first)), text(f.Call(second)); a != b {
+	results := f.Call(first)
+	if a, b := text(results), text(f.Call(second)); a != b {
 		t.Errorf("%s: %s, and then %s, of %s", name, a, b, before)
+	}
+	for _, r := range results[:len(results)-1] {
+		if failed(results) && !zero(r) && !slices.Contains(speaking, name) {
+			t.Errorf("%s: %s of %s", name, text(results), before)
+		}
 	}
 	if text(first) != before {
 		t.Errorf("%s changes its arguments: %s", name, before)
